@@ -6,6 +6,7 @@ import (
 	"testing"
 
 	"catchbolt/api"
+	"catchbolt/check"
 	"catchbolt/mode"
 )
 
@@ -59,13 +60,6 @@ func eachTriple(f func(a, b, c api.Mode)) {
 			f(a, b, c)
 		}
 	})
-}
-
-// isPlain says whether an error is that one, and neither a fault nor a refusal.
-func isPlain(err error, want api.Errno) bool {
-	var f *api.Fault
-	var r *api.Refusal
-	return errors.Is(err, want) && !errors.As(err, &f) && !errors.As(err, &r)
 }
 
 // leastOf is the least above two modes, which must be there.
@@ -156,7 +150,7 @@ func TestLeastOfPairs(t *testing.T) {
 // leastRefused checks that of a pair there is no least above.
 func leastRefused(t *testing.T, a, b api.Mode) {
 	t.Helper()
-	if m, err := mode.Least(a, b); m != api.None || !isPlain(err, api.ErrArg) {
+	if m, err := mode.Least(a, b); m != api.None || !check.Plain(err, api.ErrArg) {
 		t.Errorf("Least(%d, %d): %d, %v", a, b, m, err)
 	}
 }
@@ -183,7 +177,7 @@ func TestNeedOfRowModes(t *testing.T) {
 
 func TestNeedOfTableModes(t *testing.T) {
 	for _, m := range []api.Mode{api.IS, api.IX} {
-		if n, err := mode.Need(m); n != api.None || !isPlain(err, api.ErrMode) {
+		if n, err := mode.Need(m); n != api.None || !check.Plain(err, api.ErrMode) {
 			t.Errorf("Need(%d): %d, %v", m, n, err)
 		}
 	}
@@ -191,7 +185,7 @@ func TestNeedOfTableModes(t *testing.T) {
 
 func TestNeedOfNoModes(t *testing.T) {
 	for _, m := range wrong {
-		if n, err := mode.Need(m); n != api.None || !isPlain(err, api.ErrArg) {
+		if n, err := mode.Need(m); n != api.None || !check.Plain(err, api.ErrArg) {
 			t.Errorf("Need(%d): %d, %v", m, n, err)
 		}
 	}

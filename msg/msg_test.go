@@ -2,13 +2,13 @@ package msg_test
 
 import (
 	"encoding/hex"
-	"errors"
 	"math"
 	"slices"
 	"strings"
 	"testing"
 
 	"catchbolt/api"
+	"catchbolt/check"
 	"catchbolt/msg"
 )
 
@@ -154,23 +154,6 @@ func ones() []api.Msg {
 	}
 }
 
-// isPlain says whether an error is that one, and neither a fault nor a refusal.
-func isPlain(err error, want api.Errno) bool {
-	var f *api.Fault
-	var r *api.Refusal
-	return isNumber(err, want) && !errors.As(err, &f) && !errors.As(err, &r)
-}
-
-// isNumber says whether an error is that one of all numbers, and no other one.
-func isNumber(err error, want api.Errno) bool {
-	for n := api.OK; n <= api.ErrDone; n++ {
-		if errors.Is(err, n) != (n == want) {
-			return false
-		}
-	}
-	return true
-}
-
 // may checks that a message may be.
 func may(t *testing.T, m api.Msg) {
 	t.Helper()
@@ -182,10 +165,10 @@ func may(t *testing.T, m api.Msg) {
 // mayNot checks that a message may not be, and has no bytes.
 func mayNot(t *testing.T, m api.Msg) {
 	t.Helper()
-	if err := msg.Ok(m); !isPlain(err, api.ErrForm) {
+	if err := msg.Ok(m); !check.Plain(err, api.ErrForm) {
 		t.Errorf("Ok(%+v): %v, not ErrForm", m, err)
 	}
-	if b, err := msg.Encode(m); len(b) != 0 || !isPlain(err, api.ErrForm) {
+	if b, err := msg.Encode(m); len(b) != 0 || !check.Plain(err, api.ErrForm) {
 		t.Errorf("Encode(%+v): %v, %v, not ErrForm", m, b, err)
 	}
 }
@@ -572,7 +555,7 @@ func decode(t *testing.T, b []byte) api.Msg {
 // notDecoded checks that bytes are no message's, for that reason.
 func notDecoded(t *testing.T, b []byte, want api.Errno) {
 	t.Helper()
-	if m, err := msg.Decode(b); m != (api.Msg{}) || !isPlain(err, want) {
+	if m, err := msg.Decode(b); m != (api.Msg{}) || !check.Plain(err, want) {
 		t.Errorf("Decode(%x): %+v, %v, not %v", b, m, err, want)
 	}
 }

@@ -9,6 +9,7 @@ import (
 	"testing"
 
 	"catchbolt/api"
+	"catchbolt/check"
 	"catchbolt/res"
 )
 
@@ -40,28 +41,6 @@ func eachGood(f func(r api.Res)) {
 // mayBe is the document's word of a resource.
 func mayBe(r api.Res) bool { return 1 <= r.Table && r.Table <= 250 && 0 <= r.Row && r.Row <= 250 }
 
-// isPlain says whether an error is that one, and neither a fault nor a refusal.
-func isPlain(err error, want api.Errno) bool {
-	var f *api.Fault
-	var r *api.Refusal
-	return errors.Is(err, want) && !errors.As(err, &f) && !errors.As(err, &r)
-}
-
-// isFormAt says whether an error is a fault at that place, and no refusal, with ErrForm and no other number behind it.
-func isFormAt(err error, at int) bool {
-	var f *api.Fault
-	var r *api.Refusal
-	if !errors.As(err, &f) || f.At != at || errors.As(err, &r) {
-		return false
-	}
-	for n := api.OK; n <= api.ErrDone; n++ {
-		if errors.Is(err, n) != (n == api.ErrForm) {
-			return false
-		}
-	}
-	return true
-}
-
 // textOf is a resource's text, which must be there.
 func textOf(t *testing.T, r api.Res) string {
 	t.Helper()
@@ -83,7 +62,7 @@ func parsed(t *testing.T, s string, want api.Res) {
 // refused checks that a text is none's, with a fault at that place.
 func refused(t *testing.T, s string, at int) {
 	t.Helper()
-	if r, err := res.Parse(s); r != (api.Res{}) || !isFormAt(err, at) {
+	if r, err := res.Parse(s); r != (api.Res{}) || !check.Fault(err, at, api.ErrForm) {
 		t.Errorf("Parse(%q): %v, %v, not a fault at %d", s, r, err, at)
 	}
 }
@@ -143,7 +122,7 @@ func TestTableOfOnesThatMayNotBe(t *testing.T) {
 		if mayBe(r) {
 			return
 		}
-		if g, err := res.Table(r); g != (api.Res{}) || !isPlain(err, api.ErrArg) {
+		if g, err := res.Table(r); g != (api.Res{}) || !check.Plain(err, api.ErrArg) {
 			t.Errorf("Table(%v): %v, %v", r, g, err)
 		}
 	})
@@ -287,7 +266,7 @@ func TestShardOfAllThatMayBe(t *testing.T) {
 // shardRefused checks that a resource has no shard of so many.
 func shardRefused(t *testing.T, r api.Res, n int, want api.Errno) {
 	t.Helper()
-	if s, err := res.Shard(r, n); s != 0 || !isPlain(err, want) {
+	if s, err := res.Shard(r, n); s != 0 || !check.Plain(err, want) {
 		t.Errorf("Shard(%v, %d): %d, %v, not %v", r, n, s, err, want)
 	}
 }
@@ -357,7 +336,7 @@ func TestTextOfOnesThatMayNotBe(t *testing.T) {
 		if mayBe(r) {
 			return
 		}
-		if s, err := res.Text(r); s != "" || !isPlain(err, api.ErrArg) {
+		if s, err := res.Text(r); s != "" || !check.Plain(err, api.ErrArg) {
 			t.Errorf("Text(%v): %q, %v", r, s, err)
 		}
 	})

@@ -7,6 +7,7 @@ import (
 	"testing"
 
 	"catchbolt/api"
+	"catchbolt/check"
 	"catchbolt/word"
 )
 
@@ -25,30 +26,6 @@ var numbers = []int{
 	0, 1, 2, 3, 127, 128, 129, 253, 254, 255, 256, 257, 258, 511, 512, 32767, 32768,
 	65534, 65535, 65536, 65537, 1<<24 - 2, 1<<24 - 1, 1 << 24, 1<<24 + 1,
 	1<<31 - 1, 1 << 31, 1<<31 + 1, 1<<32 - 2, 1<<32 - 1, 1 << 32, 1<<32 + 1, 1<<32 + 258, 1<<40 + 7, 1<<56 + 1, 1 << 62, math.MaxInt64 - 1, math.MaxInt64,
-}
-
-// isPlain says whether an error is that one, and neither a fault nor a refusal.
-func isPlain(err error, want api.Errno) bool {
-	var f *api.Fault
-	var r *api.Refusal
-	return isNumber(err, want) && !errors.As(err, &f) && !errors.As(err, &r)
-}
-
-// isFault says whether an error is a fault at that place, and no refusal, with that number behind it.
-func isFault(err error, at int, want api.Errno) bool {
-	var f *api.Fault
-	var r *api.Refusal
-	return isNumber(err, want) && errors.As(err, &f) && f.At == at && !errors.As(err, &r)
-}
-
-// isNumber says whether an error is that one of all numbers, and no other one.
-func isNumber(err error, want api.Errno) bool {
-	for n := api.OK; n <= api.ErrDone; n++ {
-		if errors.Is(err, n) != (n == want) {
-			return false
-		}
-	}
-	return true
 }
 
 // put checks that numbers may be put, and answers the bytes.
@@ -73,7 +50,7 @@ func putAs(t *testing.T, want, b []byte, width int, l ...int) {
 func notPut(t *testing.T, at, width int, l ...int) {
 	t.Helper()
 	for _, b := range [][]byte{nil, {}, {7}, {1, 2, 3, 4, 5}} {
-		if all, err := word.Put(b, width, l...); len(all) != 0 || !isFault(err, at, api.ErrRange) {
+		if all, err := word.Put(b, width, l...); len(all) != 0 || !check.Fault(err, at, api.ErrRange) {
 			t.Errorf("Put(%v, %d, %v): %v, %v, not a fault at %d", b, width, l, all, err, at)
 		}
 	}
@@ -101,7 +78,7 @@ func takes(t *testing.T, r *word.Reader, width, want int) {
 func takesNone(t *testing.T, r *word.Reader, width int) {
 	t.Helper()
 	at, left := r.At(), r.Left()
-	if n, err := r.Take(width); n != 0 || !isPlain(err, api.ErrArg) {
+	if n, err := r.Take(width); n != 0 || !check.Plain(err, api.ErrArg) {
 		t.Errorf("Take(%d): %d, %v, not ErrArg", width, n, err)
 	}
 	stands(t, r, at, left)
@@ -111,7 +88,7 @@ func takesNone(t *testing.T, r *word.Reader, width int) {
 func takesShort(t *testing.T, r *word.Reader, width, size int) {
 	t.Helper()
 	at, left := r.At(), r.Left()
-	if n, err := r.Take(width); n != 0 || !isFault(err, size, api.ErrShort) {
+	if n, err := r.Take(width); n != 0 || !check.Fault(err, size, api.ErrShort) {
 		t.Errorf("Take(%d) of %d bytes left: %d, %v, not a fault at %d", width, left, n, err, size)
 	}
 	stands(t, r, at, left)
@@ -239,7 +216,7 @@ func TestPutOfWidthsThatMayNotBe(t *testing.T) {
 	for _, width := range wrongWidths {
 		for _, l := range [][]int{nil, {}, {0}, {1, 2}, {-1}, {math.MaxInt64, 0}} { // ErrArg stands ahead of the fault
 			for _, b := range [][]byte{nil, {4}} {
-				if all, err := word.Put(b, width, l...); len(all) != 0 || !isPlain(err, api.ErrArg) {
+				if all, err := word.Put(b, width, l...); len(all) != 0 || !check.Plain(err, api.ErrArg) {
 					t.Errorf("Put(%v, %d, %v): %v, %v, not ErrArg", b, width, l, all, err)
 				}
 			}
@@ -411,7 +388,7 @@ func allAs(t *testing.T, r *word.Reader, widths, want []int) {
 func allNone(t *testing.T, r *word.Reader, widths ...int) {
 	t.Helper()
 	at, left := r.At(), r.Left()
-	if l, err := r.All(widths...); len(l) != 0 || !isPlain(err, api.ErrArg) {
+	if l, err := r.All(widths...); len(l) != 0 || !check.Plain(err, api.ErrArg) {
 		t.Errorf("All(%v): %v, %v, not ErrArg", widths, l, err)
 	}
 	stands(t, r, at, left)
@@ -421,7 +398,7 @@ func allNone(t *testing.T, r *word.Reader, widths ...int) {
 func allShort(t *testing.T, r *word.Reader, size int, widths ...int) {
 	t.Helper()
 	at, left := r.At(), r.Left()
-	if l, err := r.All(widths...); len(l) != 0 || !isFault(err, size, api.ErrShort) {
+	if l, err := r.All(widths...); len(l) != 0 || !check.Fault(err, size, api.ErrShort) {
 		t.Errorf("All(%v) of %d bytes left: %v, %v, not a fault at %d", widths, left, l, err, size)
 	}
 	stands(t, r, at, left)
