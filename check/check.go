@@ -1,4 +1,4 @@
-// Package check tells the tests of all layers which error an answer has.
+// Package check tells the tests of all layers which error an answer has, and has the values that they try.
 package check
 
 import (

@@ -47,3 +47,33 @@ func TestFault(t *testing.T) {
 		}
 	}
 }
+
+// outside says whether a number is none from 1 on to a greatest one.
+func outside(n, most int) bool { return n < 1 || n > most }
+
+// eachOutside checks that all numbers of a list are outside, or that none is.
+func eachOutside(t *testing.T, l []int, most int, want bool) {
+	t.Helper()
+	for _, n := range l {
+		if outside(n, most) != want {
+			t.Errorf("%d of 1 to %d", n, most)
+		}
+	}
+}
+
+// asNumbers are modes as numbers.
+func asNumbers(l []api.Mode) []int {
+	var n []int
+	for _, m := range l {
+		n = append(n, int(m))
+	}
+	return n
+}
+
+func TestValues(t *testing.T) {
+	eachOutside(t, check.WrongLimits(), api.MaxQueue, true)
+	eachOutside(t, check.Numbers(), api.MaxTx, false)
+	eachOutside(t, check.WrongNumbers(), api.MaxTx, true)
+	eachOutside(t, asNumbers(check.Modes()), int(api.X), false)
+	eachOutside(t, asNumbers(check.WrongModes()), int(api.X), true)
+}

@@ -1,0 +1,41 @@
+package check
+
+import (
+	"math"
+
+	"catchbolt/api"
+)
+
+// WrongLimits are those that no line may have; some would be near if they were cut.
+func WrongLimits() []int {
+	return []int{
+		math.MinInt64, math.MinInt64 + 1, math.MinInt64 + 64, -1 << 32, -1<<32 + 7, math.MinInt32, -256, -255, -64, -2, -1,
+		0, 65, 66, 127, 128, 129, 256, 257, 320, 65536, 65537, math.MaxInt32, 1 << 32, 1<<32 + 1, 1<<32 + 64, 1 << 48, math.MaxInt64,
+	}
+}
+
+// Numbers are those around the edges of what a transaction, and a request's number, may be.
+func Numbers() []int {
+	return []int{1, 2, 3, 7, 9, 10, 255, 256, 257, 65535, 65536, 65537, 1<<19 + 1, 1048574, 1048575, 1048576}
+}
+
+// WrongNumbers are those that neither may be; some would be near if they were cut.
+func WrongNumbers() []int {
+	return []int{
+		math.MinInt64, math.MinInt64 + 1, math.MinInt64 + 7, -1 << 62, -1<<32 + 1, -1 << 32, math.MinInt32, -1048577, -1048576, -256, -255, -7, -2, -1,
+		0, 1048577, 1048578, 1048583, 1 << 21, 1<<24 + 7, math.MaxInt32, 1 << 32, 1<<32 + 1, 1<<32 + 7, 1 << 48, 1<<53 + 1, 1 << 62, math.MaxInt64 - 1, math.MaxInt64,
+	}
+}
+
+// Modes are those that one may ask for.
+func Modes() []api.Mode {
+	return []api.Mode{api.IS, api.IX, api.S, api.X}
+}
+
+// WrongModes are numbers that nobody may ask for; some would be modes if they were cut.
+func WrongModes() []api.Mode {
+	return []api.Mode{
+		math.MinInt64, math.MinInt64 + 1, math.MinInt64 + 4, -1<<32 + 1, math.MinInt32, -256, -255, -252, -4, -3, -2, -1,
+		api.None, 5, 6, 7, 8, 127, 128, 255, 256, 257, 260, 65537, 1<<32 + 1, 1<<32 + 4, 1 << 48, math.MaxInt64,
+	}
+}
