@@ -1,4 +1,4 @@
-// Package check tells the tests of all layers which error an answer has, and has the values that they try.
+// Package check tells the tests of all layers which error an answer has, and has the values that they try, and the texts by which they name what is told.
 package check
 
 import (
@@ -16,6 +16,12 @@ func Plain(err error, want api.Errno) bool {
 func Fault(err error, at int, want api.Errno) bool {
 	var f *api.Fault
 	return isNumber(err, want) && errors.As(err, &f) && f.At == at && !isRefusal(err)
+}
+
+// Refusal says whether an error is a refusal of that resource to that transaction, and no fault, with that one behind it.
+func Refusal(err error, tx int, at api.Res, want api.Errno) bool {
+	var r *api.Refusal
+	return isNumber(err, want) && errors.As(err, &r) && r.Tx == tx && r.At == at && !isFault(err)
 }
 
 // isNumber says whether an error is that one of all numbers, and no other one.

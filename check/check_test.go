@@ -2,10 +2,12 @@ package check_test
 
 import (
 	"errors"
+	"slices"
 	"testing"
 
 	"catchbolt/api"
 	"catchbolt/check"
+	"catchbolt/res"
 )
 
 // fault and refusal wrap an error.
@@ -48,6 +50,23 @@ func TestFault(t *testing.T) {
 	}
 }
 
+func TestRefusal(t *testing.T) {
+	at := api.Res{Table: 3, Row: 14}
+	refused := func(tx int, at api.Res, err error) error { return &api.Refusal{Tx: tx, At: at, Err: err} }
+	if !check.Refusal(refused(7, at, api.ErrForm), 7, at, api.ErrForm) {
+		t.Error("no refusal")
+	}
+	for _, err := range append(others(), api.ErrForm, fault(3, api.ErrForm),
+		refused(8, at, api.ErrForm), refused(7, api.Res{Table: 3}, api.ErrForm), refused(7, api.Res{Table: 14, Row: 3}, api.ErrForm),
+		refused(7, at, api.ErrFull), refused(7, at, api.OK), refused(7, at, fault(3, api.ErrForm)), fault(3, refused(7, at, api.ErrForm)),
+		errors.Join(refused(7, at, api.ErrForm), api.ErrFull),
+	) {
+		if check.Refusal(err, 7, at, api.ErrForm) {
+			t.Errorf("Refusal of %v", err)
+		}
+	}
+}
+
 // outside says whether a number is none from 1 on to a greatest one.
 func outside(n, most int) bool { return n < 1 || n > most }
 
@@ -70,10 +89,57 @@ func asNumbers(l []api.Mode) []int {
 	return n
 }
 
+// same checks a text.
+func same(t *testing.T, got, want string) {
+	t.Helper()
+	if got != want {
+		t.Errorf("%q, want %q", got, want)
+	}
+}
+
+func TestTexts(t *testing.T) {
+	same(t, check.Held(nil)+check.Queued(nil)+check.Edged(nil)+check.Granted(nil), "")
+	same(t, check.Held([]api.Hold{{Tx: 1, Mode: api.S}, {Tx: 2, Mode: api.IX}, {Mode: 5}, {Tx: -1, Mode: -1}}), "1S 2IX 0?5 -1?-1")
+	same(t, check.Queued([]api.Wait{{Tx: 1, Seq: 101, Mode: api.X, Up: true}, {Tx: 3, Seq: 103, Mode: api.IS}, {Tx: 4}}), "1.101X^ 3.103IS 4None")
+	same(t, check.Edged([]api.Edge{{From: 1, Seq: 101, To: 2}, {From: 3, Seq: 103, To: 1, ToSeq: 101}}), "1.101>2 3.103>1.101")
+	same(t, check.Granted([]api.Grant{{Tx: 1, Seq: 101, At: api.Res{Table: 3}, Mode: api.IX}, {Tx: 1, At: api.Res{Table: 3, Row: 14}, Mode: api.X}}), "3:1.101IX 3.14:1X")
+}
+
+func TestSpoil(t *testing.T) {
+	room := []int{1, 2, 3, 4, 5}
+	check.Spoil(room[1:2:4], 9)
+	if !slices.Equal(room, []int{1, 9, 9, 9, 5}) {
+		t.Error(room)
+	}
+	check.Spoil(nil, 9)
+}
+
+// stopped is a test that failed or not, and what was done to it.
+type stopped struct{ failed, ended bool }
+
+func (s *stopped) Helper()      {}
+func (s *stopped) Failed() bool { return s.failed }
+func (s *stopped) FailNow()     { s.ended = true }
+
+func TestStop(t *testing.T) {
+	for _, failed := range []bool{false, true} {
+		s := &stopped{failed: failed}
+		check.Stop(s)
+		if s.ended != failed {
+			t.Errorf("failed: %v, ended: %v", failed, s.ended)
+		}
+	}
+}
+
 func TestValues(t *testing.T) {
 	eachOutside(t, check.WrongLimits(), api.MaxQueue, true)
 	eachOutside(t, check.Numbers(), api.MaxTx, false)
 	eachOutside(t, check.WrongNumbers(), api.MaxTx, true)
 	eachOutside(t, asNumbers(check.Modes()), int(api.X), false)
 	eachOutside(t, asNumbers(check.WrongModes()), int(api.X), true)
+	for _, r := range check.WrongResources() {
+		if res.Ok(r) {
+			t.Errorf("%v may be", r)
+		}
+	}
 }

@@ -39,3 +39,15 @@ func WrongModes() []api.Mode {
 		api.None, 5, 6, 7, 8, 127, 128, 255, 256, 257, 260, 65537, 1<<32 + 1, 1<<32 + 4, 1 << 48, math.MaxInt64,
 	}
 }
+
+// WrongResources are those that may not be; some would be near if a number of theirs were cut.
+func WrongResources() []api.Res {
+	all := []api.Res{{}, {Table: 251, Row: 251}, {Table: -1, Row: -1}, {Table: math.MaxInt64, Row: math.MaxInt64}}
+	for _, n := range []int{
+		math.MinInt64, math.MinInt64 + 3, -1<<32 + 3, math.MinInt32, -253, -250, -3, -2, -1,
+		251, 252, 255, 256, 257, 259, 506, 65536, 65539, math.MaxInt32, 1 << 32, 1<<32 + 3, 1 << 48, 1 << 62, math.MaxInt64,
+	} {
+		all = append(all, api.Res{Table: n}, api.Res{Table: n, Row: 1}, api.Res{Table: 3, Row: n}, api.Res{Table: 250, Row: n})
+	}
+	return append(all, api.Res{Row: 1}, api.Res{Row: 250})
+}

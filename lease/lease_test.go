@@ -374,19 +374,11 @@ func TestTellingTakesNothing(t *testing.T) {
 	}
 }
 
-// spoil changes all numbers of a list, and what is behind it in its room.
-func spoil(l []int) {
-	l = l[:cap(l)]
-	for i := range l {
-		l[i] = -1
-	}
-}
-
 func TestWhatIsToldIsNewMemory(t *testing.T) {
 	l := renewed(t, 3, 10, ids...)
 	wasDue, wereAll := l.Due(13), l.All()
-	spoil(l.Due(13))
-	spoil(l.All())
+	check.Spoil(l.Due(13), -1)
+	check.Spoil(l.All(), -1)
 	_ = append(l.Due(13)[:2], -1)
 	_ = append(l.All()[:2], -1)
 	due(t, l, 13, rising(ids)...)

@@ -19,6 +19,9 @@ var (
 	wrongModes   = check.WrongModes()
 )
 
+// wrongOne is one that may not be, by which tests spoil lists.
+var wrongOne = api.Wait{Tx: -1, Seq: -1, Mode: -1}
+
 // plain is one that has no lock; what it waits for hangs on its number alone, and is another one than its neighbours'.
 func plain(tx int) api.Wait {
 	return api.Wait{Tx: tx, Seq: 1 + tx*7%1048576, Mode: modes[tx%4]}
@@ -157,14 +160,6 @@ func waiting(t *testing.T, l *line.Line, want ...api.Wait) {
 	}
 }
 
-// stopIfFailed ends a test that failed, as the thousands of cases behind it would tell the same.
-func stopIfFailed(t *testing.T) {
-	t.Helper()
-	if t.Failed() {
-		t.FailNow()
-	}
-}
-
 // without are all of a list but the one at a place.
 func without(l []api.Wait, place int) []api.Wait {
 	return slices.Concat(l[:place], l[place+1:])
@@ -214,7 +209,7 @@ func TestPushOfOnesThatMayNotBe(t *testing.T) {
 		for _, other := range append(slices.Clone(numbers), wrongNumbers...) {
 			refused(api.Wait{Tx: n, Seq: other, Mode: api.S})
 			refused(api.Wait{Tx: other, Seq: n, Mode: api.S})
-			stopIfFailed(t)
+			check.Stop(t)
 		}
 	}
 	for _, m := range wrongModes {
@@ -262,7 +257,7 @@ func TestPushOfOneMoreThanTheLimit(t *testing.T) {
 			pushesNone(t, l, plain(0), api.ErrArg)
 			hasNone(t, l, limit+1, api.ErrNone)
 			waiting(t, l, all...)
-			stopIfFailed(t)
+			check.Stop(t)
 		}
 	}
 }
@@ -293,7 +288,7 @@ func TestPushIsTheLastOfItsLot(t *testing.T) {
 			plains = append(plains, plain(tx))
 		}
 		waiting(t, l, slices.Concat(ups, plains)...)
-		stopIfFailed(t)
+		check.Stop(t)
 	}
 }
 
@@ -324,7 +319,7 @@ func TestPopOfAll(t *testing.T) {
 			pops(t, l, w)
 			hasNone(t, l, w.Tx, api.ErrNone)
 			waiting(t, l, all[i+1:]...)
-			stopIfFailed(t)
+			check.Stop(t)
 		}
 		for range 3 {
 			popsNone(t, l, api.ErrNone)
@@ -340,7 +335,7 @@ func TestLeaveOfEach(t *testing.T) {
 			leaves(t, l, w)
 			hasNone(t, l, w.Tx, api.ErrNone)
 			waiting(t, l, without(all, i)...)
-			stopIfFailed(t)
+			check.Stop(t)
 		}
 	}
 }
@@ -352,7 +347,7 @@ func TestLeaveOfAllFromBehind(t *testing.T) {
 		for i, w := range slices.Backward(all) {
 			leaves(t, l, w)
 			waiting(t, l, all[:i]...)
-			stopIfFailed(t)
+			check.Stop(t)
 		}
 		popsNone(t, l, api.ErrNone)
 	}
@@ -414,14 +409,6 @@ func TestTellingChangesNothing(t *testing.T) {
 	}
 }
 
-// spoil changes all of a list, and what is behind it in its room.
-func spoil(l []api.Wait) {
-	l = l[:cap(l)]
-	for i := range l {
-		l[i] = api.Wait{Tx: -1, Seq: -1, Mode: -1}
-	}
-}
-
 func TestWhatIsToldIsNewMemory(t *testing.T) {
 	for _, many := range lots {
 		all := mixed(many[0], many[1])
@@ -429,8 +416,8 @@ func TestWhatIsToldIsNewMemory(t *testing.T) {
 		l := pushed(t, 64, all...)
 		told, before := l.All(), l.Ahead(last)
 		for _, w := range all {
-			spoil(l.All())
-			spoil(l.Ahead(w.Tx))
+			check.Spoil(l.All(), wrongOne)
+			check.Spoil(l.Ahead(w.Tx), wrongOne)
 			_ = append(l.All()[:1], api.Wait{})
 			_ = append(l.Ahead(w.Tx), api.Wait{})
 		}
@@ -487,7 +474,7 @@ func TestNilLine(t *testing.T) {
 		for _, m := range append(slices.Clone(wrongModes), modes...) {
 			pushesNone(t, l, api.Wait{Tx: tx, Seq: 1, Mode: m}, api.ErrArg)
 			pushesNone(t, l, api.Wait{Tx: 1, Seq: tx, Mode: m, Up: true}, api.ErrArg)
-			stopIfFailed(t)
+			check.Stop(t)
 		}
 		hasNone(t, l, tx, api.ErrArg)
 	}
@@ -621,7 +608,7 @@ func TestScriptsAgainstABook(t *testing.T) {
 				by = by*6364136223846793005 + 1442695040888963407
 				b.step(t, l, by>>33, txs)
 			}
-			stopIfFailed(t)
+			check.Stop(t)
 		}
 	}
 }
@@ -646,7 +633,7 @@ func TestEachShortScript(t *testing.T) {
 				b.step(t, l, all[script%len(all)], 3)
 				script /= len(all)
 			}
-			stopIfFailed(t)
+			check.Stop(t)
 		}
 	}
 }

@@ -506,18 +506,13 @@ func TestTakeBehindAllElse(t *testing.T) {
 	has(t, n)
 }
 
-// spoil changes all messages of a list, and what is behind it in its room.
-func spoil(l []api.Msg) {
-	l = l[:cap(l)]
-	for i := range l {
-		l[i].Kind, l[i].Tx, l[i].Path[0].Tx = 99, -1, 77
-	}
-}
+// wrongOne is a message that may not be, by which tests spoil lists.
+var wrongOne = api.Msg{Kind: 99, Tx: -1, Path: [api.MaxPath]api.Step{{Tx: 77}}}
 
 func TestWhatIsToldIsTheNetsOwnNoMore(t *testing.T) {
 	l := append(some(5), probe())
 	n := sent(t, 20, l...)
-	spoil(n.All())
+	check.Spoil(n.All(), wrongOne)
 	has(t, n, l...)
 	_ = append(n.All(), one(9))
 	_ = append(n.All()[:2], one(9))
@@ -526,12 +521,12 @@ func TestWhatIsToldIsTheNetsOwnNoMore(t *testing.T) {
 	for _, m := range l {
 		sends(t, n, m)
 	}
-	spoil(taken)
+	check.Spoil(taken, wrongOne)
 	has(t, n, l...)
 	m, _ := n.Deliver(5)
 	m.Path[3].Tx = 7
 	doubles(t, n, 4)
-	spoil(n.All())
+	check.Spoil(n.All(), wrongOne)
 	has(t, n, l[0], l[1], l[2], l[3], l[4], l[4])
 }
 
@@ -539,7 +534,7 @@ func TestWhatWasToldStaysAsItWas(t *testing.T) {
 	l := some(6)
 	n := sent(t, 9, l[:5]...)
 	first, second := n.All(), n.All()
-	spoil(second)
+	check.Spoil(second, wrongOne)
 	delivers(t, n, 0, l[0])
 	drops(t, n, 2)
 	doubles(t, n, 0)
@@ -680,11 +675,11 @@ func (b *book) step(t *testing.T, n *net.Net, by uint64) {
 		if len(l) != n.Len() {
 			t.Fatalf("%d of %d", len(l), n.Len())
 		}
-		spoil(l)
+		check.Spoil(l, wrongOne)
 	default:
 		if by>>40%8 == 0 {
 			b.way = nil
-			spoil(n.Take())
+			check.Spoil(n.Take(), wrongOne)
 		}
 	}
 }

@@ -126,7 +126,7 @@ func (b *book) more(tx int, m api.Mode) int {
 
 // of is all that a book tells, as a text, of transactions up to that one.
 func (b *book) of(txs int) string {
-	return held(b.holders) + " | " + queued(b.waiting) + " | " + edged(b.edges(txs))
+	return check.Held(b.holders) + " | " + check.Queued(b.waiting) + " | " + check.Edged(b.edges(txs))
 }
 
 // same checks that a spot and a book tell the same, of transactions up to that one, and that it is as the document says that spots are.
@@ -180,12 +180,12 @@ func (b *book) do(t *testing.T, s *spot.Spot, d move) {
 	if d.m != api.None {
 		granted, want := b.ask(d.tx, d.seq, d.m)
 		if got, err := s.Ask(d.tx, d.seq, d.m); got != granted || want == api.OK && err != nil || want != api.OK && !check.Plain(err, want) {
-			t.Errorf("Ask(%d, %d, %s) = %v, %v, want %v, %v, now %s", d.tx, d.seq, named(d.m), got, err, granted, want, of(s))
+			t.Errorf("Ask(%d, %d, %s) = %v, %v, want %v, %v, now %s", d.tx, d.seq, check.Mode(d.m), got, err, granted, want, of(s))
 		}
 		return
 	}
 	if granted, ok := b.free(d.tx); ok {
-		frees(t, s, d.tx, queued(granted))
+		frees(t, s, d.tx, check.Queued(granted))
 	} else {
 		freesNone(t, s, d.tx, api.ErrNone)
 	}
@@ -250,7 +250,7 @@ func TestEachMoveFromEachState(t *testing.T) {
 				b, s := played(t, limit, moves)
 				b.do(t, s, d)
 				b.same(t, s, txs+1)
-				stopIfFailed(t)
+				check.Stop(t)
 			}
 		})
 		t.Logf("%d states of %d transactions, by a line for %d", states, txs, limit)
@@ -270,7 +270,7 @@ func TestScriptsAgainstABook(t *testing.T) {
 				}
 				b.do(t, s, d)
 				b.same(t, s, txs+1)
-				stopIfFailed(t)
+				check.Stop(t)
 			}
 		}
 	}
@@ -303,7 +303,7 @@ func TestFreedOfAllInEachOrder(t *testing.T) {
 				s.Free(tx)
 			}
 			emptied(t, s, 3, 3)
-			stopIfFailed(t)
+			check.Stop(t)
 		}
 	})
 }

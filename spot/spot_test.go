@@ -2,8 +2,6 @@ package spot_test
 
 import (
 	"slices"
-	"strconv"
-	"strings"
 	"testing"
 
 	"catchbolt/api"
@@ -20,58 +18,6 @@ var (
 	modes        = check.Modes()
 	wrongModes   = check.WrongModes()
 )
-
-// held, queued and edged are the texts by which tests name what is told: holders "1S 2IX", waiting ones "1.101X^ 3.103IS" (number and request, ^ of one that has a lock), edges "1.101>2 3.103>1.101".
-func held(l []api.Hold) string {
-	return joined(l, func(h api.Hold) string { return strconv.Itoa(h.Tx) + named(h.Mode) })
-}
-
-func queued(l []api.Wait) string {
-	return joined(l, func(w api.Wait) string {
-		text := step(w.Tx, w.Seq) + named(w.Mode)
-		if w.Up {
-			text += "^"
-		}
-		return text
-	})
-}
-
-func edged(l []api.Edge) string {
-	return joined(l, func(e api.Edge) string { return step(e.From, e.Seq) + ">" + step(e.To, e.ToSeq) })
-}
-
-// joined are the texts of all, with a space between.
-func joined[E any](l []E, text func(E) string) string {
-	var texts []string
-	for _, e := range l {
-		texts = append(texts, text(e))
-	}
-	return strings.Join(texts, " ")
-}
-
-// named is a mode's name.
-func named(m api.Mode) string {
-	if !mode.Ok(m) {
-		return "?" + strconv.Itoa(int(m))
-	}
-	return []string{"None", "IS", "IX", "S", "X"}[m]
-}
-
-// step is a transaction with its request's number, if it has one.
-func step(tx, seq int) string {
-	if seq == 0 {
-		return strconv.Itoa(tx)
-	}
-	return strconv.Itoa(tx) + "." + strconv.Itoa(seq)
-}
-
-// stopIfFailed ends a test that failed, as the thousands of cases behind it would tell the same.
-func stopIfFailed(t *testing.T) {
-	t.Helper()
-	if t.Failed() {
-		t.FailNow()
-	}
-}
 
 // nobody is a spot that nobody has.
 func nobody(t *testing.T, limit int) *spot.Spot {
@@ -90,7 +36,7 @@ func number(tx int) int { return 100 + tx%1000000 }
 func asks(t *testing.T, s *spot.Spot, tx int, m api.Mode, want bool) {
 	t.Helper()
 	if got, err := s.Ask(tx, number(tx), m); got != want || err != nil {
-		t.Errorf("Ask(%d, %s) = %v, %v, want %v, of %s", tx, named(m), got, err, want, of(s))
+		t.Errorf("Ask(%d, %s) = %v, %v, want %v, of %s", tx, check.Mode(m), got, err, want, of(s))
 	}
 }
 
@@ -121,11 +67,11 @@ func refuses(t *testing.T, s *spot.Spot, tx, seq int, m api.Mode, want api.Errno
 func frees(t *testing.T, s *spot.Spot, tx int, want string) {
 	t.Helper()
 	before := of(s)
-	if got, err := s.Free(tx); queued(got) != want || err != nil {
-		t.Errorf("Free(%d) = %s, %v, want %s, of %s", tx, queued(got), err, want, before)
+	if got, err := s.Free(tx); check.Queued(got) != want || err != nil {
+		t.Errorf("Free(%d) = %s, %v, want %s, of %s", tx, check.Queued(got), err, want, before)
 	}
 	if m := s.Mode(tx); m != api.None {
-		t.Errorf("%d is freed, and has %s", tx, named(m))
+		t.Errorf("%d is freed, and has %s", tx, check.Mode(m))
 	}
 }
 
@@ -134,7 +80,7 @@ func freesNone(t *testing.T, s *spot.Spot, tx int, want api.Errno) {
 	t.Helper()
 	before := of(s)
 	if got, err := s.Free(tx); len(got) != 0 || !check.Plain(err, want) {
-		t.Errorf("Free(%d) = %s, %v, want %v, of %s", tx, queued(got), err, want, before)
+		t.Errorf("Free(%d) = %s, %v, want %v, of %s", tx, check.Queued(got), err, want, before)
 	}
 	if now := of(s); now != before {
 		t.Errorf("Free(%d) was refused, and changed %s to %s", tx, before, now)
@@ -143,7 +89,7 @@ func freesNone(t *testing.T, s *spot.Spot, tx int, want api.Errno) {
 
 // of is all that a spot tells, as a text.
 func of(s *spot.Spot) string {
-	return held(s.Holders()) + " | " + queued(s.Waiting()) + " | " + edged(s.Edges())
+	return check.Held(s.Holders()) + " | " + check.Queued(s.Waiting()) + " | " + check.Edged(s.Edges())
 }
 
 // tells checks all that a spot tells, as a text.
@@ -182,7 +128,7 @@ func TestNewOfLimits(t *testing.T) {
 			waits(t, s, tx, api.IS)
 		}
 		refuses(t, s, limit+1, 1, api.IS, api.ErrLong)
-		stopIfFailed(t)
+		check.Stop(t)
 	}
 	for _, limit := range wrongLimits {
 		if s, err := spot.New(limit); s != nil || !check.Plain(err, api.ErrRange) {
@@ -199,16 +145,16 @@ func TestAskOfEachThatMayBe(t *testing.T) {
 				if got, err := s.Ask(tx, seq, m); !got || err != nil {
 					t.Errorf("Ask(%d, %d, %d) = %v, %v", tx, seq, m, got, err)
 				}
-				tells(t, s, step(tx, 0)+named(m)+" |  | ")
+				tells(t, s, check.Step(tx, 0)+check.Mode(m)+" |  | ")
 				has(t, s, tx, m)
 				s = nobody(t, 1)
 				grants(t, s, 8, api.X)
 				if got, err := s.Ask(tx, seq, m); got || err != nil {
 					t.Errorf("Ask(%d, %d, %d) = %v, %v, behind X", tx, seq, m, got, err)
 				}
-				tells(t, s, "8X | "+step(tx, seq)+named(m)+" | "+step(tx, seq)+">8")
+				tells(t, s, "8X | "+check.Step(tx, seq)+check.Mode(m)+" | "+check.Step(tx, seq)+">8")
 				has(t, s, tx, api.None)
-				stopIfFailed(t)
+				check.Stop(t)
 			}
 		}
 	}
@@ -245,7 +191,7 @@ func TestAskOfOnesThatMayNotBe(t *testing.T) {
 				}
 				more(t, s, n, m, 0)
 			}
-			stopIfFailed(t)
+			check.Stop(t)
 		}
 		for _, m := range wrongModes {
 			for _, n := range append(slices.Clone(numbers), 0, -1, 1048577) {
@@ -253,7 +199,7 @@ func TestAskOfOnesThatMayNotBe(t *testing.T) {
 				refuses(t, s, 1, n, m, api.ErrArg)
 				more(t, s, n, m, 0)
 			}
-			stopIfFailed(t)
+			check.Stop(t)
 		}
 	}
 }
@@ -286,14 +232,14 @@ func TestAskOfWhatItHas(t *testing.T) {
 			s := nobody(t, 2)
 			grants(t, s, 7, has)
 			grants(t, s, 7, m)
-			tells(t, s, "7"+named(has)+" |  | ")
+			tells(t, s, "7"+check.Mode(has)+" |  | ")
 			waits(t, s, 8, api.X)
 			waits(t, s, 9, api.X)
 			before := of(s)
 			more(t, s, 7, m, 0)
 			grants(t, s, 7, m) // though others wait, and the line is full
 			if now := of(s); now != before {
-				t.Errorf("%s was asked by who has %s, and changed %s to %s", named(m), named(has), before, now)
+				t.Errorf("%s was asked by who has %s, and changed %s to %s", check.Mode(m), check.Mode(has), before, now)
 			}
 		}
 	}
@@ -320,7 +266,7 @@ func TestAskOfWhoHasItAlone(t *testing.T) {
 		grants(t, s, 7, first)
 		more(t, s, 7, then, 0)
 		grants(t, s, 7, then)
-		tells(t, s, "7"+named(least(first, then))+" |  | ")
+		tells(t, s, "7"+check.Mode(least(first, then))+" |  | ")
 		has(t, s, 7, least(first, then))
 		waits(t, s, 8, api.X)
 		frees(t, s, 7, "8.108X")
@@ -334,11 +280,11 @@ func TestAskOfWhoHasNone(t *testing.T) {
 		more(t, s, 8, m, 1)
 		if mode.Together(has, m) {
 			grants(t, s, 8, m)
-			tells(t, s, "9"+named(has)+" 8"+named(m)+" |  | ")
+			tells(t, s, "9"+check.Mode(has)+" 8"+check.Mode(m)+" |  | ")
 			return
 		}
 		waits(t, s, 8, m)
-		tells(t, s, "9"+named(has)+" | 8.108"+named(m)+" | 8.108>9")
+		tells(t, s, "9"+check.Mode(has)+" | 8.108"+check.Mode(m)+" | 8.108>9")
 	})
 }
 
@@ -353,7 +299,7 @@ func TestAskOfWhoHasNoneWhereOthersWait(t *testing.T) {
 		if !mode.Together(first, m) {
 			edges += " 8.108>9"
 		}
-		tells(t, s, "9"+named(first)+" | 3.103X 8.108"+named(m)+" | "+edges)
+		tells(t, s, "9"+check.Mode(first)+" | 3.103X 8.108"+check.Mode(m)+" | "+edges)
 	})
 }
 
@@ -373,13 +319,13 @@ func two(t *testing.T, limit int, first, then api.Mode, waiting int) *spot.Spot 
 func goesUp(t *testing.T, s *spot.Spot, first, then, m api.Mode, full bool) {
 	t.Helper()
 	aim, others := least(first, m), s.Waiting()
-	before, beside := "4"+named(first), " 6"+named(then)
+	before, beside := "4"+check.Mode(first), " 6"+check.Mode(then)
 	switch {
 	case mode.Together(aim, then):
 		more(t, s, 4, m, 0)
 		grants(t, s, 4, m)
 		has(t, s, 4, aim)
-		before = "4" + named(aim)
+		before = "4" + check.Mode(aim)
 	case full:
 		more(t, s, 4, m, 1)
 		refuses(t, s, 4, 104, m, api.ErrLong)
@@ -390,11 +336,11 @@ func goesUp(t *testing.T, s *spot.Spot, first, then, m api.Mode, full bool) {
 		has(t, s, 4, first)
 		others = append([]api.Wait{{Tx: 4, Seq: 104, Mode: aim, Up: true}}, others...)
 	}
-	if got := held(s.Holders()); got != before+beside {
-		t.Errorf("4 had %s, 6 %s, 4 asked %s: %s hold it", named(first), named(then), named(m), got)
+	if got := check.Held(s.Holders()); got != before+beside {
+		t.Errorf("4 had %s, 6 %s, 4 asked %s: %s hold it", check.Mode(first), check.Mode(then), check.Mode(m), got)
 	}
 	if got := s.Waiting(); !slices.Equal(got, others) {
-		t.Errorf("4 had %s, 6 %s, 4 asked %s: %s wait", named(first), named(then), named(m), queued(got))
+		t.Errorf("4 had %s, 6 %s, 4 asked %s: %s wait", check.Mode(first), check.Mode(then), check.Mode(m), check.Queued(got))
 	}
 }
 
@@ -441,7 +387,7 @@ func TestAskOfAFullLine(t *testing.T) {
 		tells(t, s, before)
 		grants(t, s, 65, api.S)
 		has(t, s, 65, api.S)
-		stopIfFailed(t)
+		check.Stop(t)
 	}
 }
 
@@ -480,7 +426,7 @@ func TestHoldersAreInTheOrderInWhichTheyCame(t *testing.T) {
 		grants(t, s, h.Tx, h.Mode)
 	}
 	if got := s.Holders(); !slices.Equal(got, want) {
-		t.Errorf("%s hold it, want %s", held(got), held(want))
+		t.Errorf("%s hold it, want %s", check.Held(got), check.Held(want))
 	}
 }
 
@@ -586,12 +532,12 @@ func TestFreeMovesUpOneThatHasALock(t *testing.T) {
 			waits(t, s, 4, m)
 			waits(t, s, 5, behind)
 			if !mode.Together(aim, behind) {
-				frees(t, s, 6, "4.104"+named(aim)+"^")
-				tells(t, s, "4"+named(aim)+" | 5.105"+named(behind)+" | 5.105>4")
+				frees(t, s, 6, "4.104"+check.Mode(aim)+"^")
+				tells(t, s, "4"+check.Mode(aim)+" | 5.105"+check.Mode(behind)+" | 5.105>4")
 				return
 			}
-			frees(t, s, 6, "4.104"+named(aim)+"^ 5.105"+named(behind))
-			tells(t, s, "4"+named(aim)+" 5"+named(behind)+" |  | ")
+			frees(t, s, 6, "4.104"+check.Mode(aim)+"^ 5.105"+check.Mode(behind))
+			tells(t, s, "4"+check.Mode(aim)+" 5"+check.Mode(behind)+" |  | ")
 		})
 	})
 }
@@ -689,14 +635,6 @@ func TestTellingChangesNothing(t *testing.T) {
 	}
 }
 
-// spoil changes all of a list, and what is behind it in its room.
-func spoil[E any](l []E, wrong E) {
-	l = l[:cap(l)]
-	for i := range l {
-		l[i] = wrong
-	}
-}
-
 func TestWhatIsToldIsNewMemory(t *testing.T) {
 	s := nobody(t, 64)
 	for tx := 1; tx <= 9; tx++ {
@@ -708,25 +646,25 @@ func TestWhatIsToldIsNewMemory(t *testing.T) {
 		holders, waiting, edges, before := s.Holders(), s.Waiting(), s.Edges(), of(s)
 		_, _, _ = append(holders, api.Hold{}), append(waiting, api.Wait{}), append(edges, api.Edge{})
 		tells(t, s, before)
-		spoil(holders, api.Hold{Tx: -1, Mode: -1})
-		spoil(waiting, api.Wait{Tx: -1, Seq: -1, Mode: -1})
-		spoil(edges, api.Edge{From: -1, Seq: -1, To: -1, ToSeq: -1})
+		check.Spoil(holders, api.Hold{Tx: -1, Mode: -1})
+		check.Spoil(waiting, api.Wait{Tx: -1, Seq: -1, Mode: -1})
+		check.Spoil(edges, api.Edge{From: -1, Seq: -1, To: -1, ToSeq: -1})
 		tells(t, s, before)
 	}
 	before := of(s)
 	holders, waiting, edges := s.Holders(), s.Waiting(), s.Edges()
 	granted, err := s.Free(9)
-	if queued(granted) != queued(waiting) || err != nil {
-		t.Errorf("Free(9) = %s, %v", queued(granted), err)
+	if check.Queued(granted) != check.Queued(waiting) || err != nil {
+		t.Errorf("Free(9) = %s, %v", check.Queued(granted), err)
 	}
-	spoil(granted, api.Wait{Tx: -1, Seq: -1, Mode: -1})
+	check.Spoil(granted, api.Wait{Tx: -1, Seq: -1, Mode: -1})
 	tells(t, s, "1IS 2IX 3IS 4IX 5IS 6IX 7IS 8IX 10IX |  | ")
 	for tx := 1; tx <= 20; tx++ {
 		s.Ask(tx, 1, api.X)
 		s.Free(tx - 3)
 	}
-	if held(holders)+" | "+queued(waiting)+" | "+edged(edges) != before {
-		t.Errorf("what was told is %s | %s | %s now, want %s", held(holders), queued(waiting), edged(edges), before)
+	if check.Held(holders)+" | "+check.Queued(waiting)+" | "+check.Edged(edges) != before {
+		t.Errorf("what was told is %s | %s | %s now, want %s", check.Held(holders), check.Queued(waiting), check.Edged(edges), before)
 	}
 }
 
@@ -757,7 +695,7 @@ func TestNilSpot(t *testing.T) {
 		}
 		freesNone(t, s, tx, api.ErrArg)
 		has(t, s, tx, api.None)
-		stopIfFailed(t)
+		check.Stop(t)
 	}
 	tells(t, s, " |  | ")
 }

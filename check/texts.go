@@ -1,0 +1,67 @@
+package check
+
+import (
+	"strconv"
+	"strings"
+
+	"catchbolt/api"
+)
+
+// By these texts tests name what is told.
+
+// Held is the text of holders: "1S 2IX".
+func Held(l []api.Hold) string {
+	return joined(l, func(h api.Hold) string { return Step(h.Tx, 0) + Mode(h.Mode) })
+}
+
+// Queued is the text of waiting ones: "1.101X^ 3.103IS", each with its request's number, and ^ of one that has a lock.
+func Queued(l []api.Wait) string {
+	return joined(l, func(w api.Wait) string {
+		text := Step(w.Tx, w.Seq) + Mode(w.Mode)
+		if w.Up {
+			text += "^"
+		}
+		return text
+	})
+}
+
+// Edged is the text of edges: "1.101>2 3.103>1.101".
+func Edged(l []api.Edge) string {
+	return joined(l, func(e api.Edge) string { return Step(e.From, e.Seq) + ">" + Step(e.To, e.ToSeq) })
+}
+
+// Granted is the text of locks: "3:1.101IX 3.14:1X".
+func Granted(l []api.Grant) string {
+	return joined(l, func(g api.Grant) string { return Res(g.At) + ":" + Step(g.Tx, g.Seq) + Mode(g.Mode) })
+}
+
+// joined are the texts of all, with a space between.
+func joined[E any](l []E, text func(E) string) string {
+	var texts []string
+	for _, e := range l {
+		texts = append(texts, text(e))
+	}
+	return strings.Join(texts, " ")
+}
+
+// Mode is a mode's name.
+func Mode(m api.Mode) string {
+	if m < api.None || m > api.X {
+		return "?" + strconv.Itoa(int(m))
+	}
+	return []string{"None", "IS", "IX", "S", "X"}[m]
+}
+
+// Res is a resource's text, or what is like it of one that may not be.
+func Res(r api.Res) string { return dotted(r.Table, r.Row) }
+
+// Step is the text of a transaction with its request's number, if it has one.
+func Step(tx, seq int) string { return dotted(tx, seq) }
+
+// dotted are two numbers with a dot between, or the first one alone, if the other one is 0.
+func dotted(first, then int) string {
+	if then == 0 {
+		return strconv.Itoa(first)
+	}
+	return strconv.Itoa(first) + "." + strconv.Itoa(then)
+}
