@@ -105,6 +105,70 @@ func TestTexts(t *testing.T) {
 	same(t, check.Granted([]api.Grant{{Tx: 1, Seq: 101, At: api.Res{Table: 3}, Mode: api.IX}, {Tx: 1, At: api.Res{Table: 3, Row: 14}, Mode: api.X}}), "3:1.101IX 3.14:1X")
 }
 
+func TestEdges(t *testing.T) {
+	same(t, check.Edged(check.Edges())+check.Edged(check.Row())+check.Edged(check.Row(7)), "")
+	same(t, check.Edged(check.Edges(1, 2, 3, -1)), "1.1000>2 3.998>-1.2")
+	same(t, check.Edged(check.Row(5, 1, 5, 5)), "5.1000>1 1.1000>5 5.1000>5")
+	for _, l := range [][]int{check.UpTo(-1, 2), check.Ends(check.Edges(2, 0, 0, 1, -1, -1))} {
+		if !slices.Equal(l, []int{-1, 0, 1, 2}) {
+			t.Error(l)
+		}
+	}
+	if l := slices.Concat(check.UpTo(3, 2), check.Ends(nil)); len(l) != 0 {
+		t.Error(l)
+	}
+}
+
+func TestMix(t *testing.T) {
+	by, met := uint64(1), map[[3]int]bool{}
+	for range 100 {
+		l := [3]int{1, 2, 3}
+		check.Mix(l[:], &by)
+		met[l] = true
+		slices.Sort(l[:])
+		if l != [3]int{1, 2, 3} {
+			t.Error(l)
+		}
+	}
+	if len(met) != 6 {
+		t.Error(met)
+	}
+}
+
+func TestEdgeSets(t *testing.T) {
+	met := map[int]int{}
+	for l := range check.EdgeSets {
+		met[len(l)]++
+	}
+	if met[0] != 2 || met[1] != 9+16 || met[9] != 1+11440 || met[16] != 1 {
+		t.Error(met)
+	}
+	for l := range check.EdgeSets {
+		if len(l) == 3 {
+			return
+		}
+	}
+	t.Error("no set of three")
+}
+
+func TestSomeEdges(t *testing.T) {
+	by, met := uint64(1), map[int]int{}
+	for range 1000 {
+		l := check.SomeEdges(&by)
+		met[len(l)]++
+		for _, n := range check.Ends(l) {
+			if n < 0 || n > 9 {
+				t.Error(check.Edged(l))
+			}
+		}
+	}
+	for many := range 21 {
+		if met[many] == 0 {
+			t.Errorf("none of %d", many)
+		}
+	}
+}
+
 func TestSpoil(t *testing.T) {
 	room := []int{1, 2, 3, 4, 5}
 	check.Spoil(room[1:2:4], 9)

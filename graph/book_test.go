@@ -4,6 +4,7 @@ import (
 	"slices"
 
 	"catchbolt/api"
+	"catchbolt/check"
 )
 
 // book is what the document says of edges, word by word: all numbers that are at them, rising, and whether an edge goes from one to another one.
@@ -14,13 +15,10 @@ type book struct {
 
 // bookOf is the book of edges.
 func bookOf(l []api.Edge) *book {
-	b := &book{goes: map[[2]int]bool{}}
+	b := &book{all: check.Ends(l), goes: map[[2]int]bool{}}
 	for _, e := range l {
-		b.all = append(b.all, e.From, e.To)
 		b.goes[[2]int{e.From, e.To}] = true
 	}
-	slices.Sort(b.all)
-	b.all = slices.Compact(b.all)
 	return b
 }
 

@@ -10,35 +10,14 @@ import (
 	"catchbolt/graph"
 )
 
-// edges are the ones from each first number of two to the one behind it. What else they have is another thing with each, and plays no part.
-func edges(ends ...int) []api.Edge {
-	var l []api.Edge
-	for i := 0; i < len(ends); i += 2 {
-		l = append(l, api.Edge{From: ends[i], Seq: 1000 - i, To: ends[i+1], ToSeq: i % 3})
-	}
-	return l
-}
-
-// row are edges from each number of a list to the one behind it.
-func row(numbers ...int) []api.Edge {
-	var l []api.Edge
-	for i := 1; i < len(numbers); i++ {
-		l = append(l, edges(numbers[i-1], numbers[i])...)
-	}
-	return l
-}
+var (
+	edges = check.Edges
+	row   = check.Row
+	upTo  = check.UpTo
+)
 
 // of are numbers.
 func of(numbers ...int) []int { return numbers }
-
-// upTo are the numbers from one on to another one.
-func upTo(from, to int) []int {
-	var l []int
-	for n := from; n <= to; n++ {
-		l = append(l, n)
-	}
-	return l
-}
 
 // same checks an answer.
 func same(t *testing.T, call string, l []api.Edge, got, want []int) {
@@ -300,37 +279,11 @@ func follows(t *testing.T, l []api.Edge) {
 	}
 }
 
-// next is the next number of a row that is the same each time.
-func next(by *uint64) int {
-	*by = *by*6364136223846793005 + 1442695040888963407
-	return int(*by >> 33)
-}
-
-// mix puts edges into another order.
-func mix(l []api.Edge, by *uint64) {
-	for i := range l {
-		k := i + next(by)%(len(l)-i)
-		l[i], l[k] = l[k], l[i]
-	}
-}
-
 // P10.1 to P10.4: all sets of edges among three numbers, and among four.
 func TestAllSets(t *testing.T) {
-	names := [][]int{{1, 2, 3, 4}, {math.MinInt, -1, 0, math.MaxInt}, {1 << 20, 7, 1<<32 + 7, 3}, {4, 3, 2, 1}}
-	by := uint64(10)
-	for n := 3; n <= 4; n++ {
-		for set := range 1 << (n * n) {
-			name := names[next(&by)%len(names)]
-			var l []api.Edge
-			for bit := range n * n {
-				if set>>bit&1 == 1 {
-					l = append(l, edges(name[bit/n], name[bit%n])...)
-				}
-			}
-			mix(l, &by)
-			fits(t, l)
-			check.Stop(t)
-		}
+	for l := range check.EdgeSets {
+		fits(t, l)
+		check.Stop(t)
 	}
 }
 
@@ -338,16 +291,7 @@ func TestAllSets(t *testing.T) {
 func TestMany(t *testing.T) {
 	by := uint64(4)
 	for range 4000 {
-		n := 3 + next(&by)%8
-		var l []api.Edge
-		for range next(&by) % (2*n + 1) {
-			from, to := next(&by)%n, next(&by)%n
-			if next(&by)%4 > 0 && from < to { // mostly from greater ones to lesser ones, so that many have an order
-				from, to = to, from
-			}
-			l = append(l, edges(from, to)...)
-		}
-		fits(t, l)
+		fits(t, check.SomeEdges(&by))
 		check.Stop(t)
 	}
 }
