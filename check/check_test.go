@@ -2,11 +2,13 @@ package check_test
 
 import (
 	"errors"
+	"fmt"
 	"slices"
 	"testing"
 
 	"catchbolt/api"
 	"catchbolt/check"
+	"catchbolt/msg"
 	"catchbolt/res"
 )
 
@@ -119,6 +121,19 @@ func TestEdges(t *testing.T) {
 	}
 }
 
+func TestCircles(t *testing.T) {
+	same(t, told(check.Circles(check.Edges(1, 2, 2, 3, 5, 4))), "[]")
+	same(t, told(check.Circles(check.Row(7, 3, 7, 7, 3, -1, -2, -1))), "[[-2 -1] [3 7] [7]]")
+	same(t, told(check.Circles(check.Row(1, 2, 3, 1, 3, 2, 1, 2))), "[[1 2] [1 2 3] [1 3] [1 3 2] [2 3]]")
+	same(t, told(check.Circles(append(check.Row(9, 8, 7, 6, 5, 9, 1), check.Row(4, 3, 4)...))), "[[3 4] [5 9 8 7 6]]")
+}
+
+// told are rows of numbers as a text, rising.
+func told(l [][]int) string {
+	slices.SortFunc(l, slices.Compare)
+	return fmt.Sprint(l)
+}
+
 func TestMix(t *testing.T) {
 	by, met := uint64(1), map[[3]int]bool{}
 	for range 100 {
@@ -205,5 +220,29 @@ func TestValues(t *testing.T) {
 		if res.Ok(r) {
 			t.Errorf("%v may be", r)
 		}
+	}
+}
+
+// kinds are those of messages, of which it checks that all may be, or that none may.
+func kinds(t *testing.T, l []api.Msg, may bool) []int {
+	t.Helper()
+	var all []int
+	for _, m := range l {
+		if (msg.Ok(m) == nil) != may {
+			t.Errorf("may be: %v: %+v", !may, m)
+		}
+		all = append(all, m.Kind)
+	}
+	slices.Sort(all)
+	return slices.Compact(all)
+}
+
+func TestMessages(t *testing.T) {
+	if all, others := kinds(t, check.Messages(), true), kinds(t, check.Others(), true); !slices.Equal(all, check.UpTo(1, 11)) || !slices.Equal(others, check.UpTo(1, 10)) {
+		t.Error(all, others)
+	}
+	kinds(t, append(check.WrongMessages(), check.WrongProbes()...), false)
+	for n := 1; n <= 8; n++ {
+		kinds(t, []api.Msg{check.Probe(n), check.Down(check.Probe(n))}, true)
 	}
 }

@@ -44,8 +44,33 @@ func Ends(l []api.Edge) []int {
 	return slices.Compact(all)
 }
 
-// next is the next number of a row that is the same each time.
-func next(by *uint64) int {
+// Circles are all circles of edges, each once, from its least number on, and without going through one twice.
+func Circles(l []api.Edge) [][]int {
+	next := map[int][]int{}
+	for _, e := range l {
+		if !slices.Contains(next[e.From], e.To) {
+			next[e.From] = append(next[e.From], e.To)
+		}
+	}
+	var found [][]int
+	var on func(way []int)
+	on = func(way []int) {
+		for _, n := range next[way[len(way)-1]] {
+			if n == way[0] {
+				found = append(found, slices.Clone(way))
+			} else if n > way[0] && !slices.Contains(way, n) {
+				on(append(way, n))
+			}
+		}
+	}
+	for _, n := range Ends(l) {
+		on([]int{n})
+	}
+	return found
+}
+
+// Next is the next number of a row that is the same each time.
+func Next(by *uint64) int {
 	*by = *by*6364136223846793005 + 1442695040888963407
 	return int(*by >> 33)
 }
@@ -53,7 +78,7 @@ func next(by *uint64) int {
 // Mix puts a list into another order.
 func Mix[E any](l []E, by *uint64) {
 	for i := range l {
-		k := i + next(by)%(len(l)-i)
+		k := i + Next(by)%(len(l)-i)
 		l[i], l[k] = l[k], l[i]
 	}
 }
@@ -64,7 +89,7 @@ func EdgeSets(yield func([]api.Edge) bool) {
 	by := uint64(10)
 	for n := 3; n <= 4; n++ {
 		for set := range 1 << (n * n) {
-			name := names[next(&by)%len(names)]
+			name := names[Next(&by)%len(names)]
 			var ends []int
 			for bit := range n * n {
 				if set>>bit&1 == 1 {
@@ -82,11 +107,11 @@ func EdgeSets(yield func([]api.Edge) bool) {
 
 // SomeEdges are edges among three to ten numbers from 0 on, by chance, from few to many; mostly from greater ones to lesser ones, so that many lots have no circle.
 func SomeEdges(by *uint64) []api.Edge {
-	n := 3 + next(by)%8
+	n := 3 + Next(by)%8
 	var ends []int
-	for range next(by) % (2*n + 1) {
-		from, to := next(by)%n, next(by)%n
-		if next(by)%4 > 0 && from < to {
+	for range Next(by) % (2*n + 1) {
+		from, to := Next(by)%n, Next(by)%n
+		if Next(by)%4 > 0 && from < to {
 			from, to = to, from
 		}
 		ends = append(ends, from, to)

@@ -122,38 +122,6 @@ func stepsMayBe(m api.Msg) bool {
 	return len(txs) == m.N
 }
 
-// probe is one with so many steps.
-func probe(n int) api.Msg {
-	m := api.Msg{Kind: api.KProbe, From: 3, Next: 1000, NextSeq: 70, N: n}
-	for i := range n {
-		m.Path[i] = api.Step{Tx: 100 + i, Seq: 200 + i}
-	}
-	return m
-}
-
-// onward is a probe from the coordinator to a shard.
-func onward(m api.Msg) api.Msg {
-	m.From, m.To = 0, m.From
-	return m
-}
-
-// ones are messages that may be: of each kind one, and of probes some more.
-func ones() []api.Msg {
-	return []api.Msg{
-		{Kind: api.KLock, To: 2, Tx: 7, Seq: 9, At: api.Res{Table: 3, Row: 14}, Mode: api.X},
-		{Kind: api.KGranted, From: 2, Tx: 7, Seq: 9, At: api.Res{Table: 3}, Mode: api.IS},
-		{Kind: api.KRefused, From: 2, Tx: 7, Seq: 9, Code: 9},
-		{Kind: api.KPrepare, To: 2, Tx: 7},
-		{Kind: api.KVote, From: 2, Tx: 7, Code: 1},
-		{Kind: api.KDecide, To: 2, Tx: 7, Code: 0},
-		{Kind: api.KAck, From: 2, Tx: 7},
-		{Kind: api.KRenew, To: 2, Tx: 7},
-		{Kind: api.KExpired, From: 2, Tx: 7},
-		{Kind: api.KWound, From: 2, Tx: 7, Next: 5},
-		probe(1), probe(2), probe(8), onward(probe(1)), onward(probe(5)),
-	}
-}
-
 // may checks that a message may be.
 func may(t *testing.T, m api.Msg) {
 	t.Helper()
@@ -258,7 +226,7 @@ func wrongWays(t *testing.T, m api.Msg) {
 
 func TestOkOfOneOfEachKind(t *testing.T) {
 	seen := map[int]bool{}
-	for _, m := range ones() {
+	for _, m := range check.Messages() {
 		may(t, m)
 		seen[m.Kind] = true
 	}
@@ -350,9 +318,9 @@ func TestOkOfWound(t *testing.T) {
 
 func TestOkOfProbe(t *testing.T) {
 	for n := 1; n <= 8; n++ {
-		m := probe(n)
+		m := check.Probe(n)
 		edges(t, m, "From", 1, 64)
-		edges(t, onward(m), "To", 1, 64)
+		edges(t, check.Down(m), "To", 1, 64)
 		wrongWays(t, m)
 		edges(t, m, "Next", 1, 1048576)
 		edges(t, m, "NextSeq", 0, 1048576)
@@ -363,9 +331,9 @@ func TestOkOfProbe(t *testing.T) {
 
 func TestOkOfProbesOfSoManySteps(t *testing.T) {
 	for n := -1; n <= 9; n++ { // in each way
-		m := probe(min(max(n, 0), 8))
+		m := check.Probe(min(max(n, 0), 8))
 		m.N = n
-		for _, m := range []api.Msg{m, onward(m)} {
+		for _, m := range []api.Msg{m, check.Down(m)} {
 			if n >= 1 && n <= 8 {
 				may(t, m)
 			} else {
@@ -376,7 +344,7 @@ func TestOkOfProbesOfSoManySteps(t *testing.T) {
 }
 
 func TestOkOfProbesThatNameAStepAsNext(t *testing.T) {
-	m := probe(8)
+	m := check.Probe(8)
 	for _, s := range m.Path {
 		for _, seq := range []int{0, s.Seq, s.Seq + 1} {
 			m.Next, m.NextSeq = s.Tx, seq
@@ -388,7 +356,7 @@ func TestOkOfProbesThatNameAStepAsNext(t *testing.T) {
 func TestOkOfEachStep(t *testing.T) {
 	for n := 1; n <= 8; n++ {
 		for i, f := range stepFields() {
-			switch m := probe(n); {
+			switch m := check.Probe(n); {
 			case i >= 2*n: // behind the first ones there are zero ones alone
 				for _, wrong := range append(farFrom(0, 0), 1, -1, 300) {
 					mayNot(t, with(m, f, wrong))
@@ -412,12 +380,12 @@ func TestOkOfTwoStepsOfOneTransaction(t *testing.T) {
 	for n := 2; n <= 8; n++ {
 		for i := range n {
 			for j := range i {
-				m := probe(n)
+				m := check.Probe(n)
 				m.Path[i].Tx = m.Path[j].Tx
 				mayNot(t, m)
 				m.Path[i].Seq = m.Path[j].Seq
 				mayNot(t, m)
-				m = probe(n)
+				m = check.Probe(n)
 				m.Path[i].Seq = m.Path[j].Seq // of two transactions a request may have one number
 				may(t, m)
 			}
@@ -426,7 +394,7 @@ func TestOkOfTwoStepsOfOneTransaction(t *testing.T) {
 }
 
 func TestOkOfNoKinds(t *testing.T) {
-	for _, m := range append(ones(), api.Msg{}, api.Msg{Tx: 7}, api.Msg{To: 2}, api.Msg{From: 2}) {
+	for _, m := range append(check.Messages(), api.Msg{}, api.Msg{Tx: 7}, api.Msg{To: 2}, api.Msg{From: 2}) {
 		for _, kind := range append(farFrom(1, 11), 0, -1, -11, 12, 13, 255, 256, 257) {
 			m.Kind = kind
 			mayNot(t, m)
@@ -435,7 +403,7 @@ func TestOkOfNoKinds(t *testing.T) {
 }
 
 func TestOkOfEachKindInAnothersPlace(t *testing.T) {
-	for _, m := range ones() {
+	for _, m := range check.Messages() {
 		for m.Kind = range 13 {
 			if err := msg.Ok(m); (err == nil) != mayBe(m) {
 				t.Errorf("Ok(%+v): %v", m, err)
@@ -449,7 +417,7 @@ var near = []int{-1, 0, 1, 2, 4, 5, 6, 7, 8, 9, 15, 16, 64, 65, 101, 250, 251, 2
 
 // eachNear calls f for all messages that are one that may be, but for two fields.
 func eachNear(f func(m api.Msg)) {
-	for _, one := range ones() {
+	for _, one := range check.Messages() {
 		for i, x := range fields {
 			for _, y := range fields[:i] {
 				for _, a := range near {
@@ -516,7 +484,7 @@ func TestBytesOfProbes(t *testing.T) {
 	m := api.Msg{Kind: api.KProbe, From: 6, Next: 0x10203, NextSeq: 0x40506, N: 1}
 	m.Path[0] = api.Step{Tx: 0x70809, Seq: 0xa0b0c}
 	encodedAs(t, "0b 06 00 00000000 00000000 00 00 00 00 00010203 00040506 01 00070809 000a0b0c", m)
-	encodedAs(t, "0b 00 06 00000000 00000000 00 00 00 00 00010203 00040506 01 00070809 000a0b0c", onward(m))
+	encodedAs(t, "0b 00 06 00000000 00000000 00 00 00 00 00010203 00040506 01 00070809 000a0b0c", check.Down(m))
 	m.N, m.NextSeq = 8, 0
 	for i := range m.Path {
 		m.Path[i] = api.Step{Tx: 16*i + 1, Seq: 16*i + 2}
@@ -527,7 +495,7 @@ func TestBytesOfProbes(t *testing.T) {
 }
 
 func TestEncodeAnswersNewMemory(t *testing.T) {
-	for _, m := range ones() {
+	for _, m := range check.Messages() {
 		a, b := encode(t, m), encode(t, m)
 		want := slices.Clone(b)
 		for i := range a {
@@ -562,7 +530,7 @@ func notDecoded(t *testing.T, b []byte, want api.Errno) {
 
 func TestDecodeOfTooFewAndTooMany(t *testing.T) {
 	wrong := make([]byte, 88)
-	for _, m := range ones() {
+	for _, m := range check.Messages() {
 		for _, whole := range [][]byte{encode(t, m), wrong, slices.Repeat([]byte{255}, 88)} { // ahead of ErrForm
 			for size := range 88 {
 				notDecoded(t, whole[:size], api.ErrShort)
@@ -603,7 +571,7 @@ func taken(b []byte) api.Msg {
 
 func TestDecodeWithAnyByteInEachPlace(t *testing.T) {
 	var refused, other [88]bool
-	for _, one := range ones() {
+	for _, one := range check.Messages() {
 		b := encode(t, one)
 		for place, was := range b {
 			for n := range 256 {
@@ -638,7 +606,7 @@ func TestDecodeWithAnyByteInEachPlace(t *testing.T) {
 func TestDecodeOfBytesBeyondWhatMayBe(t *testing.T) {
 	offset := 0
 	for _, f := range fields {
-		for _, m := range ones() {
+		for _, m := range check.Messages() {
 			b := encode(t, m)
 			b[offset] = 255 // the highest byte: by it each number is more than it may be
 			notDecoded(t, b, api.ErrForm)
@@ -651,7 +619,7 @@ func TestDecodeOfBytesBeyondWhatMayBe(t *testing.T) {
 }
 
 func TestDecodeChangesNothingAndKeepsNothing(t *testing.T) {
-	for _, m := range ones() {
+	for _, m := range check.Messages() {
 		room := append(encode(t, m), 1, 2, 3, 4)
 		want := slices.Clone(room)
 		got := decode(t, room[:88])
@@ -713,7 +681,7 @@ func TestWhatWasEncodedIsDecoded(t *testing.T) {
 
 func TestWhatWasDecodedIsEncoded(t *testing.T) {
 	count := 0
-	for _, one := range ones() {
+	for _, one := range check.Messages() {
 		b := encode(t, one)
 		for i, x := range b {
 			for j, y := range b[:i] { // any two bytes are others, or themselves

@@ -41,66 +41,6 @@ func some(many int) []api.Msg {
 	return l
 }
 
-// probe is a message of which each field that a probe has is more than 0.
-func probe() api.Msg {
-	m := api.Msg{Kind: api.KProbe, From: 3, Next: 1000, NextSeq: 70, N: 8}
-	for i := range m.Path {
-		m.Path[i] = api.Step{Tx: 100 + i, Seq: 200 + i}
-	}
-	return m
-}
-
-// eachKind are messages that may be, of each kind one.
-func eachKind() []api.Msg {
-	at := api.Res{Table: 250, Row: 250}
-	return []api.Msg{
-		{Kind: api.KLock, To: 64, Tx: 1048576, Seq: 1048576, At: at, Mode: api.X},
-		{Kind: api.KGranted, From: 64, Tx: 1048576, Seq: 1048576, At: at, Mode: api.IS},
-		{Kind: api.KRefused, From: 2, Tx: 7, Seq: 9, Code: 15},
-		{Kind: api.KPrepare, To: 2, Tx: 7},
-		{Kind: api.KVote, From: 2, Tx: 7, Code: 1},
-		{Kind: api.KDecide, To: 2, Tx: 7},
-		{Kind: api.KAck, From: 2, Tx: 7},
-		{Kind: api.KRenew, To: 2, Tx: 7},
-		{Kind: api.KExpired, From: 2, Tx: 7},
-		{Kind: api.KWound, From: 2, Tx: 7, Next: 6},
-		probe(),
-	}
-}
-
-// wrongOnes are messages that may not be.
-func wrongOnes() []api.Msg {
-	l := []api.Msg{
-		{},
-		{Kind: 12, To: 2, Tx: 7},
-		{Kind: -1, To: 2, Tx: 7},
-		{Kind: math.MinInt64, From: math.MinInt64, To: math.MaxInt64, Tx: math.MaxInt64, N: math.MaxInt64},
-		{Kind: api.KPrepare, From: 2, Tx: 7},
-		{Kind: api.KPrepare, From: 1, To: 2, Tx: 7},
-		{Kind: api.KPrepare, To: 65, Tx: 7},
-		{Kind: api.KPrepare, To: 2},
-		{Kind: api.KPrepare, To: 2, Tx: 1048577},
-		{Kind: api.KPrepare, To: 2, Tx: 7, Seq: 1},
-		{Kind: api.KPrepare, To: 2, Tx: 7, N: 1},
-		{Kind: api.KRefused, From: 2, Tx: 7, Seq: 9},
-		{Kind: api.KVote, From: 2, Tx: 7, Code: 2},
-		{Kind: api.KWound, From: 2, Tx: 7, Next: 7},
-		{Kind: api.KLock, To: 2, Tx: 7, Seq: 9, At: api.Res{Table: 251}, Mode: api.X},
-		{Kind: api.KLock, To: 2, Tx: 7, Seq: 9, At: api.Res{Table: 3}},
-	}
-	for _, change := range []func(m *api.Msg){
-		func(m *api.Msg) { m.N = 9 },
-		func(m *api.Msg) { m.N = 7 },
-		func(m *api.Msg) { m.Path[7].Tx = 100 },
-		func(m *api.Msg) { m.Path[3].Seq = 0 },
-	} {
-		m := probe()
-		change(&m)
-		l = append(l, m)
-	}
-	return l
-}
-
 // empty is a net without messages.
 func empty(t *testing.T, limit int) *net.Net {
 	t.Helper()
@@ -222,7 +162,7 @@ func TestSendStandsBehindAllOthers(t *testing.T) {
 }
 
 func TestSendOfEachKind(t *testing.T) {
-	l := eachKind()
+	l := check.Messages()
 	n := sent(t, len(l), l...)
 	has(t, n, l...)
 	for _, m := range l {
@@ -232,7 +172,7 @@ func TestSendOfEachKind(t *testing.T) {
 
 func TestSendOfOnesThatMayNotBe(t *testing.T) {
 	l := some(3)
-	for i, m := range wrongOnes() {
+	for i, m := range check.WrongMessages() {
 		for _, n := range []*net.Net{sent(t, 3), sent(t, 4, l...), sent(t, 65536, l...)} {
 			ahead := n.All()
 			if err := n.Send(m); !check.Plain(err, api.ErrForm) {
@@ -247,7 +187,7 @@ func TestSendToAFullNet(t *testing.T) {
 	for limit := 1; limit <= 20; limit++ {
 		l := some(limit)
 		n := sent(t, limit, l...)
-		for _, m := range eachKind() {
+		for _, m := range check.Messages() {
 			fails(t, n, n.Send(m), api.ErrFull, l...)
 		}
 		fails(t, n, n.Send(l[0]), api.ErrFull, l...)
@@ -258,7 +198,7 @@ func TestSendOfOnesThatMayNotBeToAFullNet(t *testing.T) {
 	for _, limit := range []int{1, 3} {
 		l := some(limit)
 		n := sent(t, limit, l...)
-		for _, m := range wrongOnes() {
+		for _, m := range check.WrongMessages() {
 			fails(t, n, n.Send(m), api.ErrForm, l...)
 		}
 		fails(t, n, n.Send(one(7)), api.ErrFull, l...)
@@ -363,16 +303,16 @@ func TestPicksByHand(t *testing.T) {
 
 func TestAllPicksOfTheOnlyOne(t *testing.T) {
 	for _, k := range numbers {
-		n := sent(t, 1, probe())
-		fails(t, n, n.Twice(k), api.ErrFull, probe())
-		delivers(t, n, k, probe())
+		n := sent(t, 1, check.Probe(8))
+		fails(t, n, n.Twice(k), api.ErrFull, check.Probe(8))
+		delivers(t, n, k, check.Probe(8))
 		has(t, n)
-		sends(t, n, probe())
+		sends(t, n, check.Probe(8))
 		drops(t, n, k)
 		has(t, n)
-		n = sent(t, 2, probe())
+		n = sent(t, 2, check.Probe(8))
 		doubles(t, n, k)
-		has(t, n, probe(), probe())
+		has(t, n, check.Probe(8), check.Probe(8))
 	}
 }
 
@@ -428,13 +368,13 @@ func TestTwiceFillsANet(t *testing.T) {
 
 func TestADoubledOneIsThereByItself(t *testing.T) {
 	for _, k := range []int{0, 1} {
-		n := sent(t, 3, probe())
+		n := sent(t, 3, check.Probe(8))
 		doubles(t, n, 0)
-		delivers(t, n, k, probe())
-		has(t, n, probe())
+		delivers(t, n, k, check.Probe(8))
+		has(t, n, check.Probe(8))
 		doubles(t, n, 0)
 		drops(t, n, k)
-		delivers(t, n, k, probe())
+		delivers(t, n, k, check.Probe(8))
 		has(t, n)
 	}
 }
@@ -510,7 +450,7 @@ func TestTakeBehindAllElse(t *testing.T) {
 var wrongOne = api.Msg{Kind: 99, Tx: -1, Path: [api.MaxPath]api.Step{{Tx: 77}}}
 
 func TestWhatIsToldIsTheNetsOwnNoMore(t *testing.T) {
-	l := append(some(5), probe())
+	l := append(some(5), check.Probe(8))
 	n := sent(t, 20, l...)
 	check.Spoil(n.All(), wrongOne)
 	has(t, n, l...)
@@ -544,7 +484,7 @@ func TestWhatWasToldStaysAsItWas(t *testing.T) {
 	}
 	taken := n.Take()
 	want := slices.Clone(taken)
-	for _, m := range []api.Msg{l[5], probe(), l[0], l[1], l[2], l[3], l[4]} {
+	for _, m := range []api.Msg{l[5], check.Probe(8), l[0], l[1], l[2], l[3], l[4]} {
 		sends(t, n, m)
 	}
 	drops(t, n, 1)
@@ -555,14 +495,14 @@ func TestWhatWasToldStaysAsItWas(t *testing.T) {
 }
 
 func TestWhatIsSentIsNotKept(t *testing.T) {
-	m := probe()
+	m := check.Probe(8)
 	n := sent(t, 4, m)
 	m.Path[0].Tx, m.Next = 5, 6
 	sends(t, n, m)
 	m.Path[0].Tx, m.Next = 7, 8
-	second := probe()
+	second := check.Probe(8)
 	second.Path[0].Tx, second.Next = 5, 6
-	has(t, n, probe(), second)
+	has(t, n, check.Probe(8), second)
 }
 
 func TestNetsAreApart(t *testing.T) {
@@ -580,7 +520,7 @@ func TestNetsAreApart(t *testing.T) {
 
 func TestNilNet(t *testing.T) {
 	var n *net.Net
-	for _, m := range append(eachKind(), wrongOnes()...) {
+	for _, m := range append(check.Messages(), check.WrongMessages()...) {
 		fails(t, n, n.Send(m), api.ErrArg)
 	}
 	for _, k := range numbers {

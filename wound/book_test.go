@@ -37,29 +37,7 @@ func bookOfRest(l []api.Edge) []api.Edge {
 	})
 }
 
-// goes says whether an edge goes from a number to another one.
-func goes(l []api.Edge, from, to int) bool {
-	return slices.ContainsFunc(l, func(e api.Edge) bool { return e.From == from && e.To == to })
-}
-
-// circles are all circles of two or more, each once, from its least number on, and without going through one twice.
+// circles are all circles of two or more.
 func circles(l []api.Edge) [][]int {
-	all := check.Ends(l)
-	var found [][]int
-	var on func(way []int)
-	on = func(way []int) {
-		first, last := way[0], way[len(way)-1]
-		if len(way) > 1 && goes(l, last, first) {
-			found = append(found, slices.Clone(way))
-		}
-		for _, n := range all {
-			if n > first && goes(l, last, n) && !slices.Contains(way, n) {
-				on(append(way, n))
-			}
-		}
-	}
-	for _, n := range all {
-		on([]int{n})
-	}
-	return found
+	return slices.DeleteFunc(check.Circles(l), func(c []int) bool { return len(c) < 2 })
 }
