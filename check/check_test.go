@@ -107,6 +107,13 @@ func TestTexts(t *testing.T) {
 	same(t, check.Granted([]api.Grant{{Tx: 1, Seq: 101, At: api.Res{Table: 3}, Mode: api.IX}, {Tx: 1, At: api.Res{Table: 3, Row: 14}, Mode: api.X}}), "3:1.101IX 3.14:1X")
 }
 
+func TestSent(t *testing.T) {
+	same(t, check.Sent(nil), "")
+	same(t, check.Sent(check.Others()), "lock 250.250:1048576.1048576X, granted 3:7.9IS, refused 7.9 9, prepare 7, vote 7 1, decide 7 0, ack 7, renew 7, expired 7, wound 7 by 5")
+	same(t, check.Sent([]api.Msg{check.Probe(1), check.Down(check.Probe(2)), {Kind: api.KProbe, Next: 5}}), "probe 100.200 > 1000.70, probe 100.200 101.201 > 1000.70, probe  > 5")
+	same(t, check.Sent([]api.Msg{{}, {Kind: 12, Tx: 7}, {Kind: -1}}), "?0 0, ?12 7, ?-1 0")
+}
+
 func TestEdges(t *testing.T) {
 	same(t, check.Edged(check.Edges())+check.Edged(check.Row())+check.Edged(check.Row(7)), "")
 	same(t, check.Edged(check.Edges(1, 2, 3, -1)), "1.1000>2 3.998>-1.2")

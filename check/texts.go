@@ -35,13 +35,43 @@ func Granted(l []api.Grant) string {
 	return joined(l, func(g api.Grant) string { return Res(g.At) + ":" + Step(g.Tx, g.Seq) + Mode(g.Mode) })
 }
 
+// Sent is the text of messages: "granted 3:1.101IX, wound 2 by 1", without from where and to where they go.
+func Sent(l []api.Msg) string { return between(", ", l, sent) }
+
+// sent is the text of a message.
+func sent(m api.Msg) string {
+	switch m.Kind {
+	case api.KLock, api.KGranted:
+		return kind(m) + " " + Granted([]api.Grant{{Tx: m.Tx, Seq: m.Seq, At: m.At, Mode: m.Mode}})
+	case api.KVote, api.KDecide, api.KRefused:
+		return kind(m) + " " + Step(m.Tx, m.Seq) + " " + strconv.Itoa(m.Code)
+	case api.KWound:
+		return kind(m) + " " + Step(m.Tx, 0) + " by " + Step(m.Next, 0)
+	case api.KProbe:
+		steps := joined(m.Path[:m.N], func(s api.Step) string { return Step(s.Tx, s.Seq) })
+		return kind(m) + " " + steps + " > " + Step(m.Next, m.NextSeq)
+	}
+	return kind(m) + " " + Step(m.Tx, 0)
+}
+
+// kind is the name of a message's kind.
+func kind(m api.Msg) string {
+	if m.Kind < api.KLock || m.Kind > api.KProbe {
+		return "?" + strconv.Itoa(m.Kind)
+	}
+	return []string{"lock", "granted", "refused", "prepare", "vote", "decide", "ack", "renew", "expired", "wound", "probe"}[m.Kind-api.KLock]
+}
+
 // joined are the texts of all, with a space between.
-func joined[E any](l []E, text func(E) string) string {
+func joined[E any](l []E, text func(E) string) string { return between(" ", l, text) }
+
+// between are the texts of all, with that between.
+func between[E any](with string, l []E, text func(E) string) string {
 	var texts []string
 	for _, e := range l {
 		texts = append(texts, text(e))
 	}
-	return strings.Join(texts, " ")
+	return strings.Join(texts, with)
 }
 
 // Mode is a mode's name.
