@@ -69,15 +69,15 @@ func TestRefusal(t *testing.T) {
 	}
 }
 
-// outside says whether a number is none from 1 on to a greatest one.
-func outside(n, most int) bool { return n < 1 || n > most }
+// outside says whether a number is none from a least one on to a greatest one.
+func outside(n, least, most int) bool { return n < least || n > most }
 
 // eachOutside checks that all numbers of a list are outside, or that none is.
-func eachOutside(t *testing.T, l []int, most int, want bool) {
+func eachOutside(t *testing.T, l []int, least, most int, want bool) {
 	t.Helper()
 	for _, n := range l {
-		if outside(n, most) != want {
-			t.Errorf("%d of 1 to %d", n, most)
+		if outside(n, least, most) != want {
+			t.Errorf("%d of %d to %d", n, least, most)
 		}
 	}
 }
@@ -218,11 +218,13 @@ func TestStop(t *testing.T) {
 }
 
 func TestValues(t *testing.T) {
-	eachOutside(t, check.WrongLimits(), api.MaxQueue, true)
-	eachOutside(t, check.Numbers(), api.MaxTx, false)
-	eachOutside(t, check.WrongNumbers(), api.MaxTx, true)
-	eachOutside(t, asNumbers(check.Modes()), int(api.X), false)
-	eachOutside(t, asNumbers(check.WrongModes()), int(api.X), true)
+	eachOutside(t, check.WrongLimits(), 1, api.MaxQueue, true)
+	eachOutside(t, check.Numbers(), 1, api.MaxTx, false)
+	eachOutside(t, check.WrongNumbers(), 1, api.MaxTx, true)
+	eachOutside(t, asNumbers(check.Modes()), 1, int(api.X), false)
+	eachOutside(t, asNumbers(check.WrongModes()), 1, int(api.X), true)
+	eachOutside(t, check.Times(), 0, 1<<40, false)
+	eachOutside(t, check.NoTimes(), 0, 1<<40, true)
 	for _, r := range check.WrongResources() {
 		if res.Ok(r) {
 			t.Errorf("%v may be", r)

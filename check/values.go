@@ -51,3 +51,22 @@ func WrongResources() []api.Res {
 	}
 	return append(all, api.Res{Row: 1}, api.Res{Row: 250})
 }
+
+// MaxTime is the document's greatest time.
+const MaxTime = 1099511627776
+
+// Times are those around the edges of what a time may be; some would be others if they were cut.
+func Times() []int {
+	return []int{
+		0, 1, 2, 3, 999, 1000, 1001, 65535, 65536, math.MaxInt32, math.MaxInt32 + 1, 1<<32 - 1, 1 << 32, 1<<32 + 1,
+		1 << 39, MaxTime - 1001, MaxTime - 1000, MaxTime - 999, MaxTime - 2, MaxTime - 1, MaxTime,
+	}
+}
+
+// NoTimes are numbers that are no times.
+func NoTimes() []int {
+	return []int{
+		math.MinInt64, math.MinInt64 + 1, math.MinInt64 + 1001, -1 << 62, -MaxTime - 1, -MaxTime, -MaxTime + 1, -1 << 32, math.MinInt32, -1001, -1000, -2, -1,
+		MaxTime + 1, MaxTime + 2, MaxTime + 1000, 1 << 41, 1<<41 + 7, 1 << 48, 1<<53 + 1, 1 << 62, math.MaxInt64 - 1000, math.MaxInt64 - 1, math.MaxInt64,
+	}
+}

@@ -10,8 +10,8 @@ import (
 	"catchbolt/lease"
 )
 
-// maxTime is the document's greatest time.
-const maxTime = 1099511627776
+// maxTime is the greatest time.
+const maxTime = check.MaxTime
 
 // spans are those around the edges of what a span may be.
 var spans = []int{1, 2, 3, 7, 255, 256, 257, 999, 1000}
@@ -22,17 +22,8 @@ var wrongSpans = []int{
 	0, 1001, 1002, 1024, 65535, 65536, 65537, math.MaxInt32, 1 << 32, 1<<32 + 1, 1<<32 + 1000, maxTime, 1 << 48, 1<<48 + 7, math.MaxInt64,
 }
 
-// times are those around the edges of what a time may be; some would be others if they were cut.
-var times = []int{
-	0, 1, 2, 3, 999, 1000, 1001, 65535, 65536, math.MaxInt32, math.MaxInt32 + 1, 1<<32 - 1, 1 << 32, 1<<32 + 1,
-	1 << 39, maxTime - 1001, maxTime - 1000, maxTime - 999, maxTime - 2, maxTime - 1, maxTime,
-}
-
-// noTimes are numbers that are no times.
-var noTimes = []int{
-	math.MinInt64, math.MinInt64 + 1, math.MinInt64 + 1001, -1 << 62, -maxTime - 1, -maxTime, -maxTime + 1, -1 << 32, math.MinInt32, -1001, -1000, -2, -1,
-	maxTime + 1, maxTime + 2, maxTime + 1000, 1 << 41, 1<<41 + 7, 1 << 48, 1<<53 + 1, 1 << 62, math.MaxInt64 - 1000, math.MaxInt64 - 1, math.MaxInt64,
-}
+// times are those around the edges of what a time may be, and noTimes are numbers that are none.
+var times, noTimes = check.Times(), check.NoTimes()
 
 // ids are numbers that may have leases, not rising; some would be one if they were cut, and as texts they would stand in another order.
 var ids = []int{100, 9, 10, 1, math.MaxInt64, 2, 1<<32 + 2, 1048576, 99, 1<<32 + 1, 1 << 32, 1048577, math.MaxInt32, 1000, math.MaxInt64 - 1, 65536, 1 << 62}
