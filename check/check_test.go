@@ -107,6 +107,20 @@ func TestTexts(t *testing.T) {
 	same(t, check.Granted([]api.Grant{{Tx: 1, Seq: 101, At: api.Res{Table: 3}, Mode: api.IX}, {Tx: 1, At: api.Res{Table: 3, Row: 14}, Mode: api.X}}), "3:1.101IX 3.14:1X")
 }
 
+func TestAt(t *testing.T) {
+	for _, r := range []api.Res{{Table: 3}, {Table: 3, Row: 14}, {Table: 250, Row: 250}} {
+		if got := check.At(check.Res(r)); got != r {
+			t.Errorf("%v, want %v", got, r)
+		}
+	}
+	defer func() {
+		if said := recover(); said != "3.0" {
+			t.Error(said)
+		}
+	}()
+	t.Error(check.At("3.0"))
+}
+
 func TestSent(t *testing.T) {
 	same(t, check.Sent(nil), "")
 	same(t, check.Sent(check.Others()), "lock 250.250:1048576.1048576X, granted 3:7.9IS, refused 7.9 9, prepare 7, vote 7 1, decide 7 0, ack 7, renew 7, expired 7, wound 7 by 5")

@@ -5,6 +5,7 @@ import (
 	"strings"
 
 	"catchbolt/api"
+	"catchbolt/res"
 )
 
 // By these texts tests name what is told.
@@ -84,6 +85,15 @@ func Mode(m api.Mode) string {
 
 // Res is a resource's text, or what is like it of one that may not be.
 func Res(r api.Res) string { return dotted(r.Table, r.Row) }
+
+// At is the resource of a text: "3", "3.14".
+func At(text string) api.Res {
+	r, err := res.Parse(text)
+	if err != nil {
+		panic(text)
+	}
+	return r
+}
 
 // Step is the text of a transaction with its request's number, if it has one.
 func Step(tx, seq int) string { return dotted(tx, seq) }

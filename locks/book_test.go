@@ -28,8 +28,8 @@ func opened(t *testing.T, slots, queue int, texts ...string) (*book, *locks.Lock
 		if err != nil {
 			t.Fatalf("New(%d) = %v", queue, err)
 		}
-		b.places = append(b.places, at(text))
-		b.spots[at(text)] = s
+		b.places = append(b.places, check.At(text))
+		b.spots[check.At(text)] = s
 	}
 	return b, nobody(t, slots, queue)
 }

@@ -9,7 +9,6 @@ import (
 	"catchbolt/check"
 	"catchbolt/locks"
 	"catchbolt/mode"
-	"catchbolt/res"
 )
 
 // The numbers, modes and resources of the tests.
@@ -36,15 +35,6 @@ func nobody(t *testing.T, slots, queue int) *locks.Locks {
 	return l
 }
 
-// at is the resource of a text.
-func at(text string) api.Res {
-	r, err := res.Parse(text)
-	if err != nil {
-		panic(text)
-	}
-	return r
-}
-
 // number is that of a transaction's requests in most tests: one that may be, and isn't the transaction's own.
 func number(tx int) int { return 100 + tx%1000000 }
 
@@ -59,18 +49,18 @@ func asks(t *testing.T, l *locks.Locks, tx int, r api.Res, m api.Mode, want bool
 // grants and waits check that a request is granted, or that it waits.
 func grants(t *testing.T, l *locks.Locks, tx int, text string, m api.Mode) {
 	t.Helper()
-	asks(t, l, tx, at(text), m, true)
+	asks(t, l, tx, check.At(text), m, true)
 }
 
 func waits(t *testing.T, l *locks.Locks, tx int, text string, m api.Mode) {
 	t.Helper()
-	asks(t, l, tx, at(text), m, false)
+	asks(t, l, tx, check.At(text), m, false)
 }
 
 // refuses checks that a request is refused, with that error behind it, and that nothing changes by it.
 func refuses(t *testing.T, l *locks.Locks, tx int, text string, m api.Mode, want api.Errno) {
 	t.Helper()
-	before, r := whole(l), at(text)
+	before, r := whole(l), check.At(text)
 	if got, err := l.Ask(tx, number(tx), r, m); got || !check.Refusal(err, tx, r, want) {
 		t.Errorf("Ask(%d, %s, %s) = %v, %v, want %v, of %s", tx, text, check.Mode(m), got, err, want, before)
 	}
@@ -361,7 +351,7 @@ func TestAskOfOnesThatMayNotBe(t *testing.T) {
 	for _, l := range some(t) {
 		for _, n := range wrongNumbers {
 			for _, m := range modes { // rows' wrong ones, too
-				for _, r := range []api.Res{at("3"), at("3.1"), at("9.1")} {
+				for _, r := range []api.Res{check.At("3"), check.At("3.1"), check.At("9.1")} {
 					mayNot(t, l, n, 1, r, m)
 					mayNot(t, l, 7, n, r, m)
 					mayNot(t, l, n, n, r, m)
@@ -378,7 +368,7 @@ func TestAskOfOnesThatMayNotBe(t *testing.T) {
 			check.Stop(t)
 		}
 		for _, m := range wrongModes {
-			for _, r := range []api.Res{at("3"), at("3.1"), at("9.1")} {
+			for _, r := range []api.Res{check.At("3"), check.At("3.1"), check.At("9.1")} {
 				mayNot(t, l, 7, 1, r, m)
 				mayNot(t, l, 9, 1, r, m)
 				mayNot(t, l, 99, 1, r, m)
@@ -585,7 +575,7 @@ func TestFirstOfSeveralErrors(t *testing.T) {
 		} else {
 			refuses(t, l, 7, "3.1", m, want)
 		}
-		mayNot(t, l, 7, 0, at("3.1"), m)
+		mayNot(t, l, 7, 0, check.At("3.1"), m)
 	}
 }
 
@@ -717,7 +707,7 @@ func TestFreeTwice(t *testing.T) {
 
 func TestWhereNobodyIs(t *testing.T) {
 	for _, l := range some(t) {
-		for _, r := range slices.Concat(wrongResources, []api.Res{at("1"), at("3.2"), at("4.1"), at("1.3"), at("250"), at("250.250")}) {
+		for _, r := range slices.Concat(wrongResources, []api.Res{check.At("1"), check.At("3.2"), check.At("4.1"), check.At("1.3"), check.At("250"), check.At("250.250")}) {
 			nobodyAt(t, l, r, slices.Concat(wrongNumbers, []int{7, 9, 10, 11, 99}))
 			check.Stop(t)
 		}
@@ -740,11 +730,11 @@ func TestModeOfEach(t *testing.T) {
 		{1048576, "3", api.IX}, {1048576, "3.1", api.S}, {1048576, "3.2", api.None}, {1048576, "1", api.None},
 		{257, "3", api.IS}, {257, "3.1", api.S}, {258, "3", api.None}, {258, "3.1", api.None},
 	} {
-		isMode(t, l, q.tx, at(q.text), q.want)
+		isMode(t, l, q.tx, check.At(q.text), q.want)
 	}
 	for _, tx := range slices.Concat(wrongNumbers, []int{1, 2, 256, 259, 1048575}) {
-		isMode(t, l, tx, at("3"), api.None)
-		isMode(t, l, tx, at("3.1"), api.None)
+		isMode(t, l, tx, check.At("3"), api.None)
+		isMode(t, l, tx, check.At("3.1"), api.None)
 		has(t, l, tx, "")
 		waitsNowhere(t, l, tx, api.ErrNone)
 	}
@@ -773,7 +763,7 @@ func TestWaitTellsItsAim(t *testing.T) {
 	waitsFor(t, l, 3, "3:3.103S")
 	waitsNowhere(t, l, 2, api.ErrNone)
 	grants(t, l, 4, "4", api.IS)
-	if got, err := l.Ask(2, 1048576, at("4"), api.X); got || err != nil {
+	if got, err := l.Ask(2, 1048576, check.At("4"), api.X); got || err != nil {
 		t.Errorf("%v, %v", got, err)
 	}
 	waitsFor(t, l, 2, "4:2.1048576X")
@@ -828,7 +818,7 @@ func TestTellingChangesNothing(t *testing.T) {
 		for tx := -1; tx < 12; tx++ {
 			l.Wait(tx)
 			l.Has(tx)
-			for _, r := range append([]api.Res{at("3"), at("3.1"), at("4"), at("9.1")}, wrongResources...) {
+			for _, r := range append([]api.Res{check.At("3"), check.At("3.1"), check.At("4"), check.At("9.1")}, wrongResources...) {
 				l.Mode(tx, r)
 				l.Holders(r)
 				l.Waiting(r)
@@ -866,8 +856,8 @@ func TestWhatIsToldIsNewMemory(t *testing.T) {
 	l := grown(t)
 	before := whole(l)
 	for range 3 {
-		check.Spoil(l.Holders(at("3")), wrongHold)
-		check.Spoil(l.Waiting(at("3.2")), wrongWait)
+		check.Spoil(l.Holders(check.At("3")), wrongHold)
+		check.Spoil(l.Waiting(check.At("3.2")), wrongWait)
 		check.Spoil(l.Has(9), wrongGrant)
 		check.Spoil(l.Edges(), wrongEdge)
 		check.Spoil(l.All(), api.Res{Table: -1, Row: -1})
@@ -882,15 +872,15 @@ func TestWhatIsToldIsNewMemory(t *testing.T) {
 
 func TestWhatWasToldStaysAsItWas(t *testing.T) {
 	l := grown(t)
-	holders, waiting, some, edges, all := l.Holders(at("3")), l.Waiting(at("3.2")), l.Has(9), l.Edges(), l.All()
+	holders, waiting, some, edges, all := l.Holders(check.At("3")), l.Waiting(check.At("3.2")), l.Has(9), l.Edges(), l.All()
 	granted := l.Free(9)
 	for tx := 1; tx <= 20; tx++ {
-		l.Ask(tx, 1, at("3"), api.X)
+		l.Ask(tx, 1, check.At("3"), api.X)
 		l.Free(tx - 3)
 	}
 	now := strings.Join([]string{check.Held(holders), check.Queued(waiting), check.Granted(some), check.Edged(edges), check.Granted(granted)}, "; ")
 	want := "1IX 2IX 3IX 4IX 5IX 6IX 7IX 8IX 9IX; 2.102S; 3:9IX 3.1:9X 3.2:9X 3.3:9X 3.4:9X; 1.101>9 2.102>9 3.103>9 4.104>9; 3.1:1.101S 3.2:2.102S 3.3:3.103S 3.4:4.104S"
-	if now != want || !slices.Equal(all, []api.Res{at("3"), at("3.1"), at("3.2"), at("3.3"), at("3.4")}) {
+	if now != want || !slices.Equal(all, []api.Res{check.At("3"), check.At("3.1"), check.At("3.2"), check.At("3.3"), check.At("3.4")}) {
 		t.Errorf("what was told is\n%s, %v now, want\n%s", now, all, want)
 	}
 }
@@ -915,7 +905,7 @@ func TestLocksAreApart(t *testing.T) {
 func TestNilLocks(t *testing.T) {
 	var l *locks.Locks
 	for _, tx := range slices.Concat(numbers, wrongNumbers) {
-		for _, r := range append([]api.Res{at("3"), at("3.1")}, wrongResources...) {
+		for _, r := range append([]api.Res{check.At("3"), check.At("3.1")}, wrongResources...) {
 			for _, m := range []api.Mode{-1, api.None, api.IS, api.X, 5} {
 				mayNot(t, l, tx, 1, r, m)
 			}

@@ -9,7 +9,6 @@ import (
 	"catchbolt/api"
 	"catchbolt/check"
 	"catchbolt/msg"
-	"catchbolt/res"
 	"catchbolt/shard"
 )
 
@@ -43,22 +42,13 @@ func made(t *testing.T, c api.Config) *shard.Shard {
 	return numbered(t, here, c)
 }
 
-// at is the resource of a text.
-func at(text string) api.Res {
-	r, err := res.Parse(text)
-	if err != nil {
-		panic(text)
-	}
-	return r
-}
-
 // step is a transaction's request.
 func step(tx, seq int) api.Step { return api.Step{Tx: tx, Seq: seq} }
 
 // The messages to the usual shard.
 
 func lock(tx, seq int, text string, m api.Mode) api.Msg {
-	return api.Msg{Kind: api.KLock, To: here, Tx: tx, Seq: seq, At: at(text), Mode: m}
+	return api.Msg{Kind: api.KLock, To: here, Tx: tx, Seq: seq, At: check.At(text), Mode: m}
 }
 
 func prepare(tx int) api.Msg { return api.Msg{Kind: api.KPrepare, To: here, Tx: tx} }

@@ -208,7 +208,7 @@ func unhurt(sent []api.Msg, views ...shard.View) string {
 }
 
 func TestWhatIsBrokenIsFound(t *testing.T) {
-	hold := func(tx int, text string, m api.Mode) api.Grant { return api.Grant{Tx: tx, At: at(text), Mode: m} }
+	hold := func(tx int, text string, m api.Mode) api.Grant { return api.Grant{Tx: tx, At: check.At(text), Mode: m} }
 	is := func(tx, state int) []shard.State { return []shard.State{{Tx: tx, State: state}} }
 	locked := shard.View{States: is(5, part.Prepared), Held: []api.Grant{hold(5, "3", api.X)}}
 	wounded := shard.View{Edges: []api.Edge{{From: 2, Seq: 1, To: 5}, {From: 7, Seq: 1, To: 5}}}
