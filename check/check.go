@@ -1,4 +1,4 @@
-// Package check tells the tests of all layers which error an answer has, and has the values, the edges and the messages that they try, and the texts by which they name what is told.
+// Package check tells the tests of all layers which error an answer has, and has the values, the configs, the edges and the messages that they try, and the texts by which they name what is told.
 package check
 
 import (

@@ -4,12 +4,14 @@ import (
 	"errors"
 	"fmt"
 	"slices"
+	"strings"
 	"testing"
 
 	"catchbolt/api"
 	"catchbolt/check"
 	"catchbolt/msg"
 	"catchbolt/res"
+	"catchbolt/txn"
 )
 
 // fault and refusal wrap an error.
@@ -126,6 +128,102 @@ func TestSent(t *testing.T) {
 	same(t, check.Sent(check.Others()), "lock 250.250:1048576.1048576X, granted 3:7.9IS, refused 7.9 9, prepare 7, vote 7 1, decide 7 0, ack 7, renew 7, expired 7, wound 7 by 5")
 	same(t, check.Sent([]api.Msg{check.Probe(1), check.Down(check.Probe(2)), {Kind: api.KProbe, Next: 5}}), "probe 100.200 > 1000.70, probe 100.200 101.201 > 1000.70, probe  > 5")
 	same(t, check.Sent([]api.Msg{{}, {Kind: 12, Tx: 7}, {Kind: -1}}), "?0 0, ?12 7, ?-1 0")
+}
+
+func TestSentTo(t *testing.T) {
+	same(t, check.SentTo(nil), "")
+	same(t, check.SentTo([]api.Msg{{Kind: api.KPrepare, To: 2, Tx: 7}, check.Others()[0]}), "2: prepare 7, 64: lock 250.250:1048576.1048576X")
+	for _, m := range append(check.WrongMessages(), api.Msg{Kind: api.KVote, From: 2, Tx: 7}) {
+		if !strings.HasSuffix(check.SentTo([]api.Msg{m}), "which may not be") {
+			t.Errorf("%+v may be", m)
+		}
+	}
+}
+
+func TestTraced(t *testing.T) {
+	at := api.Res{Table: 3, Row: 14}
+	same(t, check.Traced(nil), "")
+	same(t, check.Traced([]api.Event{
+		{Kind: api.EvBegan, Client: 2, Tx: 1}, {Kind: api.EvAsked, Tx: 1, At: at, Mode: api.X}, {Kind: api.EvGranted, Tx: 1, At: at, Mode: api.S},
+		{Kind: api.EvRefused, Tx: 1, At: at, Code: 9}, {Kind: api.EvFinish, Tx: 1}, {Kind: api.EvCommitted, Tx: 1}, {Kind: api.EvAborted, Tx: 1, Code: 3}, {Kind: api.EvCrashed, Client: 2},
+	}), "began 1 client 2, asked 1 3.14X, granted 1 3.14S, refused 1 3.14 9, finish 1, committed 1, aborted 1 3, crashed client 2")
+	same(t, check.Traced([]api.Event{{}, {Kind: 9, Mode: 5}, {Kind: -1, Code: -1}, {Kind: api.EvFinish, Client: 1, Tx: -1, At: api.Res{Row: 1}, Mode: api.IX, Code: 7}}), "?0, ?9?5, ?-1 -1, finish -1 client 1 0.1IX 7")
+}
+
+// aborted is a transaction that has something of all.
+func aborted() txn.Txn {
+	return txn.Txn{
+		Tx: 7, State: txn.Aborted, Reason: txn.ByWound, Seq: 2, Open: true, Shard: 5, At: check.At("3.14"), Mode: api.X,
+		Touched: []int{2, 5}, Votes: []int{2}, Acks: []int{5}, Got: []api.Grant{{Tx: 7, Seq: 1, At: check.At("3"), Mode: api.IS}},
+	}
+}
+
+func TestTxn(t *testing.T) {
+	same(t, check.Txn(txn.Txn{Tx: 7, State: txn.Active}), "7 Active")
+	same(t, check.Txn(txn.Txn{State: -1}), "0 ?-1")
+	same(t, check.Txn(txn.Txn{Tx: 8, State: txn.Committed, Seq: 1, Shard: 5, At: check.At("3"), Mode: api.S, Touched: []int{5}}), "8 Committed; request 1 of 5: 3S; touched 5")
+	same(t, check.Txn(aborted()), "7 Aborted 3; request 2 of 5: 3.14X, open; touched 2 5; votes 2; acks 5; got 3:7.1IS")
+}
+
+// changes change a transaction, each by one thing.
+func changes() []func(x *txn.Txn) {
+	return []func(x *txn.Txn){
+		func(x *txn.Txn) { x.Tx++ }, func(x *txn.Txn) { x.State++ }, func(x *txn.Txn) { x.Reason++ }, func(x *txn.Txn) { x.Seq++ }, func(x *txn.Txn) { x.Open = false },
+		func(x *txn.Txn) { x.Shard++ }, func(x *txn.Txn) { x.At.Table++ }, func(x *txn.Txn) { x.At.Row++ }, func(x *txn.Txn) { x.Mode-- },
+		func(x *txn.Txn) { x.Touched = []int{2} }, func(x *txn.Txn) { x.Votes = nil }, func(x *txn.Txn) { x.Acks = []int{2} }, func(x *txn.Txn) { x.Got = []api.Grant{{}} },
+	}
+}
+
+func TestSameTxn(t *testing.T) {
+	if !check.SameTxn(aborted(), aborted()) || !check.SameTxn(txn.Txn{}, txn.Txn{Touched: []int{}, Got: []api.Grant{}}) {
+		t.Error("they aren't the same")
+	}
+	for i, change := range changes() {
+		x := aborted()
+		if change(&x); check.SameTxn(x, aborted()) || check.SameTxn(aborted(), x) {
+			t.Errorf("%d: %s", i, check.Txn(x))
+		}
+	}
+}
+
+func TestSpoilTxn(t *testing.T) {
+	x, empty := aborted(), txn.Txn{Tx: 7}
+	if check.IsSpoiled(x) || !check.IsSpoiled(empty) {
+		t.Errorf("%s, %s", check.Txn(x), check.Txn(empty))
+	}
+	if check.SpoilTxn(x); !check.IsSpoiled(x) {
+		t.Error(check.Txn(x))
+	}
+	for i, change := range changes()[9:] {
+		one := x
+		if change(&one); check.IsSpoiled(one) != (i == 1) { // of votes it has none any more
+			t.Errorf("%d: %s", i, check.Txn(one))
+		}
+	}
+}
+
+func TestConfigs(t *testing.T) {
+	many := 0
+	check.Both(func(c api.Config) {
+		if many++; c != check.Roomy(many == 2) || c.Probe != (many == 2) {
+			t.Errorf("%+v", c)
+		}
+		var met []int
+		for i, f := range check.Fields() {
+			eachOutside(t, f.Wrong(), 1, f.Most, true)
+			eachOutside(t, []int{*f.Of(&c)}, 1, f.Most, false)
+			*f.Of(&c) = -i
+		}
+		for _, n := range []int{c.Shards, c.Lease, c.Resend, c.Slots, c.Queue, c.Flight} {
+			met = append(met, -n)
+		}
+		if !slices.Equal(met, check.UpTo(0, 5)) {
+			t.Error(met)
+		}
+	})
+	if many != 2 {
+		t.Error(many)
+	}
 }
 
 func TestEdges(t *testing.T) {

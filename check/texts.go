@@ -105,3 +105,30 @@ func dotted(first, then int) string {
 	}
 	return strconv.Itoa(first) + "." + strconv.Itoa(then)
 }
+
+// Traced is the text of events: "began 1 client 2, asked 1 3.14X, refused 1 3.14 9", each with all that it has that isn't 0.
+func Traced(l []api.Event) string { return between(", ", l, traced) }
+
+// traced is the text of an event.
+func traced(e api.Event) string {
+	text := "?" + strconv.Itoa(e.Kind)
+	if e.Kind >= api.EvBegan && e.Kind <= api.EvCrashed {
+		text = []string{"began", "asked", "granted", "refused", "finish", "committed", "aborted", "crashed"}[e.Kind-api.EvBegan]
+	}
+	if e.Tx != 0 {
+		text += " " + strconv.Itoa(e.Tx)
+	}
+	if e.Client != 0 {
+		text += " client " + strconv.Itoa(e.Client)
+	}
+	if e.At != (api.Res{}) {
+		text += " " + Res(e.At)
+	}
+	if e.Mode != api.None {
+		text += Mode(e.Mode)
+	}
+	if e.Code != 0 {
+		text += " " + strconv.Itoa(e.Code)
+	}
+	return text
+}

@@ -21,11 +21,6 @@ var states = []string{"Fresh", "Active", "Prepared", "Expired", "Committed", "Ab
 // mixed are transactions that don't rise; as texts they would stand in another order, too.
 var mixed = []int{100, 9, 1048576, 10, 1, 2, 65536, 99, 65537, 1000, 256}
 
-// roomy is a config that has room for whatever most tests do, in which no lease ends, and nothing is sent again, for long.
-func roomy(probe bool) api.Config {
-	return api.Config{Shards: 4, Probe: probe, Lease: 1000, Resend: 1000, Slots: 4096, Queue: 64, Flight: 100}
-}
-
 // numbered is a new shard of a number.
 func numbered(t *testing.T, id int, c api.Config) *shard.Shard {
 	t.Helper()
@@ -210,12 +205,6 @@ func quiet(t *testing.T, s *shard.Shard, many int) {
 	for range many {
 		ticks(t, s, "")
 	}
-}
-
-// both calls f for a config without probes, and for one with probes, which are alike but for that.
-func both(f func(c api.Config)) {
-	f(roomy(false))
-	f(roomy(true))
 }
 
 // either is the text of what is sent without probes, or with probes, as a config has it.

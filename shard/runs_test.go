@@ -28,7 +28,7 @@ func TestEachMessageInEachState(t *testing.T) {
 		{world{2, 2, []string{"1"}, []api.Mode{api.S, api.X}, false}, 2, 2, 8, 2},
 		{world{3, 1, []string{"1"}, []api.Mode{api.S, api.X}, false}, 2, 1, 8, 2},
 	} {
-		both(func(c api.Config) {
+		check.Both(func(c api.Config) {
 			c.Lease, c.Resend, c.Slots, c.Queue = q.lease, q.resend, q.slots, q.queue
 			many := q.w.eachState(t, c, func(ahead []api.Msg) {
 				for _, m := range q.w.all() {
@@ -98,7 +98,7 @@ func eachRun(f func(c api.Config, run []api.Msg)) {
 	by := uint64(15)
 	for _, q := range chances() {
 		for n := range 24 {
-			both(func(c api.Config) {
+			check.Both(func(c api.Config) {
 				c.Lease, c.Resend = []int{1, 2, 5, 12}[n%4], []int{1, 3, 7}[n%3]
 				c.Slots, c.Queue = []int{4096, 12, 5}[n/4%3], []int{64, 2}[n/12]
 				var run []api.Msg
@@ -281,7 +281,7 @@ func TestRunsAreSound(t *testing.T) {
 
 func TestEachThatIsDecidedIsSoWhateverComes(t *testing.T) {
 	w := world{3, 3, []string{"1", "1.1", "2"}, check.Modes(), true}
-	both(func(c api.Config) {
+	check.Both(func(c api.Config) {
 		c.Lease, c.Resend = 2, 2
 		for code := range 2 {
 			for _, ahead := range w.all() {

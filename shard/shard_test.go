@@ -15,7 +15,7 @@ import (
 // The document's examples.
 
 func TestExample(t *testing.T) {
-	s := made(t, roomy(false))
+	s := made(t, check.Roomy(false))
 	sends(t, s, lock(5, 1, "3", api.X), "granted 3:5.1X")
 	sends(t, s, lock(2, 1, "3", api.X), "wound 5 by 2")
 	sends(t, s, decide(5, 0), "ack 5, granted 3:2.1X")
@@ -23,40 +23,13 @@ func TestExample(t *testing.T) {
 }
 
 func TestExampleWithProbes(t *testing.T) {
-	s := made(t, roomy(true))
+	s := made(t, check.Roomy(true))
 	sends(t, s, lock(5, 1, "3", api.X), "granted 3:5.1X")
 	sends(t, s, lock(2, 1, "3", api.X), "probe 2.1 > 5")
 	sends(t, s, decide(5, 0), "ack 5, granted 3:2.1X")
 }
 
 // P15.1
-
-// field is one of a config's numbers, and its greatest one.
-type field struct {
-	name string
-	of   func(c *api.Config) *int
-	most int
-}
-
-// fields are all of a config's.
-func fields() []field {
-	return []field{
-		{"Shards", func(c *api.Config) *int { return &c.Shards }, 64},
-		{"Lease", func(c *api.Config) *int { return &c.Lease }, 1000},
-		{"Resend", func(c *api.Config) *int { return &c.Resend }, 1000},
-		{"Slots", func(c *api.Config) *int { return &c.Slots }, 4096},
-		{"Queue", func(c *api.Config) *int { return &c.Queue }, 64},
-		{"Flight", func(c *api.Config) *int { return &c.Flight }, 65536},
-	}
-}
-
-// wrong are numbers that a field may not have: just past its edges, and far beyond; some would be near if they were cut.
-func (f field) wrong() []int {
-	all := []int{f.most + 1, f.most + 2, f.most + 255, f.most + 256, 2 * f.most, f.most + 65536, f.most + 1<<32, -f.most, -f.most - 1, math.MinInt + f.most}
-	all = append(all, check.WrongLimits()...)
-	all = append(all, check.WrongNumbers()...)
-	return slices.DeleteFunc(all, func(n int) bool { return n >= 1 && n <= f.most })
-}
 
 // checks checks what Check answers.
 func checks(t *testing.T, c api.Config, may bool) {
@@ -76,11 +49,11 @@ func isMade(t *testing.T, id int, c api.Config, want api.Errno) {
 }
 
 func TestCheckOfEachNumberThatMayBe(t *testing.T) {
-	both(func(c api.Config) {
-		for _, f := range fields() {
-			for n := 1; n <= f.most; n++ {
+	check.Both(func(c api.Config) {
+		for _, f := range check.Fields() {
+			for n := 1; n <= f.Most; n++ {
 				one := c
-				*f.of(&one) = n
+				*f.Of(&one) = n
 				checks(t, one, true)
 			}
 		}
@@ -88,11 +61,11 @@ func TestCheckOfEachNumberThatMayBe(t *testing.T) {
 }
 
 func TestCheckOfEachNumberThatMayNotBe(t *testing.T) {
-	both(func(c api.Config) {
-		for _, f := range fields() {
-			for _, n := range f.wrong() {
+	check.Both(func(c api.Config) {
+		for _, f := range check.Fields() {
+			for _, n := range f.Wrong() {
 				one := c
-				*f.of(&one) = n
+				*f.Of(&one) = n
 				checks(t, one, false)
 				isMade(t, here, one, api.ErrConfig)
 				isMade(t, 0, one, api.ErrConfig)
@@ -104,12 +77,12 @@ func TestCheckOfEachNumberThatMayNotBe(t *testing.T) {
 
 func TestCheckAndNewOfSeveralNumbersAtOnce(t *testing.T) {
 	const ways = 4
-	all := fields()
+	all := check.Fields()
 	for n := range ways * ways * ways * ways * ways * ways {
 		c, may := api.Config{Probe: n%3 == 0}, true
 		rest := n
 		for _, f := range all {
-			*f.of(&c) = []int{0, 1, f.most, f.most + 1}[rest%ways]
+			*f.Of(&c) = []int{0, 1, f.Most, f.Most + 1}[rest%ways]
 			may = may && rest%ways%3 != 0
 			rest /= ways
 		}
@@ -130,7 +103,7 @@ func TestCheckAndNewOfSeveralNumbersAtOnce(t *testing.T) {
 }
 
 func TestNewOfEachNumber(t *testing.T) {
-	both(func(c api.Config) {
+	check.Both(func(c api.Config) {
 		c.Shards = 1 // a shard may have a number above how many there are
 		for id := 1; id <= 64; id++ {
 			s := numbered(t, id, c)
@@ -147,7 +120,7 @@ func TestNewOfEachNumber(t *testing.T) {
 
 func TestEachShardSendsByItsNumber(t *testing.T) {
 	for id := 1; id <= 64; id++ {
-		c := roomy(false)
+		c := check.Roomy(false)
 		c.Lease, c.Resend = 2, 1
 		s := numbered(t, id, c)
 		var sent []api.Msg
@@ -176,7 +149,7 @@ func TestEachShardSendsByItsNumber(t *testing.T) {
 
 func TestEachLeaseEndsWhenItIsDue(t *testing.T) {
 	for span := 1; span <= 1000; span += 1 + span/10 {
-		c := roomy(span%2 == 0)
+		c := check.Roomy(span%2 == 0)
 		c.Lease = span
 		s := made(t, c)
 		quiet(t, s, 3)
@@ -185,7 +158,7 @@ func TestEachLeaseEndsWhenItIsDue(t *testing.T) {
 		ticks(t, s, "expired 5")
 		check.Stop(t)
 	}
-	s := made(t, roomy(false))
+	s := made(t, check.Roomy(false))
 	sends(t, s, lock(5, 1, "3", api.X), "granted 3:5.1X")
 	quiet(t, s, 999)
 	ticks(t, s, "expired 5")
@@ -193,7 +166,7 @@ func TestEachLeaseEndsWhenItIsDue(t *testing.T) {
 
 func TestSlotsAndQueueAreTheConfigs(t *testing.T) {
 	for _, n := range []int{1, 2, 5, 63, 64} {
-		c := roomy(false)
+		c := check.Roomy(false)
 		c.Slots, c.Queue = 64*n, n
 		s := made(t, c)
 		sends(t, s, lock(1000, 1, "3", api.X), "granted 3:1000.1X")
@@ -212,7 +185,7 @@ func TestSlotsAndQueueAreTheConfigs(t *testing.T) {
 // P15.2: which messages come.
 
 func TestHandleOfWhatMayNotBe(t *testing.T) {
-	both(func(c api.Config) {
+	check.Both(func(c api.Config) {
 		s := made(t, c)
 		sends(t, s, lock(7, 1, "3", api.X), "granted 3:7.1X")
 		for _, m := range check.WrongMessages() {
@@ -246,7 +219,7 @@ func TestHandleOfWhatMayNotBe(t *testing.T) {
 }
 
 func TestHandleOfWhatIsToAnother(t *testing.T) {
-	both(func(c api.Config) {
+	check.Both(func(c api.Config) {
 		s := made(t, c)
 		sends(t, s, lock(7, 1, "3", api.X), "granted 3:7.1X")
 		for id := 1; id <= 64; id++ {
@@ -261,7 +234,7 @@ func TestHandleOfWhatIsToAnother(t *testing.T) {
 }
 
 func TestHandleOfKindsThatAreForNoShard(t *testing.T) {
-	both(func(c api.Config) {
+	check.Both(func(c api.Config) {
 		for _, id := range []int{1, here, 64} {
 			s := numbered(t, id, c)
 			for _, m := range append(check.Others(), check.Probe(1), check.Probe(7)) {
@@ -283,7 +256,7 @@ func TestHandleOfKindsThatAreForNoShard(t *testing.T) {
 }
 
 func TestWhatIsWrongAndToAnotherIsWrong(t *testing.T) {
-	s := made(t, roomy(false))
+	s := made(t, check.Roomy(false))
 	for _, m := range []api.Msg{
 		{Kind: api.KPrepare, To: 2}, {Kind: api.KPrepare, To: 65, Tx: 7}, {Kind: api.KPrepare, To: -3, Tx: 7}, {Kind: api.KPrepare, Tx: 7},
 		{Kind: api.KVote, From: 2, Tx: 7, Code: 2}, {Kind: api.KVote, From: 2, To: 2, Tx: 7}, {Kind: 12, To: 2, Tx: 7},
@@ -293,7 +266,7 @@ func TestWhatIsWrongAndToAnotherIsWrong(t *testing.T) {
 }
 
 func TestWhatMayNotComeTellsNothingOfWhoIsHurt(t *testing.T) {
-	s := made(t, roomy(false))
+	s := made(t, check.Roomy(false))
 	sends(t, s, lock(5, 1, "3", api.X), "granted 3:5.1X")
 	sends(t, s, lock(2, 1, "3", api.X), "wound 5 by 2")
 	mayNot(t, s, prepare(0), api.ErrForm)
@@ -308,7 +281,7 @@ func TestWhatMayNotComeTellsNothingOfWhoIsHurt(t *testing.T) {
 // in is a shard at the time 4, of leases of 4 ticks, where 5 is in that state; it asked for X of 3, if it asked.
 func in(t *testing.T, state int, probe bool) *shard.Shard {
 	t.Helper()
-	c := roomy(probe)
+	c := check.Roomy(probe)
 	c.Lease = 4
 	s := made(t, c)
 	first := lock(5, 1, "3", api.X)
@@ -347,7 +320,7 @@ func ours(state int) string {
 }
 
 func TestInHasEachState(t *testing.T) {
-	both(func(c api.Config) {
+	check.Both(func(c api.Config) {
 		for state := range states {
 			s := in(t, state, c.Probe)
 			tells(t, s, ours(state))
@@ -383,7 +356,7 @@ func TestEachKindInEachState(t *testing.T) {
 		}},
 		{renew(5), [6]string{"", "", "", "expired 5", "", ""}, [6]int{0, 1, 2, 3, 4, 5}, [6]string{}},
 	} {
-		both(func(c api.Config) {
+		check.Both(func(c api.Config) {
 			for state, sent := range q.sent {
 				s := in(t, state, c.Probe)
 				sends(t, s, q.m, sent)
@@ -401,7 +374,7 @@ func TestEachKindInEachState(t *testing.T) {
 // waiting is a shard where 5 has X of 4, and waits for X of 3 by its request 2, which 9 has; at the time 2, of leases of 4 ticks, renewed then.
 func waiting(t *testing.T, probe bool) *shard.Shard {
 	t.Helper()
-	c := roomy(probe)
+	c := check.Roomy(probe)
 	c.Lease = 4
 	s := made(t, c)
 	quiet(t, s, 2)
@@ -413,7 +386,7 @@ func waiting(t *testing.T, probe bool) *shard.Shard {
 }
 
 func TestEachKindOfOneThatWaits(t *testing.T) {
-	both(func(c api.Config) {
+	check.Both(func(c api.Config) {
 		stays(t, waiting(t, c.Probe), prepare(5), "vote 5 0")
 		stays(t, waiting(t, c.Probe), renew(5), "")
 		stays(t, waiting(t, c.Probe), lock(5, 2, "3", api.X), "") // it is open
@@ -431,7 +404,7 @@ func TestEachKindOfOneThatWaits(t *testing.T) {
 }
 
 func TestOneThatWaitsIsPreparedOnceItWaitsNoMore(t *testing.T) {
-	both(func(c api.Config) {
+	check.Both(func(c api.Config) {
 		s := waiting(t, c.Probe)
 		stays(t, s, prepare(5), "vote 5 0")
 		stays(t, s, prepare(5), "vote 5 0")
@@ -443,7 +416,7 @@ func TestOneThatWaitsIsPreparedOnceItWaitsNoMore(t *testing.T) {
 }
 
 func TestAFreshOneIsVotedAgainstAndStaysFresh(t *testing.T) {
-	s := made(t, roomy(false))
+	s := made(t, check.Roomy(false))
 	stays(t, s, prepare(5), "vote 5 0")
 	stays(t, s, renew(5), "")
 	stays(t, s, prepare(5), "vote 5 0")
@@ -453,7 +426,7 @@ func TestAFreshOneIsVotedAgainstAndStaysFresh(t *testing.T) {
 
 func TestADecisionStaysAsItCameFirst(t *testing.T) {
 	for first := range 2 {
-		s := made(t, roomy(false))
+		s := made(t, check.Roomy(false))
 		sends(t, s, lock(5, 1, "3", api.X), "granted 3:5.1X")
 		sends(t, s, decide(5, first), "ack 5")
 		sends(t, s, lock(7, 1, "3", api.X), "granted 3:7.1X")
@@ -469,7 +442,7 @@ func TestADecisionStaysAsItCameFirst(t *testing.T) {
 // P15.2: leases.
 
 func TestALeaseIsRenewedByEachThatSaysSo(t *testing.T) {
-	both(func(c api.Config) {
+	check.Both(func(c api.Config) {
 		for _, q := range []struct {
 			m          api.Msg
 			sent, ends string
@@ -509,7 +482,7 @@ func TestALeaseIsRenewedByEachThatSaysSo(t *testing.T) {
 }
 
 func TestALeaseIsNotRenewedByOthers(t *testing.T) {
-	both(func(c api.Config) {
+	check.Both(func(c api.Config) {
 		s := waiting(t, c.Probe)
 		quiet(t, s, 3)
 		come(t, s, prepare(5), renew(7), lock(7, 1, "7", api.S), probing(step(5, 0), step(20, 1)), prepare(8))
@@ -521,7 +494,7 @@ func TestALeaseIsNotRenewedByOthers(t *testing.T) {
 }
 
 func TestWhatIsPreparedHasNoLease(t *testing.T) {
-	both(func(c api.Config) {
+	check.Both(func(c api.Config) {
 		s := in(t, part.Prepared, c.Probe)
 		for range 3 {
 			stays(t, s, renew(5), "")
@@ -534,7 +507,7 @@ func TestWhatIsPreparedHasNoLease(t *testing.T) {
 }
 
 func TestAWaitingOneThatIsGrantedIsNotRenewedByThat(t *testing.T) {
-	both(func(c api.Config) {
+	check.Both(func(c api.Config) {
 		s := waiting(t, c.Probe)
 		quiet(t, s, 3)
 		sends(t, s, decide(9, 1), "ack 9, granted 3:5.2X")
@@ -545,7 +518,7 @@ func TestAWaitingOneThatIsGrantedIsNotRenewedByThat(t *testing.T) {
 // P15.2: requests.
 
 func TestALockIsRefusedForEachReason(t *testing.T) {
-	both(func(c api.Config) {
+	check.Both(func(c api.Config) {
 		c.Slots, c.Queue = 7, 2
 		s := made(t, c)
 		sends(t, s, lock(1, 1, "3", api.IX), "granted 3:1.1IX")
@@ -572,7 +545,7 @@ func TestALockIsRefusedForEachReason(t *testing.T) {
 }
 
 func TestALineThatIsFull(t *testing.T) {
-	both(func(c api.Config) {
+	check.Both(func(c api.Config) {
 		c.Queue = 1
 		s := made(t, c)
 		sends(t, s, lock(1, 1, "3", api.X), "granted 3:1.1X")
@@ -583,7 +556,7 @@ func TestALineThatIsFull(t *testing.T) {
 }
 
 func TestALockIsAnsweredWithTheModeThatOneHasThen(t *testing.T) {
-	both(func(c api.Config) {
+	check.Both(func(c api.Config) {
 		s := made(t, c)
 		sends(t, s, lock(5, 1, "3", api.IX), "granted 3:5.1IX")
 		sends(t, s, lock(5, 2, "3", api.IS), "granted 3:5.2IX") // it has more already
@@ -599,7 +572,7 @@ func TestALockIsAnsweredWithTheModeThatOneHasThen(t *testing.T) {
 }
 
 func TestALockThatComesAgainIsAnsweredAgain(t *testing.T) {
-	both(func(c api.Config) {
+	check.Both(func(c api.Config) {
 		s := made(t, c)
 		sends(t, s, lock(5, 4, "3", api.S), "granted 3:5.4S")
 		stays(t, s, lock(5, 4, "3", api.S), "granted 3:5.4S")
@@ -618,7 +591,7 @@ func TestALockThatComesAgainIsAnsweredAgain(t *testing.T) {
 }
 
 func TestARefusalStaysWhenItsReasonIsGone(t *testing.T) {
-	both(func(c api.Config) {
+	check.Both(func(c api.Config) {
 		c.Slots = 1
 		s := made(t, c)
 		sends(t, s, lock(5, 1, "3", api.S), "granted 3:5.1S")
@@ -630,7 +603,7 @@ func TestARefusalStaysWhenItsReasonIsGone(t *testing.T) {
 }
 
 func TestALockThatWaitsIsAskedOnce(t *testing.T) {
-	both(func(c api.Config) {
+	check.Both(func(c api.Config) {
 		s := waiting(t, c.Probe)
 		for range 3 {
 			stays(t, s, lock(5, 2, "3", api.X), "")
@@ -642,7 +615,7 @@ func TestALockThatWaitsIsAskedOnce(t *testing.T) {
 }
 
 func TestOneThatWaitsIsGrantedBehindALaterRequest(t *testing.T) {
-	both(func(c api.Config) {
+	check.Both(func(c api.Config) {
 		s := waiting(t, c.Probe)
 		stays(t, s, lock(5, 6, "3", api.X), "refused 5.6 8")
 		stays(t, s, lock(5, 2, "3", api.X), "") // elder than that, though it waits
@@ -656,7 +629,7 @@ func TestOneThatWaitsIsGrantedBehindALaterRequest(t *testing.T) {
 }
 
 func TestRequestsOfEachTransactionAreItsOwn(t *testing.T) {
-	s := made(t, roomy(false))
+	s := made(t, check.Roomy(false))
 	for i, tx := range mixed {
 		sends(t, s, lock(tx, 20-i, "3", api.IS), "granted 3:"+check.Step(tx, 20-i)+"IS")
 	}
@@ -667,7 +640,7 @@ func TestRequestsOfEachTransactionAreItsOwn(t *testing.T) {
 }
 
 func TestAnyTableMayBeLockedHere(t *testing.T) {
-	both(func(c api.Config) {
+	check.Both(func(c api.Config) {
 		s := made(t, c) // whichever tables are its by their numbers
 		for table := 1; table <= 250; table++ {
 			r := api.Res{Table: table}
@@ -683,7 +656,7 @@ func TestAnyTableMayBeLockedHere(t *testing.T) {
 // many is a shard where 5 has much, for which others wait; its time is 2, its leases are of 4 ticks.
 func many(t *testing.T, probe bool) *shard.Shard {
 	t.Helper()
-	c := roomy(probe)
+	c := check.Roomy(probe)
 	c.Lease = 4
 	s := made(t, c)
 	quiet(t, s, 2)
@@ -702,7 +675,7 @@ func many(t *testing.T, probe bool) *shard.Shard {
 const grantedByMany = "granted 1:12.1IS, granted 3.2:4.2X, granted 3.14:8.2S, granted 3.14:11.2S, granted 20:7.1S, granted 20:2.1S"
 
 func TestLettingGoGrantsInOrder(t *testing.T) {
-	both(func(c api.Config) {
+	check.Both(func(c api.Config) {
 		for code := range 2 {
 			s := many(t, c.Probe)
 			sends(t, s, decide(5, code), "ack 5, "+grantedByMany)
@@ -717,7 +690,7 @@ func TestLettingGoGrantsInOrder(t *testing.T) {
 }
 
 func TestLettingGoAPreparedOneGrantsLikewise(t *testing.T) {
-	both(func(c api.Config) {
+	check.Both(func(c api.Config) {
 		s := many(t, c.Probe)
 		sends(t, s, prepare(5), "vote 5 1")
 		sends(t, s, decide(5, 1), "ack 5, "+grantedByMany)
@@ -725,7 +698,7 @@ func TestLettingGoAPreparedOneGrantsLikewise(t *testing.T) {
 }
 
 func TestALeaseThatEndsGrantsLikewise(t *testing.T) {
-	both(func(c api.Config) {
+	check.Both(func(c api.Config) {
 		s := many(t, c.Probe)
 		quiet(t, s, 3)
 		for _, tx := range []int{2, 4, 6, 7, 8, 9, 11, 12} {

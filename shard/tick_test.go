@@ -16,7 +16,7 @@ func sorted(l []int) []int { return slices.Sorted(slices.Values(l)) }
 // P15.2: who is hurt.
 
 func TestWhoIsHurtIsToldOnce(t *testing.T) {
-	s := made(t, roomy(false))
+	s := made(t, check.Roomy(false))
 	sends(t, s, lock(5, 1, "3", api.X), "granted 3:5.1X")
 	sends(t, s, lock(7, 1, "3", api.X), "") // a younger one waits for it
 	sends(t, s, lock(4, 1, "3", api.X), "wound 5 by 4, wound 7 by 4")
@@ -34,7 +34,7 @@ func TestWhoIsHurtIsToldOnce(t *testing.T) {
 }
 
 func TestWhoIsHurtByAnotherOneIsToldNoMore(t *testing.T) {
-	c := roomy(false)
+	c := check.Roomy(false)
 	c.Resend = 2
 	s := made(t, c)
 	sends(t, s, lock(5, 1, "3", api.X), "granted 3:5.1X")
@@ -51,7 +51,7 @@ func TestWhoIsHurtByAnotherOneIsToldNoMore(t *testing.T) {
 }
 
 func TestWhoIsHurtAgainIsToldAgain(t *testing.T) {
-	s := made(t, roomy(false))
+	s := made(t, check.Roomy(false))
 	sends(t, s, lock(5, 1, "3", api.X), "granted 3:5.1X")
 	for tx := 1; tx <= 4; tx++ {
 		sends(t, s, lock(tx, 1, "3", api.X), "wound 5 by "+check.Step(tx, 0))
@@ -67,7 +67,7 @@ func TestWhoIsHurtAgainIsToldAgain(t *testing.T) {
 
 func TestWhoIsHurtNoMoreByATickIsToldAgain(t *testing.T) {
 	for between := range 3 {
-		c := roomy(false)
+		c := check.Roomy(false)
 		c.Lease = 3
 		s := made(t, c)
 		sends(t, s, lock(2, 1, "3", api.IS), "granted 3:2.1IS")
@@ -85,7 +85,7 @@ func TestWhoIsHurtNoMoreByATickIsToldAgain(t *testing.T) {
 }
 
 func TestAllThatAreHurtAreToldRising(t *testing.T) {
-	s := made(t, roomy(false))
+	s := made(t, check.Roomy(false))
 	for _, tx := range slices.DeleteFunc(slices.Clone(mixed), func(tx int) bool { return tx < 3 }) {
 		sends(t, s, lock(tx, 1, "3", api.IS), "granted 3:"+check.Step(tx, 1)+"IS")
 	}
@@ -95,7 +95,7 @@ func TestAllThatAreHurtAreToldRising(t *testing.T) {
 }
 
 func TestEachIsHurtByTheEldestOne(t *testing.T) {
-	s := made(t, roomy(false))
+	s := made(t, check.Roomy(false))
 	sends(t, s, lock(9, 1, "3", api.X), "granted 3:9.1X")
 	sends(t, s, lock(9, 2, "5", api.X), "granted 5:9.2X")
 	sends(t, s, lock(9, 3, "4", api.S), "granted 4:9.3S")
@@ -103,7 +103,7 @@ func TestEachIsHurtByTheEldestOne(t *testing.T) {
 	sends(t, s, lock(7, 1, "3", api.X), "wound 9 by 7")
 	sends(t, s, lock(5, 1, "4", api.X), "wound 6 by 5")
 	sends(t, s, lock(3, 1, "5", api.X), "")
-	c := roomy(false)
+	c := check.Roomy(false)
 	c.Resend = 1
 	again := made(t, c)
 	come(t, again, lock(9, 1, "3", api.X), lock(9, 2, "4", api.X), lock(9, 3, "5", api.X), lock(7, 1, "3", api.X), lock(4, 1, "4", api.X), lock(5, 1, "5", api.X), lock(6, 1, "4", api.X))
@@ -111,7 +111,7 @@ func TestEachIsHurtByTheEldestOne(t *testing.T) {
 }
 
 func TestOneMayBeHurtByWhatItIsGrantedItself(t *testing.T) {
-	s := made(t, roomy(false))
+	s := made(t, check.Roomy(false))
 	sends(t, s, lock(5, 1, "3", api.IS), "granted 3:5.1IS")
 	sends(t, s, lock(1, 1, "3", api.IX), "granted 3:1.1IX")
 	sends(t, s, lock(2, 1, "3", api.S), "") // it waits for the elder one
@@ -125,7 +125,7 @@ func TestWhoIsPreparedMayBeHurt(t *testing.T) {
 }
 
 func TestWithProbesNobodyIsHurt(t *testing.T) {
-	c := roomy(true)
+	c := check.Roomy(true)
 	c.Resend = 1
 	s := made(t, c)
 	sends(t, s, lock(5, 1, "3", api.X), "granted 3:5.1X")
@@ -140,7 +140,7 @@ func TestWithProbesNobodyIsHurt(t *testing.T) {
 // P15.2: probes.
 
 func TestOneThatWaitsSendsItsProbesAlone(t *testing.T) {
-	s := made(t, roomy(true))
+	s := made(t, check.Roomy(true))
 	sends(t, s, lock(9, 1, "3", api.IX), "granted 3:9.1IX")
 	sends(t, s, lock(2, 1, "3", api.IX), "granted 3:2.1IX")
 	sends(t, s, lock(1, 1, "3", api.IS), "granted 3:1.1IS")
@@ -162,7 +162,7 @@ func passing(t *testing.T, c api.Config) *shard.Shard {
 }
 
 func TestAProbeGoesOnByWhatItsNextWaitsFor(t *testing.T) {
-	both(func(c api.Config) { // a probe that comes goes on, whatever the config says
+	check.Both(func(c api.Config) { // a probe that comes goes on, whatever the config says
 		s := passing(t, c)
 		stays(t, s, probing(step(7, 0), step(1, 1)), "probe 1.1 7.4 > 5")
 		stays(t, s, probing(step(7, 4), step(1, 1)), "probe 1.1 7.4 > 5") // the request that waits, not the last one
@@ -174,7 +174,7 @@ func TestAProbeGoesOnByWhatItsNextWaitsFor(t *testing.T) {
 }
 
 func TestAProbeEndsWhereItsNextDoesNotWait(t *testing.T) {
-	both(func(c api.Config) {
+	check.Both(func(c api.Config) {
 		s := passing(t, c)
 		for _, tx := range []int{1, 2, 3, 4, 5, 6, 8, 10, 1048576} {
 			for _, seq := range []int{0, 1, 4} {
@@ -186,7 +186,7 @@ func TestAProbeEndsWhereItsNextDoesNotWait(t *testing.T) {
 }
 
 func TestAProbeEndsWhereGoingOnHasAnError(t *testing.T) {
-	both(func(c api.Config) {
+	check.Both(func(c api.Config) {
 		s := passing(t, c)
 		for _, seq := range []int{1, 3, 5, 6, 1048576} {
 			stays(t, s, probing(step(7, seq), step(20, 1)), "") // it waits by another one
@@ -200,7 +200,7 @@ func TestAProbeEndsWhereGoingOnHasAnError(t *testing.T) {
 // P15.2: ticks.
 
 func TestTheTimeIsOneMoreByEachTick(t *testing.T) {
-	both(func(c api.Config) {
+	check.Both(func(c api.Config) {
 		s := made(t, c)
 		for n := range 2500 {
 			if now := s.View().Time; now != n {
@@ -216,7 +216,7 @@ func TestTheTimeIsOneMoreByEachTick(t *testing.T) {
 
 func TestMultiplesOfResendAlone(t *testing.T) {
 	for _, resend := range []int{1, 2, 3, 4, 5, 7, 10, 16, 100, 999, 1000} {
-		both(func(c api.Config) {
+		check.Both(func(c api.Config) {
 			c.Resend = resend
 			s := made(t, c)
 			want := either(c, "wound 5 by 2", "probe 2.1 > 5")
@@ -237,7 +237,7 @@ func TestMultiplesOfResendAlone(t *testing.T) {
 }
 
 func TestExpiredOnesAreSentAgainTillTheyAreDecided(t *testing.T) {
-	both(func(c api.Config) {
+	check.Both(func(c api.Config) {
 		c.Lease, c.Resend = 4, 3
 		s := made(t, c)
 		for i, tx := range mixed {
@@ -273,7 +273,7 @@ func expiredText(l []int) string {
 }
 
 func TestProbesAreSentAgainRising(t *testing.T) {
-	c := roomy(true)
+	c := check.Roomy(true)
 	c.Resend = 2
 	s := made(t, c)
 	come(t, s,
@@ -291,7 +291,7 @@ func TestProbesAreSentAgainRising(t *testing.T) {
 }
 
 func TestWoundsAreSentAgainRising(t *testing.T) {
-	c := roomy(false)
+	c := check.Roomy(false)
 	c.Resend = 2
 	s := made(t, c)
 	come(t, s,
@@ -310,7 +310,7 @@ func TestWoundsAreSentAgainRising(t *testing.T) {
 // due is a shard whose leases are of 6 ticks, and which sends again all 3 ticks, at the time 11: 40 and 30 are Expired, 20 and 4 will be at the next tick, 6 and 2 later.
 func due(t *testing.T, probe bool) *shard.Shard {
 	t.Helper()
-	c := roomy(probe)
+	c := check.Roomy(probe)
 	c.Lease, c.Resend = 6, 3
 	s := made(t, c)
 	come(t, s, lock(40, 1, "1", api.X), lock(30, 1, "2", api.X))
@@ -347,7 +347,7 @@ func dueIsOver(t *testing.T, s *shard.Shard) {
 }
 
 func TestOneThatIsDueMayBeGrantedAhead(t *testing.T) {
-	both(func(c api.Config) {
+	check.Both(func(c api.Config) {
 		c.Lease = 3
 		s := made(t, c)
 		come(t, s, lock(9, 1, "3", api.X), lock(2, 1, "3", api.X), lock(5, 1, "3", api.X), lock(7, 1, "3", api.X)) // all leases end at once
@@ -364,7 +364,7 @@ func TestOneThatIsDueMayBeGrantedAhead(t *testing.T) {
 }
 
 func TestManyLeasesEndAtOneTick(t *testing.T) {
-	both(func(c api.Config) {
+	check.Both(func(c api.Config) {
 		c.Lease = 5
 		s := made(t, c)
 		for _, tx := range mixed {

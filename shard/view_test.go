@@ -14,7 +14,7 @@ import (
 
 func TestViewOfAllInOrder(t *testing.T) {
 	for range 10 { // whatever the order of a map
-		c := roomy(false)
+		c := check.Roomy(false)
 		c.Lease = 10
 		s := made(t, c)
 		for i, tx := range mixed {
@@ -45,7 +45,7 @@ func TestViewOfAllInOrder(t *testing.T) {
 }
 
 func TestLogIsInTheOrderOfGrants(t *testing.T) {
-	both(func(c api.Config) {
+	check.Both(func(c api.Config) {
 		s := made(t, c)
 		come(t, s,
 			lock(9, 3, "7", api.X), lock(2, 1, "3", api.IX), lock(2, 2, "3.5", api.X), lock(9, 4, "3", api.X), lock(2, 3, "1", api.S), lock(2, 3, "1", api.S), lock(5, 1, "9.1", api.X),
@@ -59,7 +59,7 @@ func TestLogIsInTheOrderOfGrants(t *testing.T) {
 }
 
 func TestTheLogStaysWhenAllIsLetGo(t *testing.T) {
-	s := made(t, roomy(false))
+	s := made(t, check.Roomy(false))
 	sends(t, s, lock(5, 1, "3", api.X), "granted 3:5.1X")
 	sends(t, s, decide(5, 0), "ack 5")
 	sends(t, s, lock(6, 1, "3", api.X), "granted 3:6.1X")
@@ -78,7 +78,7 @@ func TestStateOfNumbersThatNoTransactionHas(t *testing.T) {
 }
 
 func TestTellingChangesNothing(t *testing.T) {
-	both(func(c api.Config) {
+	check.Both(func(c api.Config) {
 		s := many(t, c.Probe)
 		before := of(s)
 		for tx := -3; tx < 20; tx++ {
@@ -102,7 +102,7 @@ func spoil(v shard.View) {
 }
 
 func TestWhatViewToldMayBeChanged(t *testing.T) {
-	both(func(c api.Config) {
+	check.Both(func(c api.Config) {
 		s := many(t, c.Probe)
 		before := of(s)
 		for range 3 {
@@ -117,7 +117,7 @@ func TestWhatViewToldMayBeChanged(t *testing.T) {
 }
 
 func TestListsOfOneViewShareNothing(t *testing.T) {
-	s := made(t, roomy(false))
+	s := made(t, check.Roomy(false))
 	sends(t, s, lock(5, 1, "3", api.X), "granted 3:5.1X")
 	v := s.View()
 	v.Leases[0], v.Held[0].Tx = 99, 99
@@ -127,7 +127,7 @@ func TestListsOfOneViewShareNothing(t *testing.T) {
 }
 
 func TestWhatWasToldStaysAsItWas(t *testing.T) {
-	both(func(c api.Config) {
+	check.Both(func(c api.Config) {
 		s := many(t, c.Probe)
 		v := s.View()
 		want := text(v)
@@ -146,7 +146,7 @@ func TestWhatWasToldStaysAsItWas(t *testing.T) {
 var wrongMsg = api.Msg{Kind: -1, Tx: -1, Seq: -1, Path: [api.MaxPath]api.Step{{Tx: -1}}}
 
 func TestWhatIsSentIsNewMemory(t *testing.T) {
-	both(func(c api.Config) {
+	check.Both(func(c api.Config) {
 		c.Resend = 1
 		s := made(t, c)
 		for _, m := range []api.Msg{lock(5, 1, "3", api.X), lock(5, 2, "4.1", api.X), lock(5, 2, "4.1", api.X), lock(2, 1, "3", api.S), lock(1, 1, "3", api.S), probing(step(2, 0), step(30, 1))} {
@@ -168,7 +168,7 @@ func TestWhatIsSentIsNewMemory(t *testing.T) {
 }
 
 func TestShardsAreApart(t *testing.T) {
-	a, b := made(t, roomy(false)), numbered(t, 4, roomy(false))
+	a, b := made(t, check.Roomy(false)), numbered(t, 4, check.Roomy(false))
 	sends(t, a, lock(5, 1, "3", api.X), "granted 3:5.1X")
 	tells(t, b, "")
 	m := lock(2, 1, "3", api.X)

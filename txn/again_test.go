@@ -30,11 +30,11 @@ func TestAgainOfEachRequest(t *testing.T) {
 			x := more(t, begun(t, tx), ask(shard, "250.1", check.Modes()[shard%4]))
 			_, sent, _ := txn.Ask(begun(t, tx), shard, x.At, x.Mode)
 			if got := txn.Again(x, false); !slices.Equal(got, sent) {
-				t.Errorf("Again(%s) = %s, want what was sent", text(x), sentText(got))
+				t.Errorf("Again(%s) = %s, want what was sent", check.Txn(x), check.SentTo(got))
 			}
 			renew := api.Msg{Kind: api.KRenew, To: shard, Tx: tx}
 			if got := txn.Again(x, true); !slices.Equal(got, append(slices.Clone(sent), renew)) {
-				t.Errorf("Again(%s) = %s, want what was sent, and a renewal", text(x), sentText(got))
+				t.Errorf("Again(%s) = %s, want what was sent, and a renewal", check.Txn(x), check.SentTo(got))
 			}
 		}
 	}
@@ -81,10 +81,10 @@ func TestAgainTellsTheSameEachTime(t *testing.T) {
 	for _, x := range some(t) {
 		for _, alive := range []bool{false, true} {
 			first := txn.Again(x, alive)
-			want := sentText(first)
+			want := check.SentTo(first)
 			check.Spoil(first, api.Msg{Kind: -1})
-			if got := sentText(txn.Again(x, alive)); got != want {
-				t.Errorf("Again(%s, %v) = %s, want %s", text(x), alive, got, want)
+			if got := check.SentTo(txn.Again(x, alive)); got != want {
+				t.Errorf("Again(%s, %v) = %s, want %s", check.Txn(x), alive, got, want)
 			}
 		}
 	}
@@ -116,8 +116,8 @@ func TestDecidedAndOverOfAny(t *testing.T) {
 		in := roomy(x)
 		before := roomy(whole(in))
 		is(t, in, decided, decided && acknowledged)
-		if !same(whole(in), before) {
-			t.Errorf("Decided or Over changes what was handed in, %s", text(x))
+		if !check.SameTxn(whole(in), before) {
+			t.Errorf("Decided or Over changes what was handed in, %s", check.Txn(x))
 		}
 		if decided && acknowledged {
 			many++
@@ -183,13 +183,13 @@ func TestEachCallTellsItsOwn(t *testing.T) {
 				wantA, wantSent := roomy(a), slices.Clone(sentA)
 				b, sentB, errB := told(x, then)
 				wantB, _, _ := told(roomy(x), then)
-				if !same(a, wantA) || !slices.Equal(sentA, wantSent) || !same(b, wantB) {
-					t.Errorf("%+v and %+v of %s: %s and %s", first, then, text(x), text(a), text(b))
+				if !check.SameTxn(a, wantA) || !slices.Equal(sentA, wantSent) || !check.SameTxn(b, wantB) {
+					t.Errorf("%+v and %+v of %s: %s and %s", first, then, check.Txn(x), check.Txn(a), check.Txn(b))
 				}
-				spoil(b)
+				check.SpoilTxn(b)
 				check.Spoil(sentB, api.Msg{Kind: -1})
-				if !same(a, wantA) || !slices.Equal(sentA, wantSent) {
-					t.Errorf("%+v of %s tells %s, %s, behind %+v that was changed; %v, %v", first, text(x), text(a), sentText(sentA), then, errA, errB)
+				if !check.SameTxn(a, wantA) || !slices.Equal(sentA, wantSent) {
+					t.Errorf("%+v of %s tells %s, %s, behind %+v that was changed; %v, %v", first, check.Txn(x), check.Txn(a), check.SentTo(sentA), then, errA, errB)
 				}
 				check.Stop(t)
 			}
@@ -201,14 +201,14 @@ func TestWhatCameOfOneStaysWhenThatOneIsChanged(t *testing.T) {
 	x := made(t, three())
 	a, b := more(t, x, ask(64, "3", api.X)), more(t, x, ask(1, "1", api.S))
 	c := more(t, a, answer(granted(64, 4, "3", api.X)), finish())
-	spoil(x)
-	spoil(a)
-	if got, want := text(b), "7 Active; request 4 of 1: 1S, open; touched 1 2 5 9"+threeGot; got != want {
+	check.SpoilTxn(x)
+	check.SpoilTxn(a)
+	if got, want := check.Txn(b), "7 Active; request 4 of 1: 1S, open; touched 1 2 5 9"+threeGot; got != want {
 		t.Errorf("%s, want %s", got, want)
 	}
-	if got, want := text(c), "7 Preparing; request 4 of 64: 3X; touched 2 5 9 64"+threeGot+" 3:7.4X"; got != want {
+	if got, want := check.Txn(c), "7 Preparing; request 4 of 64: 3X; touched 2 5 9 64"+threeGot+" 3:7.4X"; got != want {
 		t.Errorf("%s, want %s", got, want)
 	}
-	spoil(b)
+	check.SpoilTxn(b)
 	again(t, c, to("prepare 7", 2, 5, 9, 64), to("prepare 7", 2, 5, 9, 64))
 }

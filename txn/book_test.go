@@ -216,8 +216,8 @@ func (b book) both(t *testing.T, x txn.Txn, d move) (book, txn.Txn) {
 		sends = next.sends()
 	}
 	one, sent, err := tried(t, x, d)
-	if !same(one, next.is()) || !slices.Equal(sent, sends) || how == api.OK && err != nil || how != api.OK && !check.Plain(err, how) {
-		t.Errorf("%+v of %s = %s, %s, %v, want %s, %s, %v", d, text(x), text(one), sentText(sent), err, text(next.is()), sentText(sends), how)
+	if !check.SameTxn(one, next.is()) || !slices.Equal(sent, sends) || how == api.OK && err != nil || how != api.OK && !check.Plain(err, how) {
+		t.Errorf("%+v of %s = %s, %s, %v, want %s, %s, %v", d, check.Txn(x), check.Txn(one), check.SentTo(sent), err, check.Txn(next.is()), check.SentTo(sends), how)
 	}
 	return next, one
 }
@@ -228,7 +228,7 @@ func (b book) tells(t *testing.T, x txn.Txn) {
 	is(t, x, b.decided(), b.decided() && len(b.left(b.acks())) == 0)
 	for _, alive := range []bool{false, true} {
 		if got, want := txn.Again(x, alive), b.again(alive); !slices.Equal(got, want) {
-			t.Errorf("Again(%s, %v) = %s, want %s", text(x), alive, sentText(got), sentText(want))
+			t.Errorf("Again(%s, %v) = %s, want %s", check.Txn(x), alive, check.SentTo(got), check.SentTo(want))
 		}
 	}
 }

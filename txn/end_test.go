@@ -91,8 +91,8 @@ func TestFinishOfOneThatTouchedSeveral(t *testing.T) {
 		check.Mix(order, &by)
 		order = order[:n+1]
 		one, sent, err := tried(t, made(t, touching(order...)), finish())
-		if got, want := sentText(sent), to("prepare 7", touchedBy(order)...); got != want || err != nil || one.State != txn.Preparing {
-			t.Errorf("%v: Finish sends %s, %v, want %s, and makes %s", order, got, err, want, text(one))
+		if got, want := check.SentTo(sent), to("prepare 7", touchedBy(order)...); got != want || err != nil || one.State != txn.Preparing {
+			t.Errorf("%v: Finish sends %s, %v, want %s, and makes %s", order, got, err, want, check.Txn(one))
 		}
 	}
 }
@@ -102,7 +102,7 @@ func TestFinishWhileOneIsOpen(t *testing.T) {
 		x := made(t, ahead, []move{ask(2, "3.14", api.X)})
 		mayNot(t, x, finish(), api.ErrBusy)
 		m := refused(2, x.Seq, 9)
-		does(t, more(t, x, answer(m)), finish(), to("prepare 7", x.Touched...), strings.Replace(strings.Replace(text(x), "Active", "Preparing", 1), ", open", "", 1))
+		does(t, more(t, x, answer(m)), finish(), to("prepare 7", x.Touched...), strings.Replace(strings.Replace(check.Txn(x), "Active", "Preparing", 1), ", open", "", 1))
 	}
 }
 
@@ -115,7 +115,7 @@ func TestFinishInEachState(t *testing.T) {
 			mayNot(t, x, finish(), api.ErrBusy)
 		default:
 			if one := more(t, x, finish()); one.State != txn.Preparing && len(x.Touched) > 0 {
-				t.Errorf("Finish of %s makes %s", text(x), text(one))
+				t.Errorf("Finish of %s makes %s", check.Txn(x), check.Txn(one))
 			}
 		}
 	}
@@ -159,8 +159,8 @@ func TestVotesOfAllShards(t *testing.T) {
 			if i == 63 {
 				want = to("decide 7 1", shards()...)
 			}
-			if sentText(sent) != want || err != nil || txn.Decided(one) != (i == 63) || !slices.Equal(one.Votes, touchedBy(order[:i+1])) {
-				t.Errorf("%v: the vote of %d sends %s, %v, and makes %s", order, shard, sentText(sent), err, text(one))
+			if check.SentTo(sent) != want || err != nil || txn.Decided(one) != (i == 63) || !slices.Equal(one.Votes, touchedBy(order[:i+1])) {
+				t.Errorf("%v: the vote of %d sends %s, %v, and makes %s", order, shard, check.SentTo(sent), err, check.Txn(one))
 			}
 			x = one
 		}
@@ -221,7 +221,7 @@ func TestVoteInEachState(t *testing.T) {
 					mayNot(t, x, d, api.ErrNone)
 				default:
 					if one := more(t, x, d); slices.Contains(one.Votes, shard) != (code == 1) && !slices.Contains(x.Votes, shard) {
-						t.Errorf("%+v of %s makes %s", d, text(x), text(one))
+						t.Errorf("%+v of %s makes %s", d, check.Txn(x), check.Txn(one))
 					}
 				}
 			}
@@ -242,7 +242,7 @@ func TestAbortForEachReason(t *testing.T) {
 			}
 			want := x
 			want.State, want.Reason, want.Open = txn.Aborted, reason, false
-			one := does(t, x, abort(reason), to("decide 7 0", x.Touched...), text(want))
+			one := does(t, x, abort(reason), to("decide 7 0", x.Touched...), check.Txn(want))
 			is(t, one, true, len(x.Touched) == 0)
 			mayNot(t, one, abort(reason), api.ErrDone)
 		}
@@ -286,8 +286,8 @@ func TestAckOfTheOnlyOne(t *testing.T) {
 		x = does(t, x, ack(acked(shard)), "", fmt.Sprintf("7 Aborted 1%s; acks %d", has, shard))
 		is(t, x, true, true)
 		x = made(t, touching(shard), []move{finish()}, yes(shard), heard(shard))
-		if want := fmt.Sprintf("7 Committed%s; votes %d; acks %d", has, shard, shard); text(x) != want {
-			t.Errorf("%s, want %s", text(x), want)
+		if want := fmt.Sprintf("7 Committed%s; votes %d; acks %d", has, shard, shard); check.Txn(x) != want {
+			t.Errorf("%s, want %s", check.Txn(x), want)
 		}
 		is(t, x, true, true)
 	}
@@ -320,7 +320,7 @@ func TestAcksOfAllShards(t *testing.T) {
 		for i, shard := range order {
 			one, sent, err := tried(t, x, ack(acked(shard)))
 			if len(sent) != 0 || err != nil || txn.Over(one) != (i == 63) || !slices.Equal(one.Acks, touchedBy(order[:i+1])) {
-				t.Errorf("%v: the acknowledgement of %d makes %s, %v", order, shard, text(one), err)
+				t.Errorf("%v: the acknowledgement of %d makes %s, %v", order, shard, check.Txn(one), err)
 			}
 			x = one
 		}
@@ -348,7 +348,7 @@ func TestAckInEachState(t *testing.T) {
 			default:
 				want := x
 				want.Acks = touchedBy(append(slices.Clone(x.Acks), shard))
-				does(t, x, d, "", text(want))
+				does(t, x, d, "", check.Txn(want))
 			}
 		}
 		for _, shard := range noShards() {

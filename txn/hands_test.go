@@ -1,15 +1,11 @@
 package txn_test
 
 import (
-	"fmt"
 	"slices"
-	"strconv"
-	"strings"
 	"testing"
 
 	"catchbolt/api"
 	"catchbolt/check"
-	"catchbolt/msg"
 	"catchbolt/txn"
 )
 
@@ -101,79 +97,6 @@ func three() []move {
 	}
 }
 
-// names are the states' names, by their numbers.
-var names = []string{"?", "Active", "Preparing", "Committed", "Aborted"}
-
-// text is all that a transaction has, as a text, without what it has nothing of: "7 Active; request 2 of 5: 3.14X, open; touched 2 5; got 3:7.1IS".
-func text(x txn.Txn) string {
-	state := "?" + strconv.Itoa(x.State)
-	if x.State >= 0 && x.State < len(names) {
-		state = names[x.State]
-	}
-	all := []string{strconv.Itoa(x.Tx) + " " + state}
-	if x.Reason != 0 {
-		all[0] += " " + strconv.Itoa(x.Reason)
-	}
-	if x.Seq != 0 || x.Open || x.Shard != 0 || x.At != (api.Res{}) || x.Mode != 0 {
-		open := ""
-		if x.Open {
-			open = ", open"
-		}
-		all = append(all, fmt.Sprintf("request %d of %d: %s%s%s", x.Seq, x.Shard, check.Res(x.At), check.Mode(x.Mode), open))
-	}
-	for i, l := range [][]int{x.Touched, x.Votes, x.Acks} {
-		if len(l) > 0 {
-			all = append(all, []string{"touched ", "votes ", "acks "}[i]+strings.Trim(fmt.Sprint(l), "[]"))
-		}
-	}
-	if len(x.Got) > 0 {
-		all = append(all, "got "+check.Granted(x.Got))
-	}
-	return strings.Join(all, "; ")
-}
-
-// sentText is the text of what is sent: "2: lock 3.14:7.1X, 5: prepare 7". That a message may be is what says that all else in it is 0.
-func sentText(l []api.Msg) string {
-	var all []string
-	for _, m := range l {
-		text := strconv.Itoa(m.To) + ": " + check.Sent([]api.Msg{m})
-		if m.From != 0 || msg.Ok(m) != nil {
-			text = fmt.Sprintf("%+v, which may not be", m)
-		}
-		all = append(all, text)
-	}
-	return strings.Join(all, ", ")
-}
-
-// same says whether two transactions are the same. Lists that are nil and that are empty are one.
-func same(a, b txn.Txn) bool {
-	plain := func(x txn.Txn) [9]int {
-		open := 0
-		if x.Open {
-			open = 1
-		}
-		return [...]int{x.Tx, x.State, x.Reason, x.Seq, open, x.Shard, x.At.Table, x.At.Row, int(x.Mode)}
-	}
-	return plain(a) == plain(b) && slices.Equal(a.Touched, b.Touched) && slices.Equal(a.Votes, b.Votes) && slices.Equal(a.Acks, b.Acks) && slices.Equal(a.Got, b.Got)
-}
-
-// wrongGrant is a lock that nobody has.
-var wrongGrant = api.Grant{Tx: -1, Seq: -1, At: api.Res{Table: -1, Row: -1}, Mode: -1}
-
-// spoil changes all of a transaction's lists, and what is behind them in their room.
-func spoil(x txn.Txn) {
-	for _, l := range [][]int{x.Touched, x.Votes, x.Acks} {
-		check.Spoil(l, -1)
-	}
-	check.Spoil(x.Got, wrongGrant)
-}
-
-// isSpoiled says whether all that is in a transaction's lists is what spoil puts there.
-func isSpoiled(x txn.Txn) bool {
-	numbers := slices.Concat(x.Touched, x.Votes, x.Acks)
-	return !slices.ContainsFunc(numbers, func(n int) bool { return n != -1 }) && !slices.ContainsFunc(x.Got, func(g api.Grant) bool { return g != wrongGrant })
-}
-
 // copied is a list as new memory, with some room behind it.
 func copied[E any](l []E) []E {
 	return append(make([]E, 0, len(l)+3), l...)
@@ -217,17 +140,17 @@ func tried(t *testing.T, x txn.Txn, d move) (txn.Txn, []api.Msg, error) {
 	in := roomy(x)
 	before := roomy(whole(in))
 	one, sent, err := told(in, d)
-	if !same(whole(in), before) || !same(in, x) {
-		t.Errorf("%+v changes what was handed in, %s", d, text(x))
+	if !check.SameTxn(whole(in), before) || !check.SameTxn(in, x) {
+		t.Errorf("%+v changes what was handed in, %s", d, check.Txn(x))
 	}
 	kept := roomy(one)
-	spoil(in)
-	if !same(one, kept) {
-		t.Errorf("%+v of %s tells what was handed in", d, text(x))
+	check.SpoilTxn(in)
+	if !check.SameTxn(one, kept) {
+		t.Errorf("%+v of %s tells what was handed in", d, check.Txn(x))
 	}
 	apart(t, one)
-	if !isSpoiled(whole(in)) {
-		t.Errorf("what %+v of %s tells is what was handed in", d, text(x))
+	if !check.IsSpoiled(whole(in)) {
+		t.Errorf("what %+v of %s tells is what was handed in", d, check.Txn(x))
 	}
 	return kept, sent, err
 }
@@ -244,18 +167,18 @@ func apart(t *testing.T, x txn.Txn) {
 			t.Errorf("two lists share some: %v", l)
 		}
 	}
-	spoil(x)
+	check.SpoilTxn(x)
 }
 
 // does checks what a move sends, and makes of a transaction.
 func does(t *testing.T, x txn.Txn, d move, sent, want string) txn.Txn {
 	t.Helper()
 	one, l, err := tried(t, x, d)
-	if got := sentText(l); got != sent || err != nil {
-		t.Errorf("%+v of %s sends %s, %v, want %s", d, text(x), got, err, sent)
+	if got := check.SentTo(l); got != sent || err != nil {
+		t.Errorf("%+v of %s sends %s, %v, want %s", d, check.Txn(x), got, err, sent)
 	}
-	if got := text(one); got != want {
-		t.Errorf("%+v of %s makes\n%s, want\n%s", d, text(x), got, want)
+	if got := check.Txn(one); got != want {
+		t.Errorf("%+v of %s makes\n%s, want\n%s", d, check.Txn(x), got, want)
 	}
 	return one
 }
@@ -264,8 +187,8 @@ func does(t *testing.T, x txn.Txn, d move, sent, want string) txn.Txn {
 func mayNot(t *testing.T, x txn.Txn, d move, want api.Errno) {
 	t.Helper()
 	one, sent, err := tried(t, x, d)
-	if !same(one, x) || len(sent) != 0 || !check.Plain(err, want) {
-		t.Errorf("%+v of %s = %s, %s, %v, want %v", d, text(x), text(one), sentText(sent), err, want)
+	if !check.SameTxn(one, x) || len(sent) != 0 || !check.Plain(err, want) {
+		t.Errorf("%+v of %s = %s, %s, %v, want %v", d, check.Txn(x), check.Txn(one), check.SentTo(sent), err, want)
 	}
 }
 
@@ -285,7 +208,7 @@ func more(t *testing.T, x txn.Txn, all ...move) txn.Txn {
 	for _, d := range all {
 		one, _, err := told(x, d)
 		if err != nil {
-			t.Fatalf("%+v of %s = %v", d, text(x), err)
+			t.Fatalf("%+v of %s = %v", d, check.Txn(x), err)
 		}
 		x = one
 	}
@@ -305,11 +228,11 @@ func again(t *testing.T, x txn.Txn, alive, dead string) {
 		in := roomy(x)
 		before := roomy(whole(in))
 		sent := txn.Again(in, i == 0)
-		if got := sentText(sent); got != want {
-			t.Errorf("Again(%s, %v) = %s, want %s", text(x), i == 0, got, want)
+		if got := check.SentTo(sent); got != want {
+			t.Errorf("Again(%s, %v) = %s, want %s", check.Txn(x), i == 0, got, want)
 		}
-		if check.Spoil(sent, api.Msg{Kind: -1}); !same(whole(in), before) {
-			t.Errorf("Again changes what was handed in, %s", text(x))
+		if check.Spoil(sent, api.Msg{Kind: -1}); !check.SameTxn(whole(in), before) {
+			t.Errorf("Again changes what was handed in, %s", check.Txn(x))
 		}
 	}
 }
@@ -318,7 +241,7 @@ func again(t *testing.T, x txn.Txn, alive, dead string) {
 func is(t *testing.T, x txn.Txn, decided, over bool) {
 	t.Helper()
 	if txn.Decided(x) != decided || txn.Over(x) != over {
-		t.Errorf("Decided, Over of %s: %v, %v", text(x), txn.Decided(x), txn.Over(x))
+		t.Errorf("Decided, Over of %s: %v, %v", check.Txn(x), txn.Decided(x), txn.Over(x))
 	}
 }
 

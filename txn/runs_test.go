@@ -99,8 +99,8 @@ func (w world) eachState(t *testing.T, f func(b book, x txn.Txn)) int {
 	for len(next) > 0 {
 		b := next[0]
 		next = next[1:]
-		if x := b.is(); !seen[text(x)] && x.Seq <= w.seqs {
-			seen[text(x)] = true
+		if x := b.is(); !seen[check.Txn(x)] && x.Seq <= w.seqs {
+			seen[check.Txn(x)] = true
 			f(b, made(t, b.all))
 			for _, d := range every {
 				if b.refusal(d) == api.OK {
@@ -223,25 +223,25 @@ func (l lore) broken(x txn.Txn, sent []api.Msg) string {
 func (l lore) onward(t *testing.T, x txn.Txn, d move) (lore, txn.Txn) {
 	one, sent, err := told(x, d)
 	switch {
-	case err != nil && (!same(one, x) || len(sent) > 0):
-		t.Fatalf("%+v of %s = %s, %s, %v", d, text(x), text(one), sentText(sent), err)
+	case err != nil && (!check.SameTxn(one, x) || len(sent) > 0):
+		t.Fatalf("%+v of %s = %s, %s, %v", d, check.Txn(x), check.Txn(one), check.SentTo(sent), err)
 	case err != nil:
 		return l, x
 	case d.kind == asks:
 		l.asked[d.shard] = true
 	case d.kind == finishes && x.Open:
-		t.Fatalf("%s is asked to finish", text(x))
+		t.Fatalf("%s is asked to finish", check.Txn(x))
 	case d.kind == finishes:
 		l.finished = true
 	case d.kind == votes && d.m.Code == 1:
 		l.voted[d.m.From] = true
 	}
 	if broken := l.broken(one, sent); broken != "" {
-		t.Fatalf("%s: %+v of %s makes %s, and sends %s", broken, d, text(x), text(one), sentText(sent))
+		t.Fatalf("%s: %+v of %s makes %s, and sends %s", broken, d, check.Txn(x), check.Txn(one), check.SentTo(sent))
 	}
 	for _, alive := range []bool{false, true} {
 		if again := txn.Again(one, alive); slices.ContainsFunc(again, func(m api.Msg) bool { return m.To < 1 || m.To > 64 || !l.asked[m.To] }) {
-			t.Fatalf("it is sent to others: Again(%s, %v) = %s", text(one), alive, sentText(again))
+			t.Fatalf("it is sent to others: Again(%s, %v) = %s", check.Txn(one), alive, check.SentTo(again))
 		}
 	}
 	if txn.Decided(one) && l.state == 0 {
@@ -271,7 +271,7 @@ func (l lore) runs(t *testing.T, x txn.Txn, every []move, more int, many *int) {
 		if *many++; *many > 20000000 { // more are changed than may be
 			t.Fatalf("%d runs", *many)
 		}
-		if more > 1 && !same(one, x) {
+		if more > 1 && !check.SameTxn(one, x) {
 			next.runs(t, one, every, more-1, many)
 		}
 	}

@@ -31,8 +31,8 @@ func TestNumbersOfStatesAndReasons(t *testing.T) {
 func TestNewOfEachNumber(t *testing.T) {
 	for _, tx := range slices.Concat(check.Numbers(), check.UpTo(1, 300), check.UpTo(1048000, 1048576)) {
 		x, err := txn.New(tx)
-		if want := (txn.Txn{Tx: tx, State: 1}); !same(x, want) || err != nil {
-			t.Errorf("New(%d) = %s, %v", tx, text(x), err)
+		if want := (txn.Txn{Tx: tx, State: 1}); !check.SameTxn(x, want) || err != nil {
+			t.Errorf("New(%d) = %s, %v", tx, check.Txn(x), err)
 		}
 		is(t, x, false, false)
 		again(t, x, "", "")
@@ -41,8 +41,8 @@ func TestNewOfEachNumber(t *testing.T) {
 
 func TestNewOfOneThatMayNotBe(t *testing.T) {
 	for _, tx := range slices.Concat(check.WrongNumbers(), check.UpTo(-300, 0), check.UpTo(1048577, 1049000)) {
-		if x, err := txn.New(tx); !same(x, txn.Txn{}) || !check.Plain(err, api.ErrArg) {
-			t.Errorf("New(%d) = %s, %v", tx, text(x), err)
+		if x, err := txn.New(tx); !check.SameTxn(x, txn.Txn{}) || !check.Plain(err, api.ErrArg) {
+			t.Errorf("New(%d) = %s, %v", tx, check.Txn(x), err)
 		}
 	}
 }
@@ -66,8 +66,8 @@ func TestAskOfEachResource(t *testing.T) {
 			one, sent, err := txn.Ask(x, 2, at, m)
 			lock := api.Msg{Kind: api.KLock, To: 2, Tx: mine, Seq: 1, At: at, Mode: m}
 			want := txn.Txn{Tx: mine, State: txn.Active, Seq: 1, Open: true, Shard: 2, At: at, Mode: m, Touched: []int{2}}
-			if !same(one, want) || !slices.Equal(sent, []api.Msg{lock}) || err != nil {
-				t.Errorf("Ask(2, %v, %v) = %s, %s, %v", at, m, text(one), sentText(sent), err)
+			if !check.SameTxn(one, want) || !slices.Equal(sent, []api.Msg{lock}) || err != nil {
+				t.Errorf("Ask(2, %v, %v) = %s, %s, %v", at, m, check.Txn(one), check.SentTo(sent), err)
 			}
 		}
 	}
@@ -129,7 +129,7 @@ func TestAskInEachState(t *testing.T) {
 				mayNot(t, x, d, api.ErrBusy)
 			default:
 				if one := more(t, x, d); one.Seq != x.Seq+1 || !one.Open || one.Shard != d.shard {
-					t.Errorf("%+v of %s makes %s", d, text(x), text(one))
+					t.Errorf("%+v of %s makes %s", d, check.Txn(x), check.Txn(one))
 				}
 			}
 		}
@@ -309,7 +309,7 @@ func TestAnsweredInEachState(t *testing.T) {
 					mayNot(t, x, answer(m), api.ErrStale)
 				default:
 					if one := more(t, x, answer(m)); one.Open || one.Seq != x.Seq || one.State != txn.Active {
-						t.Errorf("%+v of %s makes %s", m, text(x), text(one))
+						t.Errorf("%+v of %s makes %s", m, check.Txn(x), check.Txn(one))
 					}
 				}
 			}
