@@ -3,6 +3,7 @@ package check_test
 import (
 	"errors"
 	"fmt"
+	"math"
 	"slices"
 	"strings"
 	"testing"
@@ -325,6 +326,19 @@ func TestStop(t *testing.T) {
 		check.Stop(s)
 		if s.ended != failed {
 			t.Errorf("failed: %v, ended: %v", failed, s.ended)
+		}
+	}
+}
+
+func TestFarFrom(t *testing.T) {
+	for _, may := range [][2]int{{0, 0}, {1, 8}, {0, 250}, {1, api.MaxTx}} {
+		low, high := may[0], may[1]
+		l := check.FarFrom(low, high)
+		eachOutside(t, l, low, high, true)
+		for _, n := range []int{low - 1, high + 1, low - 256, high + 65536, low + 1<<32, math.MinInt, math.MaxInt} {
+			if !slices.Contains(l, n) {
+				t.Errorf("%d to %d: not %d", low, high, n)
+			}
 		}
 	}
 }

@@ -2,9 +2,22 @@ package check
 
 import (
 	"math"
+	"slices"
 
 	"catchbolt/api"
 )
+
+// FarFrom are numbers near below and beyond what may be from low to high, and far from it: many would be within again if a number were cut, or its sign lost.
+func FarFrom(low, high int) []int {
+	var l []int
+	for _, n := range []int{low, high, -low, -high, ^low, ^high} {
+		for shift := range 64 {
+			l = append(l, n+1<<shift, n-1<<shift)
+		}
+	}
+	l = append(l, math.MinInt64, math.MinInt64+1, math.MinInt32, math.MaxInt32, math.MaxInt64-1, math.MaxInt64)
+	return slices.DeleteFunc(l, func(n int) bool { return n >= low && n <= high })
+}
 
 // WrongLimits are those that no line may have; some would be near if they were cut.
 func WrongLimits() []int {

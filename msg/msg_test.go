@@ -158,21 +158,9 @@ func edgesOf(t *testing.T, m api.Msg, f field, low, high int) {
 	may(t, with(m, f, high))
 	mayNot(t, with(m, f, low-1))
 	mayNot(t, with(m, f, high+1))
-	for _, n := range farFrom(low, high) {
+	for _, n := range check.FarFrom(low, high) {
 		mayNot(t, with(m, f, n))
 	}
-}
-
-// farFrom are numbers far below and beyond: many would be within again if a number were cut, or its sign lost.
-func farFrom(low, high int) []int {
-	var l []int
-	for _, n := range []int{low, high, -low, -high, ^low, ^high} {
-		for shift := range 64 {
-			l = append(l, n+1<<shift, n-1<<shift)
-		}
-	}
-	l = append(l, math.MinInt64, math.MinInt64+1, math.MinInt32, math.MaxInt32, math.MaxInt64-1, math.MaxInt64)
-	return slices.DeleteFunc(l, func(n int) bool { return n >= low && n <= high })
 }
 
 // unnamed checks that of all fields that stand behind To and aren't named none may be another number than 0.
@@ -358,7 +346,7 @@ func TestOkOfEachStep(t *testing.T) {
 		for i, f := range stepFields() {
 			switch m := check.Probe(n); {
 			case i >= 2*n: // behind the first ones there are zero ones alone
-				for _, wrong := range append(farFrom(0, 0), 1, -1, 300) {
+				for _, wrong := range append(check.FarFrom(0, 0), 1, -1, 300) {
 					mayNot(t, with(m, f, wrong))
 				}
 				m.Path[i/2] = api.Step{Tx: 300, Seq: 300}
@@ -366,7 +354,7 @@ func TestOkOfEachStep(t *testing.T) {
 			default:
 				may(t, with(m, f, 1))
 				may(t, with(m, f, 1048576))
-				for _, wrong := range append(farFrom(1, 1048576), 0, 1048577) {
+				for _, wrong := range append(check.FarFrom(1, 1048576), 0, 1048577) {
 					mayNot(t, with(m, f, wrong))
 				}
 				m.Path[i/2] = api.Step{}
@@ -395,7 +383,7 @@ func TestOkOfTwoStepsOfOneTransaction(t *testing.T) {
 
 func TestOkOfNoKinds(t *testing.T) {
 	for _, m := range append(check.Messages(), api.Msg{}, api.Msg{Tx: 7}, api.Msg{To: 2}, api.Msg{From: 2}) {
-		for _, kind := range append(farFrom(1, 11), 0, -1, -11, 12, 13, 255, 256, 257) {
+		for _, kind := range append(check.FarFrom(1, 11), 0, -1, -11, 12, 13, 255, 256, 257) {
 			m.Kind = kind
 			mayNot(t, m)
 		}
@@ -654,7 +642,7 @@ func TestNameOfEachKind(t *testing.T) {
 }
 
 func TestNameOfNoKinds(t *testing.T) {
-	for _, kind := range append(farFrom(1, 11), 0, -1, 12) {
+	for _, kind := range append(check.FarFrom(1, 11), 0, -1, 12) {
 		if name, ok := msg.Name(kind); name != "" || ok {
 			t.Errorf("Name(%d): %q, %v", kind, name, ok)
 		}
