@@ -141,6 +141,31 @@ func TestSentTo(t *testing.T) {
 	}
 }
 
+func TestSentToOfWhatMayNotBe(t *testing.T) {
+	m := api.Msg{Kind: api.KLock, To: 65, Tx: 7, Seq: 9, At: api.Res{Table: 3, Row: 14}, Mode: api.X}
+	same(t, check.SentTo([]api.Msg{m, {}}), "lock from 0 to 65: 7.9 3.14X 0 > 0, 0 steps: 0 0 0 0 0 0 0 0, which may not be, ?0 from 0 to 0: 0 0None 0 > 0, 0 steps: 0 0 0 0 0 0 0 0, which may not be")
+	same(t, check.SentTo([]api.Msg{check.Probe(2)}), "probe from 3 to 0: 0 0None 0 > 1000.70, 2 steps: 100.200 101.201 0 0 0 0 0 0, which may not be")
+	all := []string{check.SentTo([]api.Msg{{}})}
+	for _, number := range numbers(&m) {
+		m = api.Msg{}
+		*number = -9
+		all = append(all, check.SentTo([]api.Msg{m}))
+	}
+	slices.Sort(all)
+	if len(all) != 29 || len(slices.Compact(all)) != 29 { // by each of its numbers it is told as another one
+		t.Error(all)
+	}
+}
+
+// numbers are where all numbers of a message stand.
+func numbers(m *api.Msg) []*int {
+	all := []*int{&m.Kind, &m.From, &m.To, &m.Tx, &m.Seq, &m.At.Table, &m.At.Row, (*int)(&m.Mode), &m.Code, &m.Next, &m.NextSeq, &m.N}
+	for i := range m.Path {
+		all = append(all, &m.Path[i].Tx, &m.Path[i].Seq)
+	}
+	return all
+}
+
 func TestTraced(t *testing.T) {
 	at := api.Res{Table: 3, Row: 14}
 	same(t, check.Traced(nil), "")

@@ -55,6 +55,14 @@ func sent(m api.Msg) string {
 	return kind(m) + " " + Step(m.Tx, 0)
 }
 
+// whole is the text of all that a message has, also of one that may not be: "lock from 0 to 65: 7.9 3.14X 0 > 0, 0 steps: 0 0 0 0 0 0 0 0".
+func whole(m api.Msg) string {
+	way := " from " + strconv.Itoa(m.From) + " to " + strconv.Itoa(m.To) + ": "
+	lock := Step(m.Tx, m.Seq) + " " + Res(m.At) + Mode(m.Mode) + " " + strconv.Itoa(m.Code)
+	steps := joined(m.Path[:], func(s api.Step) string { return Step(s.Tx, s.Seq) })
+	return kind(m) + way + lock + " > " + Step(m.Next, m.NextSeq) + ", " + strconv.Itoa(m.N) + " steps: " + steps
+}
+
 // kind is the name of a message's kind.
 func kind(m api.Msg) string {
 	if m.Kind < api.KLock || m.Kind > api.KProbe {

@@ -1,7 +1,6 @@
 package check
 
 import (
-	"fmt"
 	"slices"
 	"strconv"
 	"strings"
@@ -29,11 +28,11 @@ func Txn(x txn.Txn) string {
 		if x.Open {
 			open = ", open"
 		}
-		all = append(all, fmt.Sprintf("request %d of %d: %s%s%s", x.Seq, x.Shard, Res(x.At), Mode(x.Mode), open))
+		all = append(all, "request "+strconv.Itoa(x.Seq)+" of "+strconv.Itoa(x.Shard)+": "+Res(x.At)+Mode(x.Mode)+open)
 	}
 	for i, l := range [][]int{x.Touched, x.Votes, x.Acks} {
 		if len(l) > 0 {
-			all = append(all, []string{"touched ", "votes ", "acks "}[i]+strings.Trim(fmt.Sprint(l), "[]"))
+			all = append(all, []string{"touched ", "votes ", "acks "}[i]+joined(l, strconv.Itoa))
 		}
 	}
 	if len(x.Got) > 0 {
@@ -75,7 +74,7 @@ func IsSpoiled(x txn.Txn) bool {
 func SentTo(l []api.Msg) string {
 	return between(", ", l, func(m api.Msg) string {
 		if m.From != 0 || msg.Ok(m) != nil {
-			return fmt.Sprintf("%+v, which may not be", m)
+			return whole(m) + ", which may not be"
 		}
 		return strconv.Itoa(m.To) + ": " + sent(m)
 	})
