@@ -56,6 +56,9 @@ func SameTxn(a, b txn.Txn) bool {
 // wrongGrant is a lock that nobody has.
 var wrongGrant = api.Grant{Tx: -1, Seq: -1, At: api.Res{Table: -1, Row: -1}, Mode: -1}
 
+// wrongTxn is a transaction that nobody began.
+var wrongTxn = txn.Txn{Tx: -1, State: -1}
+
 // SpoilTxn changes all of a transaction's lists, and what is behind them in their room.
 func SpoilTxn(x txn.Txn) {
 	for _, l := range [][]int{x.Touched, x.Votes, x.Acks} {

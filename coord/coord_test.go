@@ -88,13 +88,13 @@ func begun(t *testing.T, o *coord.Coord, client, want int) {
 	tx, err := o.Begin(client)
 	after := o.View()
 	if tx != want || err != nil || after.Last != want || len(after.Txns) != want {
-		t.Errorf("Begin(%d) = %d, %v, want %d, of %s", client, tx, err, want, text(after))
+		t.Errorf("Begin(%d) = %d, %v, want %d, of %s", client, tx, err, want, check.Coord(after))
 	}
 	if events := behind(t, before, after); !slices.Equal(events, []api.Event{{Kind: api.EvBegan, Client: client, Tx: want}}) {
 		t.Errorf("Begin(%d) is traced as %s", client, check.Traced(events))
 	}
 	if !slices.EqualFunc(after.Txns[:want-1], before.Txns, check.SameTxn) || check.Txn(after.Txns[want-1]) != check.Step(want, 0)+" Active" {
-		t.Errorf("Begin(%d) makes %s, of %s", client, text(after), text(before))
+		t.Errorf("Begin(%d) makes %s, of %s", client, check.Coord(after), check.Coord(before))
 	}
 }
 
@@ -281,7 +281,7 @@ func TestLockOfEachShard(t *testing.T) {
 		}
 		v := o.View()
 		if len(v.Txns[0].Touched) != n || len(v.Trace) != 501 {
-			t.Errorf("of %d shards: %s", n, text(v))
+			t.Errorf("of %d shards: %s", n, check.Coord(v))
 		}
 		for i, e := range v.Trace[1:] {
 			at := api.Res{Table: i/2 + 1, Row: 249 - i/2}

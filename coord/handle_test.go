@@ -478,7 +478,7 @@ func TestNil(t *testing.T) {
 	if sent := o.Tick(); len(sent) != 0 {
 		t.Errorf("Tick = %v", sent)
 	}
-	if v := o.View(); !same(v, coord.View{}) {
-		t.Errorf("View = %s", text(v))
+	if v := o.View(); !check.SameCoord(v, coord.View{}) {
+		t.Errorf("View = %s", check.Coord(v))
 	}
 }

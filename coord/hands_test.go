@@ -147,28 +147,14 @@ func more(t *testing.T, o *coord.Coord, all ...move) {
 	}
 }
 
-// text is all that a view has, as a text: "time 2; last 1; 1 Active; trace began 1 client 1".
-func text(v coord.View) string {
-	all := []string{"time " + strconv.Itoa(v.Time), "last " + strconv.Itoa(v.Last)}
-	for _, x := range v.Txns {
-		all = append(all, check.Txn(x))
-	}
-	return strings.Join(all, "\n  ") + "\n  trace " + check.Traced(v.Trace)
-}
-
 // of is all that a coordinator has, as a text.
-func of(o *coord.Coord) string { return text(o.View()) }
-
-// same says whether two views have the same. Lists that are nil and that are empty are one.
-func same(a, b coord.View) bool {
-	return a.Time == b.Time && a.Last == b.Last && slices.EqualFunc(a.Txns, b.Txns, check.SameTxn) && slices.Equal(a.Trace, b.Trace)
-}
+func of(o *coord.Coord) string { return check.Coord(o.View()) }
 
 // has checks that a coordinator has what a view has.
 func has(t *testing.T, o *coord.Coord, want coord.View) {
 	t.Helper()
-	if got := o.View(); !same(got, want) {
-		t.Errorf("it has\n%s, want\n%s", text(got), text(want))
+	if got := o.View(); !check.SameCoord(got, want) {
+		t.Errorf("it has\n%s, want\n%s", check.Coord(got), check.Coord(want))
 	}
 }
 
@@ -188,10 +174,10 @@ func does(t *testing.T, o *coord.Coord, d move, sent, events string) {
 	_, l, err := told(o, d)
 	after := o.View()
 	if got := check.SentTo(l); got != sent || err != nil {
-		t.Errorf("%s: it sends %s, %v, want %s, of %s", d.text(), got, err, sent, text(before))
+		t.Errorf("%s: it sends %s, %v, want %s, of %s", d.text(), got, err, sent, check.Coord(before))
 	}
 	if got := check.Traced(behind(t, before, after)); got != events {
-		t.Errorf("%s: it is traced as %s, want %s, of %s", d.text(), got, events, text(before))
+		t.Errorf("%s: it is traced as %s, want %s, of %s", d.text(), got, events, check.Coord(before))
 	}
 	if passed := after.Time - before.Time; passed != 0 && d.kind != ticks || passed != 1 && d.kind == ticks {
 		t.Errorf("%s: the time is %d behind %d", d.text(), after.Time, before.Time)
@@ -203,7 +189,7 @@ func nothing(t *testing.T, o *coord.Coord, d move) {
 	t.Helper()
 	before := o.View()
 	if tx, sent, err := told(o, d); tx != 0 || len(sent) != 0 || err != nil {
-		t.Errorf("%s = %d, %s, %v, of %s", d.text(), tx, check.SentTo(sent), err, text(before))
+		t.Errorf("%s = %d, %s, %v, of %s", d.text(), tx, check.SentTo(sent), err, check.Coord(before))
 	}
 	has(t, o, before)
 }
@@ -213,7 +199,7 @@ func mayNot(t *testing.T, o *coord.Coord, d move, want api.Errno) {
 	t.Helper()
 	before := o.View()
 	if tx, sent, err := told(o, d); tx != 0 || len(sent) != 0 || !check.Plain(err, want) {
-		t.Errorf("%s = %d, %s, %v, want %v, of %s", d.text(), tx, check.SentTo(sent), err, want, text(before))
+		t.Errorf("%s = %d, %s, %v, want %v, of %s", d.text(), tx, check.SentTo(sent), err, want, check.Coord(before))
 	}
 	has(t, o, before)
 }
@@ -223,7 +209,7 @@ func is(t *testing.T, o *coord.Coord, tx int, want string) {
 	t.Helper()
 	v := o.View()
 	if tx > len(v.Txns) || check.Txn(v.Txns[tx-1]) != want {
-		t.Errorf("want %s, of %s", want, text(v))
+		t.Errorf("want %s, of %s", want, check.Coord(v))
 	}
 }
 

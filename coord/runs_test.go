@@ -136,7 +136,7 @@ func TestEachMoveFromEachState(t *testing.T) {
 				b, o := p.again(t)
 				for _, d := range every {
 					b.both(t, o, d)
-					if !same(b.view(), p.b.view()) {
+					if !check.SameCoord(b.view(), p.b.view()) {
 						b, o = p.again(t)
 					}
 				}

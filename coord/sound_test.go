@@ -131,7 +131,7 @@ func TestRunsAreSound(t *testing.T) {
 			before := o.View()
 			told(o, d)
 			if broken := flaw(before, o.View(), d); broken != "" {
-				t.Errorf("%s: %s, of %s", broken, d.text(), text(before))
+				t.Errorf("%s: %s, of %s", broken, d.text(), check.Coord(before))
 			}
 			check.Stop(t)
 		}

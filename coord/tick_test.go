@@ -221,21 +221,12 @@ func TestView(t *testing.T) {
 	})
 }
 
-// spoil spoils all of a view, with its room.
-func spoil(v coord.View) {
-	for _, x := range v.Txns {
-		check.SpoilTxn(x)
-	}
-	check.Spoil(v.Txns, txn.Txn{Tx: -1})
-	check.Spoil(v.Trace, api.Event{Kind: -1})
-}
-
 func TestWhatIsToldIsNewMemory(t *testing.T) {
 	check.Both(func(c api.Config) {
 		c.Lease, c.Resend = 3, 1
 		for _, o := range some(t, c) {
 			want := of(o) // views may be of one memory, a text isn't
-			if spoil(o.View()); of(o) != want {
+			if check.SpoilCoord(o.View()); of(o) != want {
 				t.Errorf("it has\n%s, behind\n%s", of(o), want)
 			}
 			for range 5 {
@@ -257,19 +248,19 @@ func TestNoTwoListsOfAViewShareAny(t *testing.T) {
 	check.Both(func(c api.Config) {
 		for _, o := range some(t, c) {
 			v, want := o.View(), o.View()
-			told := text(want)
+			told := check.Coord(want)
 			for i, x := range v.Txns {
 				if check.SpoilTxn(x); !check.IsSpoiled(x) {
 					t.Errorf("%s", check.Txn(x))
 				}
 				v.Txns[i] = want.Txns[i]
-				if text(v) != told {
-					t.Errorf("it is\n%s, want\n%s", text(v), told)
+				if check.Coord(v) != told {
+					t.Errorf("it is\n%s, want\n%s", check.Coord(v), told)
 				}
 			}
 			check.Spoil(v.Trace, api.Event{Kind: -1})
-			if text(want) != told {
-				t.Errorf("it is\n%s, want\n%s", text(want), told)
+			if check.Coord(want) != told {
+				t.Errorf("it is\n%s, want\n%s", check.Coord(want), told)
 			}
 		}
 	})

@@ -42,11 +42,11 @@ func (w *town) does(t *testing.T, d move) {
 	after := w.o.View()
 	w.way = append(w.way, sent...)
 	if broken := flaw(before, after, d); broken != "" {
-		t.Errorf("%s: %s, of %s", broken, d.text(), text(before))
+		t.Errorf("%s: %s, of %s", broken, d.text(), check.Coord(before))
 	}
 	for i, x := range before.Txns {
 		if !decided(x) && after.Txns[i].Reason == txn.ByWound && !w.waitsFor(before, x.Tx) {
-			t.Errorf("%d is wounded, for whom no elder one waited, of %s", x.Tx, text(before))
+			t.Errorf("%d is wounded, for whom no elder one waited, of %s", x.Tx, check.Coord(before))
 		}
 	}
 }

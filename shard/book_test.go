@@ -275,7 +275,7 @@ func (b *book) view() shard.View {
 func (b *book) key() string {
 	v := b.view()
 	v.Time, v.Log = b.time%b.c.Resend, nil
-	all := []string{text(v)}
+	all := []string{check.Shard(v)}
 	for _, tx := range v.Leases {
 		all = append(all, strconv.Itoa(b.time-b.leases[tx]))
 	}

@@ -1,9 +1,6 @@
 package shard_test
 
 import (
-	"slices"
-	"strconv"
-	"strings"
 	"testing"
 
 	"catchbolt/api"
@@ -16,7 +13,7 @@ import (
 const here = 3
 
 // states are the states' names, by their numbers.
-var states = []string{"Fresh", "Active", "Prepared", "Expired", "Committed", "Aborted"}
+var states = check.States()
 
 // mixed are transactions that don't rise; as texts they would stand in another order, too.
 var mixed = []int{100, 9, 1048576, 10, 1, 2, 65536, 99, 65537, 1000, 256}
@@ -61,63 +58,14 @@ func probing(next api.Step, steps ...api.Step) api.Msg {
 	return m
 }
 
-// text is all that a view has, as a text, without what it has nothing of: "time 2; states 5=Active; leases 5; book 5; held 3:5X; log 3:5.1X".
-func text(v shard.View) string {
-	var all []string
-	add := func(name, text string) {
-		if text != "" {
-			all = append(all, name+" "+text)
-		}
-	}
-	if v.Time != 0 {
-		add("time", strconv.Itoa(v.Time))
-	}
-	add("states", stated(v.States))
-	add("leases", numbers(v.Leases))
-	add("book", numbers(v.Book))
-	add("edges", check.Edged(v.Edges))
-	add("held", check.Granted(v.Held))
-	add("waits", check.Granted(v.Waits))
-	add("log", check.Granted(v.Log))
-	return strings.Join(all, "; ")
-}
-
-// stated are states as a text.
-func stated(l []shard.State) string {
-	var all []string
-	for _, s := range l {
-		name := "?" + strconv.Itoa(s.State)
-		if s.State >= 0 && s.State < len(states) {
-			name = states[s.State]
-		}
-		all = append(all, strconv.Itoa(s.Tx)+"="+name)
-	}
-	return strings.Join(all, " ")
-}
-
-// numbers are numbers as a text.
-func numbers(l []int) string {
-	var all []string
-	for _, n := range l {
-		all = append(all, strconv.Itoa(n))
-	}
-	return strings.Join(all, " ")
-}
-
 // of is all that a shard has, as a text.
-func of(s *shard.Shard) string { return text(s.View()) }
-
-// same says whether two views have the same. Lists that are nil and that are empty are one.
-func same(a, b shard.View) bool {
-	return a.Time == b.Time && slices.Equal(a.States, b.States) && slices.Equal(a.Leases, b.Leases) && slices.Equal(a.Book, b.Book) &&
-		slices.Equal(a.Edges, b.Edges) && slices.Equal(a.Held, b.Held) && slices.Equal(a.Waits, b.Waits) && slices.Equal(a.Log, b.Log)
-}
+func of(s *shard.Shard) string { return check.Shard(s.View()) }
 
 // has checks that a shard has what a view has.
 func has(t *testing.T, s *shard.Shard, want shard.View) {
 	t.Helper()
-	if got := s.View(); !same(got, want) {
-		t.Errorf("it has\n%s, want\n%s", text(got), text(want))
+	if got := s.View(); !check.SameShard(got, want) {
+		t.Errorf("it has\n%s, want\n%s", check.Shard(got), check.Shard(want))
 	}
 }
 

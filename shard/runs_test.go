@@ -258,7 +258,7 @@ func sound(t *testing.T, s *shard.Shard, m api.Msg) {
 	}
 	for _, broken := range []string{unsound(after), lost(before, after), unhurt(sent, views...)} {
 		if broken != "" {
-			t.Errorf("%s: by %s, of\n%s, that is\n%s now", broken, check.Sent([]api.Msg{m}), text(before), text(after))
+			t.Errorf("%s: by %s, of\n%s, that is\n%s now", broken, check.Sent([]api.Msg{m}), check.Shard(before), check.Shard(after))
 		}
 	}
 	fromHere(t, sent)

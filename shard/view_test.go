@@ -37,7 +37,7 @@ func TestViewOfAllInOrder(t *testing.T) {
 			"edges 1.20>100.20 1.20>256 5.3>20 20.3>300 21.1>1.20 21.1>100.20 100.20>1 100.20>9 100.20>10 100.20>99 100.20>256 100.20>65536 100.20>65537 100.20>1048576 300.3>5.3 300.3>20; " +
 			"held 3:100IS 3:9IS 3:1048576IS 3:10IS 3:1IS 3:65536IS 3:99IS 3:65537IS 3:256IX 20:300IX 20:20IX 20:5IX 20.3:20X 20.20:5X 20.100:300X; " +
 			"waits 3:100.20X 3:1.20S 3:21.1IS 20.3:5.3S 20.3:300.3S 20.100:20.3S"
-		if got := text(v); got != want {
+		if got := check.Shard(v); got != want {
 			t.Errorf("it has\n%s, want\n%s", got, want)
 		}
 		check.Stop(t)
@@ -90,28 +90,17 @@ func TestTellingChangesNothing(t *testing.T) {
 	})
 }
 
-// spoil changes all of a view, and what is behind it in its room.
-func spoil(v shard.View) {
-	check.Spoil(v.States, shard.State{Tx: -1, State: -1})
-	check.Spoil(v.Leases, -1)
-	check.Spoil(v.Book, -1)
-	check.Spoil(v.Edges, api.Edge{From: -1, Seq: -1, To: -1, ToSeq: -1})
-	check.Spoil(v.Held, api.Grant{Tx: -1, Seq: -1})
-	check.Spoil(v.Waits, api.Grant{Tx: -1, Seq: -1})
-	check.Spoil(v.Log, api.Grant{Tx: -1, Seq: -1})
-}
-
 func TestWhatViewToldMayBeChanged(t *testing.T) {
 	check.Both(func(c api.Config) {
 		s := many(t, c.Probe)
 		before := of(s)
 		for range 3 {
-			spoil(s.View())
+			check.SpoilShard(s.View())
 			tells(t, s, before)
 		}
 		sends(t, s, decide(5, 1), "ack 5, "+grantedByMany)
 		before = of(s)
-		spoil(s.View())
+		check.SpoilShard(s.View())
 		tells(t, s, before)
 	})
 }
@@ -130,13 +119,13 @@ func TestWhatWasToldStaysAsItWas(t *testing.T) {
 	check.Both(func(c api.Config) {
 		s := many(t, c.Probe)
 		v := s.View()
-		want := text(v)
+		want := check.Shard(v)
 		for tx := 1; tx < 20; tx++ {
 			s.Handle(decide(tx, tx%2))
 			s.Handle(lock(30+tx, 1, "3", api.S))
 			s.Tick()
 		}
-		if got := text(v); got != want {
+		if got := check.Shard(v); got != want {
 			t.Errorf("what was told is\n%s, want\n%s", got, want)
 		}
 	})
