@@ -252,6 +252,23 @@ func TestConfigs(t *testing.T) {
 	}
 }
 
+func TestBeginnings(t *testing.T) {
+	met := map[api.Errno]int{}
+	check.Beginnings(func(c api.Config, clients int, want api.Errno) {
+		met[want]++
+		bad := false
+		for _, f := range check.Fields() {
+			bad = bad || outside(*f.Of(&c), 1, f.Most)
+		}
+		if bad != (want == api.ErrConfig) || !bad && outside(clients, 1, 8) != (want == api.ErrRange) {
+			t.Errorf("%+v, %d: %v", c, clients, want)
+		}
+	})
+	if len(met) != 3 || met[api.OK] != 2*(8+6*4) || met[api.ErrRange] < 1000 || met[api.ErrConfig] < 1000 {
+		t.Error(met)
+	}
+}
+
 func TestEdges(t *testing.T) {
 	same(t, check.Edged(check.Edges())+check.Edged(check.Row())+check.Edged(check.Row(7)), "")
 	same(t, check.Edged(check.Edges(1, 2, 3, -1)), "1.1000>2 3.998>-1.2")

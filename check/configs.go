@@ -44,3 +44,30 @@ func (f Field) Wrong() []int {
 	all = append(all, WrongNumbers()...)
 	return slices.DeleteFunc(all, func(n int) bool { return n >= 1 && n <= f.Most })
 }
+
+// Beginnings calls f with configs and numbers of clients, at the edges of both and far beyond them, and with the error that whatever is made by both tells first; OK is none.
+func Beginnings(f func(c api.Config, clients int, want api.Errno)) {
+	Both(func(c api.Config) {
+		for _, n := range UpTo(1, api.MaxClients) {
+			f(c, n, api.OK)
+		}
+		for _, n := range FarFrom(1, api.MaxClients) {
+			f(c, n, api.ErrRange)
+		}
+		for _, field := range Fields() {
+			one := c
+			for _, n := range []int{1, 2, field.Most - 1, field.Most} {
+				*field.Of(&one) = n
+				f(one, 8, api.OK)
+				f(one, 9, api.ErrRange)
+			}
+			for _, n := range field.Wrong() {
+				*field.Of(&one) = n
+				for _, clients := range []int{1, 0, 9} {
+					f(one, clients, api.ErrConfig)
+				}
+			}
+		}
+	})
+	f(api.Config{}, math.MinInt, api.ErrConfig)
+}

@@ -1,7 +1,6 @@
 package coord_test
 
 import (
-	"math"
 	"slices"
 	"testing"
 
@@ -49,36 +48,8 @@ func noClients(many int) []int {
 	return slices.DeleteFunc(all, func(n int) bool { return n >= 1 && n <= many })
 }
 
-func TestNewOfEachNumberOfClients(t *testing.T) {
-	check.Both(func(c api.Config) {
-		for n := 1; n <= 8; n++ {
-			isMade(t, c, n, api.OK)
-		}
-		for _, n := range noClients(8) {
-			isMade(t, c, n, api.ErrRange)
-		}
-	})
-}
-
-func TestNewOfEachConfig(t *testing.T) {
-	check.Both(func(c api.Config) {
-		for _, f := range check.Fields() {
-			for _, n := range []int{1, 2, f.Most - 1, f.Most} {
-				one := c
-				*f.Of(&one) = n
-				isMade(t, one, 8, api.OK)
-				isMade(t, one, 9, api.ErrRange)
-			}
-			for _, n := range f.Wrong() {
-				one := c
-				*f.Of(&one) = n
-				isMade(t, one, 1, api.ErrConfig)
-				isMade(t, one, 0, api.ErrConfig) // ahead of ErrRange
-				isMade(t, one, 9, api.ErrConfig)
-			}
-		}
-	})
-	isMade(t, api.Config{}, math.MinInt, api.ErrConfig)
+func TestNew(t *testing.T) {
+	check.Beginnings(func(c api.Config, clients int, want api.Errno) { isMade(t, c, clients, want) })
 }
 
 // begun checks that a client begins a transaction of that number.
